@@ -1,0 +1,164 @@
+"""Ways and standings of a box, what may be asked at them, and how it is answered: nothing is checked here."""
+
+from itertools import combinations
+
+from allcalls.boxes import has_switch, is_lot
+from allcalls.counts import is_of, is_pair_of_sides, no_wires, one_more, pair_place, side_pairs
+from allcalls.errors import TooMany
+from allcalls.kinds import is_tuple_of
+
+MOST_STANDINGS = 5000
+
+
+def is_way_of(box, thing):
+    """Whether any value is a way of the box."""
+    if not is_lot(box, thing):
+        return False
+    taken = {}
+    for low, high in thing:
+        if low in taken or high in taken:
+            return False
+        taken[low] = True
+        taken[high] = True
+    return True
+
+
+def load_of(sides, way):
+    """The load of a way: how many of its switches lie between each pair of sides."""
+    numbers = [0] * len(side_pairs(sides))
+    for (side, _), (far, _) in way:
+        numbers[pair_place(sides, side, far)] += 1
+    return tuple(numbers)
+
+
+def is_standing_of(box, frame, thing):
+    """Whether any value is a standing of the box and the frame."""
+    return is_way_of(box, thing) and is_of(frame, load_of(box.sides, thing))
+
+
+def pins_of(way):
+    """The dict of all pins of a way's switches."""
+    taken = {}
+    for low, high in way:
+        taken[low] = True
+        taken[high] = True
+    return taken
+
+
+def ways_among(sides, switches, frame, most):
+    """The ascending list of the ways of these ascending switches, whose loads are of the frame if it is not None.
+
+    TooMany(most) if there are more.
+    """
+    found = []
+    fits = {}
+    rest = [((), 0, no_wires(sides))]
+    while rest:
+        way, start, load = rest.pop()
+        found.append(way)
+        if len(found) > most:
+            raise TooMany(most)
+        taken = pins_of(way)
+        for k in range(len(switches) - 1, start - 1, -1):
+            low, high = switches[k]
+            if low in taken or high in taken:
+                continue
+            more = one_more(sides, load, (low[0], high[0]))
+            if more not in fits:
+                fits[more] = frame is None or is_of(frame, more)
+            if fits[more]:
+                rest.append((way + (switches[k],), k + 1, more))
+    return found
+
+
+def all_standings(box, frame):
+    """The ascending list of all standings of a box and a frame that were checked before."""
+    return ways_among(box.sides, box.switches, frame, MOST_STANDINGS)
+
+
+def pairs_wanted(sides, frame, load):
+    """The ascending list of the pairs of sides between which one wire more is of the frame."""
+    return [pair for pair in side_pairs(sides) if is_of(frame, one_more(sides, load, pair))]
+
+
+def askings_at(box, frame, standing):
+    """The ascending list of all askings at a standing."""
+    wanted = pairs_wanted(box.sides, frame, load_of(box.sides, standing))
+    return [("end", switch) for switch in standing] + [("want", pair) for pair in wanted]
+
+
+def is_asking_at(box, frame, standing, thing):
+    """Whether any value is an asking at the standing."""
+    if not is_tuple_of(thing, 2) or not isinstance(thing[0], str):
+        return False
+    if thing[0] == "end":
+        return has_switch(box, thing[1]) and thing[1] in standing
+    if thing[0] != "want" or not is_pair_of_sides(box.sides, thing[1]):
+        return False
+    return is_of(frame, one_more(box.sides, load_of(box.sides, standing), thing[1]))
+
+
+def less(way, switch):
+    """The way without the switch."""
+    return tuple([wire for wire in way if wire != switch])
+
+
+def free_between(box, way, pair):
+    """The ascending list of the switches between the two sides that are free at a way."""
+    taken = pins_of(way)
+    found = []
+    for low, high in box.switches:
+        if low[0] == pair[0] and high[0] == pair[1] and low not in taken and high not in taken:
+            found.append((low, high))
+    return found
+
+
+def fillings(labels, choices, most):
+    """All tuples of one switch of each list of choices, no two of which meet.
+
+    Lists whose labels, one behind the other, are equal are the same; their switches are taken ascending. At most so
+    many tuples are told, if most is not None.
+    """
+    found = []
+    rest = [((), 0)]
+    while rest and (most is None or len(found) < most):
+        chosen, start = rest.pop()
+        at = len(chosen)
+        if at == len(choices):
+            found.append(chosen)
+            continue
+        taken = pins_of(chosen)
+        again = at + 1 < len(choices) and labels[at + 1] == labels[at]
+        for k in range(start, len(choices[at])):
+            low, high = choices[at][k]
+            if low not in taken and high not in taken:
+                rest.append((chosen + (choices[at][k],), k + 1 if again else 0))
+    return found
+
+
+def moved_to(box, standing, gone, pair, most):
+    """The answers to a want in which just the switches in gone are missing: at most so many, if most is not None."""
+    kept = tuple([wire for wire in standing if wire not in gone])
+    wanted = sorted([(low[0], high[0]) for low, high in gone] + [pair])
+    # What is missing is moved: it does not come again on its own switch.
+    choices = [[wire for wire in free_between(box, kept, two) if wire not in gone] for two in wanted]
+    return [tuple(sorted(kept + chosen)) for chosen in fillings(wanted, choices, most)]
+
+
+def want_answers(box, moves, standing, pair, most):
+    """The answers to a want, in no order: at most so many of them, if most is not None."""
+    wires = list(standing)
+    found = []
+    for many in range(min(moves, len(wires)) + 1):
+        for gone in combinations(wires, many):
+            found.extend(moved_to(box, standing, gone, pair, None if most is None else most - len(found)))
+            if most is not None and len(found) >= most:
+                return found
+    return found
+
+
+def answers_to(box, moves, standing, asking, most):
+    """The answers to an asking at the standing, in no order: at most so many of them, if most is not None."""
+    if asking[0] == "end":
+        return [less(standing, asking[1])]
+    return want_answers(box, moves, standing, asking[1], most)

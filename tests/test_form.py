@@ -1,0 +1,208 @@
+"""The form of the code: the rules that can be seen by looking at the files, and where the interface stands."""
+
+import ast
+import builtins
+import unittest
+from pathlib import Path
+
+PACKAGE = Path(__file__).resolve().parent.parent / "allcalls"
+
+INTERFACE = {
+    "boxes": "Box plain crossed full beside without pieces",
+    "frames": "is_load is_frame greatest_loads is_way way_load is_standing standings askings answers",
+    "loads": "way_for is_way_for piece_loads box_frame bar is_bar",
+    "wholes": "missing whole_paper is_whole_paper",
+    "splits": "side_sums triangle_sums plain_need plain_split plain_bar is_plain_split crossed_split"
+              " is_crossed_split mates_way",
+    "keepings": "is_keeping greatest_keeping strategy is_strategy",
+    "dooms": "is_doom doom bait lost least_moves moves_paper is_moves_paper common_standings common_papers"
+             " are_common_papers",
+    "stricts": "first_stuck is_stuck blocking_tree is_blocking_tree",
+    "rules": "rule_standings rule_fails is_rule_paper good_rule grade",
+    "seats": "is_seating seatings seated calls call_rows call_answers",
+}
+
+# The interface's modules and, among them, those that are the program's own, each behind all that it imports from.
+ORDER = """errors kinds boxes counts ways frames reach loads wholes splits games keepings dooms stricts rules seats"""
+
+LIBRARY = {"itertools": {"combinations", "permutations"}}
+
+BUILTINS = """len range enumerate zip min max sum abs sorted reversed int str bool list tuple dict isinstance
+ValueError""".split()
+
+METHODS = """append count endswith extend find get index insert items join keys pop remove replace setdefault split
+startswith strip update values""".split()
+
+BARRED_WORDS = """type typing typing_extensions enum Enum IntEnum StrEnum Flag IntFlag Generic Protocol ABC ABCMeta
+namedtuple NamedTuple TypedDict TYPE_CHECKING abstractmethod""".split()
+
+BARRED_NAMES = """register mro elements open input law version_info with_traceback add_note attrgetter breakpoint
+builtins compile copyright credits delattr dir eval exec exit gc getattr globals hasattr help id importlib license
+locals methodcaller os quit setattr super type vars sys""".split()
+
+BARRED_NODES = (
+    ast.Global, ast.AsyncFunctionDef, ast.Await, ast.Set, ast.SetComp, ast.GeneratorExp, ast.Yield, ast.YieldFrom,
+    ast.Div, ast.Pow, ast.AnnAssign, ast.Try, ast.With, ast.Match, ast.Delete,
+)
+
+
+def files():
+    return sorted(PACKAGE.glob("*.py"))
+
+
+def tree_of(path):
+    return ast.parse(path.read_text(encoding="utf-8"))
+
+
+def functions(tree):
+    return [node for node in ast.walk(tree) if isinstance(node, ast.FunctionDef)]
+
+
+class Form(unittest.TestCase):
+    def test_folder(self):
+        for path in PACKAGE.iterdir():
+            if path.name != "__pycache__":
+                self.assertEqual(path.suffix, ".py", path)
+        self.assertEqual((PACKAGE / "__init__.py").read_text().strip(), "")
+        self.assertEqual({path.stem for path in files()}, set(ORDER.split()) | {"__init__"})
+
+    def test_size_and_characters(self):
+        for path in files():
+            text = path.read_bytes()
+            self.assertTrue(all(code == 10 or 32 <= code <= 126 for code in text), path)
+            lines = text.decode().split("\n")
+            self.assertLessEqual(len(lines), 400, path)
+            for line in lines:
+                self.assertLessEqual(len(line), 120, (path, line))
+                self.assertEqual(line, line.rstrip(), path)
+            for function in functions(tree_of(path)):
+                self.assertLessEqual(function.end_lineno - function.lineno + 1, 40, function.name)
+
+    def test_module_level(self):
+        for path in files():
+            for k, node in enumerate(tree_of(path).body):
+                doc = k == 0 and isinstance(node, ast.Expr) and isinstance(node.value, ast.Constant)
+                plain = isinstance(node, ast.Assign) and isinstance(node.value, ast.Constant)
+                kinds = isinstance(node, (ast.ImportFrom, ast.FunctionDef, ast.ClassDef))
+                self.assertTrue(doc or plain or kinds, (path, node.lineno))
+
+    def test_imports(self):
+        order = ORDER.split()
+        for path in files():
+            tree = tree_of(path)
+            inner = [node for node in ast.walk(tree) if isinstance(node, (ast.Import, ast.ImportFrom))]
+            self.assertEqual(inner, [node for node in tree.body if isinstance(node, ast.ImportFrom)], path)
+            for node in inner:
+                names = {alias.name for alias in node.names}
+                self.assertTrue(all(alias.asname is None for alias in node.names))
+                if node.module in LIBRARY:
+                    self.assertLessEqual(names, LIBRARY[node.module])
+                    continue
+                package, module = node.module.split(".")
+                self.assertEqual((package, node.level), ("allcalls", 0))
+                self.assertLess(order.index(module), order.index(path.stem), path)
+                own = tree_of(PACKAGE / (module + ".py")).body
+                made = {item.name for item in own if isinstance(item, (ast.FunctionDef, ast.ClassDef))}
+                made |= {item.targets[0].id for item in own if isinstance(item, ast.Assign)}
+                self.assertLessEqual(names, made, path)
+
+    def test_nothing_is_imported_in_vain(self):
+        for path in files():
+            tree = tree_of(path)
+            used = {node.id for node in ast.walk(tree) if isinstance(node, ast.Name)}
+            for node in tree.body:
+                if isinstance(node, ast.ImportFrom):
+                    self.assertLessEqual({alias.name for alias in node.names}, used, path)
+
+    def test_interface(self):
+        for module, names in INTERFACE.items():
+            body = tree_of(PACKAGE / (module + ".py")).body
+            made = {node.name for node in body if isinstance(node, (ast.FunctionDef, ast.ClassDef))}
+            self.assertLessEqual(set(names.split()), made)
+
+    def test_names(self):
+        for path in files():
+            tree = tree_of(path)
+            fixed = {node.name for node in tree.body if isinstance(node, ast.ClassDef)}
+            top = [node.name for node in tree.body if isinstance(node, (ast.FunctionDef, ast.ClassDef))]
+            for node in tree.body:
+                if isinstance(node, ast.ImportFrom):
+                    fixed |= {alias.name for alias in node.names}
+                    top += [alias.name for alias in node.names]
+                if isinstance(node, ast.Assign):
+                    top += [target.id for target in node.targets]
+            self.assertEqual(len(top), len(set(top)), path)
+            local = {node.arg for node in ast.walk(tree) if isinstance(node, ast.arg)}
+            stores = [node for node in ast.walk(tree) if isinstance(node, ast.Name)]
+            local |= {node.id for node in stores if isinstance(node.ctx, ast.Store)}
+            self.assertFalse(local & fixed, (path, local & fixed))
+            mine = local | set(top)
+            self.assertFalse(mine & set(dir(builtins)), (path, mine & set(dir(builtins))))
+            self.assertFalse(mine & set(BARRED_NAMES), path)
+            self.assertFalse([name for name in mine if name.startswith("_") and name != "_"], path)
+
+    def test_builtins_and_methods(self):
+        own = set()
+        for path in files():
+            own |= {node.name for node in functions(tree_of(path))}
+        for path in files():
+            tree = tree_of(path)
+            used = {node.id for node in ast.walk(tree) if isinstance(node, ast.Name)} & set(dir(builtins))
+            self.assertLessEqual(used, set(BUILTINS), path)
+            for node in ast.walk(tree):
+                if isinstance(node, ast.Call) and isinstance(node.func, ast.Attribute):
+                    self.assertIn(node.func.attr, METHODS + ["__init__"], (path, node.lineno))
+                if isinstance(node, ast.Call):
+                    names = {word.arg for word in node.keywords}
+                    self.assertLessEqual(names, {"key", "reverse"}, (path, node.lineno))
+
+    def test_nodes(self):
+        for path in files():
+            for node in ast.walk(tree_of(path)):
+                self.assertNotIsInstance(node, BARRED_NODES, (path, getattr(node, "lineno", None)))
+                if isinstance(node, (ast.FunctionDef, ast.ClassDef)):
+                    self.assertFalse(node.decorator_list)
+                    self.assertTrue(ast.get_docstring(node) or node.name.startswith("__"), (path, node.name))
+                if isinstance(node, ast.FunctionDef):
+                    inner = [one for one in ast.walk(node) if isinstance(one, ast.FunctionDef)]
+                    self.assertEqual(len(inner), 1, (path, node.name))
+                    self.assertFalse(node.args.defaults or node.args.vararg or node.args.kwarg)
+                if isinstance(node, ast.Constant):
+                    self.assertNotIsInstance(node.value, (float, bytes, complex))
+                if isinstance(node, ast.Compare):
+                    for sign, other in zip(node.ops, node.comparators):
+                        if isinstance(sign, (ast.Is, ast.IsNot)):
+                            self.assertIsInstance(other, ast.Constant, (path, node.lineno))
+
+    def test_strings(self):
+        for path in files():
+            tree = tree_of(path)
+            docs = set()
+            for node in ast.walk(tree):
+                if isinstance(node, (ast.Module, ast.FunctionDef, ast.ClassDef)) and ast.get_docstring(node):
+                    docs.add(id(node.body[0].value))
+            for node in ast.walk(tree):
+                if isinstance(node, ast.Constant) and isinstance(node.value, str):
+                    self.assertNotIn("%", node.value)
+                    self.assertNotIn("\\", node.value)
+                    if id(node) not in docs:
+                        self.assertFalse(set(node.value.split()) & set(BARRED_WORDS), (path, node.lineno))
+                if isinstance(node, (ast.Name, ast.arg, ast.Attribute)):
+                    word = getattr(node, "id", None) or getattr(node, "arg", None) or getattr(node, "attr", None)
+                    self.assertNotIn(word, BARRED_WORDS)
+
+    def test_loops_leave_what_they_go_over(self):
+        changing = {"append", "extend", "insert", "pop", "remove", "setdefault", "update"}
+        for path in files():
+            for loop in ast.walk(tree_of(path)):
+                if not isinstance(loop, ast.For):
+                    continue
+                over = {ast.dump(node) for node in ast.walk(loop.iter) if isinstance(node, (ast.Name, ast.Attribute))}
+                for node in ast.walk(loop):
+                    if isinstance(node, ast.Call) and isinstance(node.func, ast.Attribute):
+                        if node.func.attr in changing:
+                            self.assertNotIn(ast.dump(node.func.value), over, (path, node.lineno))
+
+
+if __name__ == "__main__":
+    unittest.main()

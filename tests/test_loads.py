@@ -1,0 +1,227 @@
+"""Points 20 and 21: ways and bars."""
+
+import random
+import unittest
+
+from allcalls.boxes import Box, beside, crossed, full, pieces, plain
+from allcalls.errors import BadBox, BadLoad, BadPiece
+from allcalls.frames import is_way, way_load
+from allcalls.loads import bar, box_frame, is_bar, is_way_for, piece_loads, way_for
+from tests.helpers import (any_values, anew, count_load, every_load, every_way, listed, pairs_of, refuse, some_box,
+                           too_many, under, untrue)
+from tests.test_frames import tree_box
+
+A = ((0, 0), (1, 0))
+B = ((0, 1), (1, 1))
+P = [(0, 0, 1), (0, 1, 0), (1, 0, 0)]
+Q = [(0, 0, 2), (0, 1, 1), (0, 2, 0), (1, 0, 1), (1, 1, 0), (2, 0, 0)]
+
+# Boxes whose pieces have just 1000 and 1001 greatest sums.
+SUMS_1000 = Box(5, 6, (
+    ((0, 0), (4, 0)), ((0, 1), (2, 1)), ((0, 1), (4, 1)), ((0, 2), (1, 2)), ((0, 2), (2, 2)), ((0, 2), (3, 2)),
+    ((0, 3), (1, 3)), ((0, 3), (4, 3)), ((0, 5), (1, 5)), ((0, 5), (2, 5)), ((0, 5), (3, 5)), ((0, 5), (4, 5)),
+    ((1, 1), (3, 1)), ((1, 2), (4, 2)), ((1, 3), (2, 3)), ((1, 3), (3, 3)), ((1, 4), (2, 4)), ((1, 4), (3, 4)),
+    ((1, 5), (4, 5)), ((2, 1), (3, 1)), ((2, 1), (4, 1)), ((2, 2), (3, 2)), ((2, 3), (3, 3)), ((2, 3), (4, 3)),
+    ((3, 0), (4, 0)), ((3, 3), (4, 3))))
+
+SUMS_1001 = Box(5, 4, (
+    ((0, 0), (2, 0)), ((0, 0), (3, 0)), ((0, 1), (1, 1)), ((0, 1), (4, 1)), ((0, 2), (2, 2)), ((0, 2), (3, 2)),
+    ((0, 3), (2, 3)), ((0, 3), (3, 3)), ((0, 3), (4, 3)), ((1, 0), (2, 0)), ((1, 0), (3, 0)), ((1, 0), (4, 0)),
+    ((1, 1), (2, 1)), ((1, 1), (4, 1)), ((1, 2), (3, 2)), ((1, 2), (4, 2)), ((1, 3), (2, 3)), ((1, 3), (4, 3)),
+    ((2, 0), (4, 0)), ((2, 1), (3, 1)), ((2, 1), (4, 1)), ((2, 3), (3, 3)), ((2, 3), (4, 3)), ((3, 0), (4, 0)),
+    ((3, 1), (4, 1)), ((3, 2), (4, 2)), ((3, 3), (4, 3))))
+
+
+def tops(loads):
+    """Those of the loads that are below no other one, ascending."""
+    loads = set(loads)
+    return sorted(load for load in loads if not any(load != other and under(load, other) for other in loads))
+
+
+def loads_of_ways(box):
+    return [count_load(box.sides, way) for way in every_way(box)]
+
+
+def sums(one, other):
+    return [tuple(x + y for x, y in zip(low, high)) for low in one for high in other]
+
+
+class Ways(unittest.TestCase):
+    def test_way_for(self):
+        self.assertEqual(way_for(plain(2, 1), (1,)), (A,))
+        self.assertEqual(way_for(plain(2, 2), (0,)), ())
+        self.assertIsNone(way_for(plain(2, 2), (3,)))
+        self.assertIsNone(way_for(plain(3, 2), (1, 1, 1)))
+        self.assertEqual(way_load(crossed(3, 2), way_for(crossed(3, 2), (1, 1, 1))), (1, 1, 1))
+        self.assertEqual(way_for(Box(3, 2, ()), (0, 0, 0)), ())
+        self.assertIsNone(way_for(Box(3, 2, ()), (0, 0, 1)))
+        self.assertIsNone(way_for(plain(5, 3), (99,) * 10))
+
+    def test_some_ways_and_bars(self):
+        rnd = random.Random(20)
+        for _ in range(60):
+            box = some_box(rnd, rnd.randint(2, 4), rnd.randint(1, 3), 9)
+            carried = set(loads_of_ways(box))
+            self.assertEqual(box_frame(box), tuple(tops(carried)))
+            for load in rnd.sample(every_load(box.sides, 2), 3) + rnd.sample(sorted(carried), 1):
+                way, held = way_for(box, load), bar(box, load)
+                if load in carried:
+                    self.assertTrue(is_way(box, way))
+                    self.assertEqual(count_load(box.sides, way), load)
+                    self.assertIs(is_way_for(box, load, way), True)
+                    self.assertIsNone(held)
+                else:
+                    self.assertIsNone(way)
+                    self.assertIs(is_bar(box, load, held), True)
+
+    def test_is_way_for(self):
+        box = plain(3, 2)
+        right = (A, B)
+        self.assertIs(is_way_for(box, (2, 0, 0), right), True)
+        self.assertIs(is_way_for(box, (0, 0, 0), ()), True)
+        self.assertIs(is_way_for(box, (1, 0, 0), right), False)
+        for thing in [(A,), (B, A), (A, A), [A, B], (A, None)] + untrue(right) + listed(right) + any_values():
+            self.assertIs(is_way_for(box, (2, 0, 0), thing), False)
+        # The pieces of this box have too many ways, but a way is judged without them.
+        self.assertIs(is_way_for(full(5, 6), (1,) + (0,) * 9, (A,)), True)
+
+    def test_refusals(self):
+        box = plain(3, 2)
+        wrong = [(1, 1), (0, 0, 100), (0, 0, -1), [0, 0, 1], (0, 0, 0, 1), ((0, 0, 1),)] + untrue((1, 0, 1))
+        for function in (way_for, bar):
+            refuse(self, function, [box, (1, 1, 1)], [BadBox, BadLoad], {1: wrong})
+        for function in (is_way_for, is_bar):
+            refuse(self, function, [box, (1, 1, 1), None], [BadBox, BadLoad, None], {1: wrong})
+        refuse(self, box_frame, [box], [BadBox])
+
+
+class Pieces(unittest.TestCase):
+    def test_piece_loads(self):
+        box = plain(3, 2)
+        for piece in pieces(box):
+            self.assertEqual(piece_loads(box, piece), tuple(P))
+        self.assertEqual(piece_loads(plain(5, 1), pieces(plain(5, 1))[0]), tuple(tops(loads_of_ways(plain(5, 1)))))
+        self.assertEqual(piece_loads(full(3, 2), pieces(full(3, 2))[0]), ((0, 0, 2), (0, 2, 0), (1, 1, 1), (2, 0, 0)))
+
+    def test_some_piece_loads(self):
+        rnd = random.Random(21)
+        for _ in range(40):
+            box = some_box(rnd, rnd.randint(2, 5), rnd.randint(1, 3), 9)
+            for piece in pieces(box):
+                part = Box(box.sides, box.tracks, tuple(wire for wire in box.switches if wire[0] in piece))
+                self.assertEqual(piece_loads(box, piece), tuple(tops(loads_of_ways(part))))
+
+    def test_wrong_pieces(self):
+        box = plain(3, 2)
+        piece = pieces(box)[0]
+        wrong = [piece[:2], list(piece), piece[::-1], piece + piece, ((0, 0),), (), ((0, 0), (1, 1), (2, 0)),
+                 ((0, 5), (1, 5), (2, 5))] + untrue(piece) + listed(piece)
+        refuse(self, piece_loads, [box, piece], [BadBox, BadPiece], {1: wrong})
+        for thing in ((), ((0, 0), (1, 0)), None):
+            with self.assertRaises(BadPiece):
+                piece_loads(full(5, 6), thing)
+
+    def test_too_many_ways(self):
+        just, more = tree_box(20000), tree_box(20001)
+        zero = (0,) * 10
+        self.assertEqual(len(pieces(just)), 1)
+        self.assertTrue(piece_loads(just, pieces(just)[0]))
+        self.assertEqual(way_for(just, zero), ())
+        self.assertIsNone(bar(just, zero))
+        self.assertTrue(box_frame(just))
+        self.assertIs(is_bar(just, zero, []), False)
+        too_many(self, 20000, piece_loads, more, pieces(more)[0])
+        for function in (way_for, bar):
+            too_many(self, 20000, function, more, zero)
+        for thing in (None, [], [[zero], [zero]]):
+            too_many(self, 20000, is_bar, more, zero, thing)
+        too_many(self, 20000, box_frame, more)
+        with self.assertRaises(BadLoad):
+            way_for(more, zero + (0,))
+
+    def test_only_the_own_piece_counts(self):
+        great = full(3, 4)
+        box = beside(plain(3, 1), great)
+        self.assertEqual(piece_loads(box, pieces(box)[0]), tuple(P))
+        too_many(self, 20000, piece_loads, box, pieces(box)[1])
+        too_many(self, 20000, way_for, box, (0, 0, 0))
+
+
+class Frames(unittest.TestCase):
+    def test_box_frame(self):
+        self.assertEqual(box_frame(Box(2, 1, ())), ((0,),))
+        self.assertEqual(box_frame(plain(2, 6)), ((6,),))
+        self.assertEqual(box_frame(plain(3, 2)), tuple(Q))
+
+    def test_too_many_sums(self):
+        zero = (0,) * 10
+        self.assertEqual(len(box_frame(SUMS_1000)), 1000)
+        self.assertEqual(way_for(SUMS_1000, zero), ())
+        self.assertEqual(len(bar(SUMS_1000, (9,) * 10)[-1]), 1000)
+        for box in (SUMS_1001, plain(5, 4), beside(crossed(5, 4), plain(5, 1))):
+            too_many(self, 1000, box_frame, box)
+            too_many(self, 1000, way_for, box, zero)
+            too_many(self, 1000, bar, box, zero)
+            too_many(self, 1000, bar, box, (99,) * 10)
+            self.assertIs(is_bar(box, zero, []), False)
+        # A piece with too many ways is told of first.
+        box = beside(plain(5, 4), full(5, 2))
+        too_many(self, 1000, box_frame, box)
+        box = beside(plain(4, 3), full(4, 3))
+        too_many(self, 20000, box_frame, box)
+
+
+class Bars(unittest.TestCase):
+    def test_example(self):
+        self.assertEqual(bar(plain(3, 2), (1, 1, 1)), [[(0, 0, 0)], P, Q])
+        way = (((0, 0), (1, 1)), ((0, 1), (2, 0)), ((1, 0), (2, 1)))
+        self.assertIs(is_way_for(crossed(3, 2), (1, 1, 1), way), True)
+        self.assertIsNone(bar(crossed(3, 2), (1, 1, 1)))
+        anew(self, bar, plain(3, 2), (1, 1, 1))
+
+    def test_bar_has_the_greatest_sums(self):
+        rnd = random.Random(22)
+        for _ in range(40):
+            box = some_box(rnd, rnd.randint(2, 4), 3, 8)
+            lists = [[(0,) * len(pairs_of(box.sides))]]
+            for piece in pieces(box):
+                lists.append(tops(sums(lists[-1], piece_loads(box, piece))))
+            self.assertEqual(bar(box, (9,) * len(lists[0][0])), lists)
+        self.assertEqual(bar(Box(2, 1, ()), (1,)), [[(0,)]])
+
+    def test_is_bar(self):
+        box, load = plain(3, 2), (1, 1, 1)
+        right = [
+            [[(0, 0, 0)], P, Q], ([(0, 0, 0)], P, Q), [((0, 0, 0),), tuple(P), tuple(Q)], [[(0, 0, 0)], P[::-1], Q + Q],
+            [[(0, 0, 0), (0, 0, 0)], P, Q], [[(0, 0, 0)], P, Q + [(999, 0, 0)]],
+            [[(0, 0, 0)], P, [(0, 2, 2), (2, 0, 2), (2, 2, 0)]], [[(0, 0, 0)], P + [(0, 0, 0)], Q],
+        ]
+        for thing in right:
+            self.assertIs(is_bar(box, load, thing), True, thing)
+        wrong = [
+            [], [[]], [[], [], []], [P, Q], [[(0, 0, 0)], P, Q, Q], [[(0, 0, 0)], P], [[(0, 0, 0)], P, []],
+            [[(0, 0, 0)], P, Q + [(1, 1, 1)]], [[(0, 0, 0)], P, Q[1:]], [[(0, 0, 0)], P[1:], Q],
+            [[(0, 0, 0)], P, Q + [(1000, 0, 0)]], [[(0, 0, 0)], P, Q + [(0, 0, -1)]], [[(0, 0, 0)], P, Q + [(0, 0)]],
+            [[(0, 0, 0)], P, Q + [[0, 0, 0]]], [[(1, 0, 0)], P, Q], [[(0, 0, 0)], P, None], {0: [(0, 0, 0)], 1: P, 2: Q},
+            [[(0, 0, 0)], [(0, 0, 1), (0, 1, 0), (1, 1, 0)], Q], [{(0, 0, 0): 1}, P, Q], [[(0, 0, 0)], P, Q + [None]],
+        ]
+        for thing in wrong + any_values() + untrue([[(0, 0, 0)], P, Q]):
+            self.assertIs(is_bar(box, load, thing), False, thing)
+        for thing in ([[[0, 0, 0]], P, Q], [[(0, 0, 0)], [[0, 0, 1], (0, 1, 0), (1, 0, 0)], Q]):
+            self.assertIs(is_bar(box, load, thing), False)
+        self.assertIs(is_bar(box, (2, 0, 0), [[(0, 0, 0)], P, Q]), False)
+        self.assertIs(is_bar(box, (2, 1, 0), [[(0, 0, 0)], P, Q]), True)
+        # With the first list empty nothing would have to be led on.
+        self.assertIs(is_bar(box, load, [[], P, Q]), False)
+        self.assertIs(is_bar(Box(2, 1, ()), (1,), [[(0,)]]), True)
+        self.assertIs(is_bar(Box(2, 1, ()), (1,), [[(1,)]]), False)
+        self.assertIs(is_bar(Box(2, 1, ()), (0,), [[(0,)]]), False)
+
+    def test_never_both(self):
+        box = crossed(3, 2)
+        for load in every_load(3, 2):
+            self.assertNotEqual(way_for(box, load) is None, bar(box, load) is None)
+
+
+if __name__ == "__main__":
+    unittest.main()
