@@ -154,10 +154,9 @@ def beside(one, other):
     check_box(other)
     if one.sides != other.sides:
         raise OtherSides("the two boxes have equally many sides")
-    tracks = one.tracks + other.tracks
-    check_tracks(tracks, 1)
     switches = list(one.switches) + [shifted(switch, one.tracks) for switch in other.switches]
-    return Box(one.sides, tracks, tuple(sorted(switches)))
+    # A Box refuses too many tracks.
+    return Box(one.sides, one.tracks + other.tracks, tuple(sorted(switches)))
 
 
 def without(box, gone):

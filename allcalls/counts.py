@@ -89,19 +89,19 @@ def sums_at_sides(sides, load):
     return sums
 
 
-def some_below(loads):
-    """Whether one of these different loads is below another one."""
+def greatest(loads, most):
+    """The ascending list of the loads that are below no other one; TooMany(most) for more, if most is not None."""
     groups = {}
     for load in loads:
-        groups.setdefault(sum(load), []).append(load)
-    # Different loads with one sum are never below each other.
-    higher = []
+        groups.setdefault(sum(load), {})[load] = True
+    found = []
+    # Different loads with one sum are never below each other, so each group meets only those with greater sums.
     for total in sorted(groups, reverse=True):
-        for load in groups[total]:
-            if is_of(higher, load):
-                return True
-        higher.extend(groups[total])
-    return False
+        tops = [load for load in groups[total] if not is_of(found, load)]
+        found.extend(tops)
+        if most is not None and len(found) > most:
+            raise TooMany(most)
+    return sorted(found)
 
 
 def is_frame_of(sides, thing):
@@ -111,7 +111,7 @@ def is_frame_of(sides, thing):
     for load in thing:
         if not is_load_of(sides, load):
             return False
-    return rises(thing) and not some_below(thing)
+    return rises(thing) and len(greatest(list(thing), None)) == len(thing)
 
 
 def let_loads(sides, tracks, most):

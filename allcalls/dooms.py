@@ -176,12 +176,17 @@ def common_in(table, links, kept):
     return common
 
 
-def common_standings(box, frame, moves):
-    """The ascending list of the standings that every keeping has; None if there is no keeping."""
+def kept_game(box, frame, moves):
+    """The table, its links and the numbers of the greatest keeping, nothing barred."""
     check_game(box, frame, moves)
     table = Table(box, frame)
     links = Links(table, moves)
-    kept = kept_in(table, ranks_of(table, links, {}), {})
+    return (table, links, kept_in(table, ranks_of(table, links, {}), {}))
+
+
+def common_standings(box, frame, moves):
+    """The ascending list of the standings that every keeping has; None if there is no keeping."""
+    table, links, kept = kept_game(box, frame, moves)
     if not kept:
         return None
     return [table.ways[k] for k in sorted(common_in(table, links, kept))]
@@ -205,10 +210,7 @@ def spared_papers(table, links, kept):
 
 def common_papers(box, frame, moves):
     """The dict from all standings of the greatest keeping but () to papers of their being common or spared."""
-    check_game(box, frame, moves)
-    table = Table(box, frame)
-    links = Links(table, moves)
-    kept = kept_in(table, ranks_of(table, links, {}), {})
+    table, links, kept = kept_game(box, frame, moves)
     if not kept:
         return None
     spared = spared_papers(table, links, kept)
@@ -233,9 +235,7 @@ def is_common_paper(box, frame, moves, standing, thing):
 
 def are_common_papers(box, frame, moves, thing):
     """Whether any value is a dict from all standings of the greatest keeping but () to such papers."""
-    check_game(box, frame, moves)
-    table = Table(box, frame)
-    kept = kept_with(table, moves)
+    table, _, kept = kept_game(box, frame, moves)
     if not kept or not isinstance(thing, dict) or len(thing) != len(kept) - 1:
         return False
     known = {table.ways[k]: True for k in kept[1:]}

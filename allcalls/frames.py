@@ -4,7 +4,7 @@ from allcalls.boxes import MOST_SIDES, check_box, check_sides, check_tracks
 from allcalls.counts import is_frame_of, is_load_of, let_loads, sums_at_sides
 from allcalls.errors import BadAsking, BadFrame, BadMoves, BadStanding, BadWay
 from allcalls.kinds import is_within
-from allcalls.ways import all_standings, answers_to, askings_at, is_asking_at, is_standing_of, is_way_of, load_of
+from allcalls.ways import Wanted, all_standings, answers_to, is_asking_at, is_standing_of, is_way_of, load_of
 
 MOST_MOVES = 20
 MOST_LET = 20000
@@ -83,7 +83,7 @@ def askings(box, frame, standing):
     """The ascending list of all askings at a standing of the box and the frame."""
     check_frame(box, frame)
     check_standing(box, frame, standing)
-    return askings_at(box, frame, standing)
+    return Wanted(box, frame).askings_at(standing)
 
 
 def answers(box, frame, moves, standing, asking):

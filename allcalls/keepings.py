@@ -5,7 +5,7 @@ from allcalls.errors import BadBarred
 from allcalls.frames import check_frame, check_moves
 from allcalls.games import Links, Table, is_few, kept_in, kept_ways, marks_of, places_of, ranks_of
 from allcalls.kinds import is_tuple_of, rises
-from allcalls.ways import is_standing_of, less, load_of, pairs_wanted
+from allcalls.ways import Wanted, is_standing_of, less, load_of, pairs_wanted
 
 
 def check_game(box, frame, moves):
@@ -134,6 +134,7 @@ def is_strategy(box, frame, moves, barred, thing):
     for key, answer in thing.items():
         if not is_told_answer(box, frame, moves, key, answer) or answer in away:
             return False
+    wanted = Wanted(box, frame)
     known = {(): True}
     reached = [()]
     while reached:
@@ -141,7 +142,7 @@ def is_strategy(box, frame, moves, barred, thing):
         if standing in away:
             return False
         after = [less(standing, switch) for switch in standing]
-        for pair in pairs_wanted(box.sides, frame, load_of(box.sides, standing)):
+        for pair in wanted.pairs_at(standing):
             if (standing, pair) not in thing:
                 return False
             after.append(thing[(standing, pair)])

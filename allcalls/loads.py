@@ -1,10 +1,10 @@
 """Which loads a box carries: ways for them, or bars against them."""
 
 from allcalls.boxes import check_box, is_pin, pieces
-from allcalls.counts import check_load, is_load_up_to, is_of, no_wires, summed
+from allcalls.counts import check_load, greatest, is_load_up_to, is_of, no_wires, summed
 from allcalls.errors import BadPiece
 from allcalls.kinds import is_row
-from allcalls.reach import Reach, greatest, piece_ways, top_over, way_within
+from allcalls.reach import Reach, piece_ways, top_over, way_within
 from allcalls.ways import is_way_of, load_of
 
 MOST_IN_BAR = 999

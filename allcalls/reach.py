@@ -1,8 +1,7 @@
 """How far a box reaches: the loads of its pieces, and their greatest sums."""
 
 from allcalls.boxes import pieces
-from allcalls.counts import is_below, is_of, no_wires, pair_place, summed
-from allcalls.errors import TooMany
+from allcalls.counts import greatest, is_below, no_wires, pair_place, summed
 from allcalls.ways import load_of, ways_among
 
 MOST_WAYS = 20000
@@ -31,20 +30,6 @@ def piece_ways(box, piece):
     for way in ways_among(box.sides, switches, None, MOST_WAYS):
         found.setdefault(load_of(box.sides, way), way)
     return found
-
-
-def greatest(loads, most):
-    """The ascending list of the loads that are below no other one; TooMany(most) for more, if most is not None."""
-    groups = {}
-    for load in loads:
-        groups.setdefault(sum(load), {})[load] = True
-    found = []
-    # Different loads with one sum are never below each other, so each group meets only those with greater sums.
-    for total in sorted(groups, reverse=True):
-        found.extend([load for load in groups[total] if not is_of(found, load)])
-        if most is not None and len(found) > most:
-            raise TooMany(most)
-    return sorted(found)
 
 
 def next_sums(ahead, tops):

@@ -10,7 +10,7 @@ from allcalls.frames import check_frame
 from allcalls.games import Table
 from allcalls.keepings import ends_within, is_standing_tuple
 from allcalls.stricts import first_stuck_of, with_switch
-from allcalls.ways import MOST_STANDINGS, all_standings, askings_at, less, load_of, pairs_wanted, pins_of
+from allcalls.ways import MOST_STANDINGS, Wanted, all_standings, less, pins_of
 
 MOST_RULED = 6
 
@@ -62,6 +62,7 @@ def rule_walk(box, frame, rule, stops):
 
     The standings are the keys of a dict. If the walk stops at the first failing, they need not be all.
     """
+    wanted = Wanted(box, frame)
     came = {(): None}
     reached = [()]
     failing = None
@@ -70,7 +71,7 @@ def rule_walk(box, frame, rule, stops):
     while done < len(reached) and (failing is None or not stops):
         way = reached[done]
         done += 1
-        for asking in askings_at(box, frame, way):
+        for asking in wanted.askings_at(way):
             other = ruled(rule, way, asking)
             if other is None:
                 if failing is None:
@@ -103,13 +104,14 @@ def is_rule_paper(box, frame, rule, thing):
     check_rule(box, frame, rule)
     if not is_standing_tuple(box, frame, thing):
         return False
+    wanted = Wanted(box, frame)
     known = {way: True for way in thing}
     if () not in known:
         return False
     for way in thing:
         if not ends_within(way, known):
             return False
-        for pair in pairs_wanted(box.sides, frame, load_of(box.sides, way)):
+        for pair in wanted.pairs_at(way):
             # None is no key, so a stuck standing is refused as well.
             if ruled_answer(rule, way, pair) not in known:
                 return False

@@ -5,7 +5,7 @@ from allcalls.counts import is_of, is_pair_of_sides, one_more
 from allcalls.errors import BadPair
 from allcalls.frames import check_frame
 from allcalls.kinds import is_tuple_of
-from allcalls.ways import all_standings, free_between, is_standing_of, load_of, pairs_wanted, pins_of
+from allcalls.ways import Wanted, all_standings, free_between, is_standing_of, load_of, pins_of
 
 
 def is_wanted(box, frame, way, pair):
@@ -20,8 +20,9 @@ def is_stuck_for(box, frame, standing, pair):
 
 def first_stuck_of(box, frame, ways):
     """The first of all standings, fewest wires first, that is stuck, with its first pair; None if none is."""
+    wanted = Wanted(box, frame)
     for way in sorted(ways, key=lambda one: (len(one), one)):
-        for pair in pairs_wanted(box.sides, frame, load_of(box.sides, way)):
+        for pair in wanted.pairs_at(way):
             if not free_between(box, way, pair):
                 return (way, pair)
     return None

@@ -81,10 +81,24 @@ def pairs_wanted(sides, frame, load):
     return [pair for pair in side_pairs(sides) if is_of(frame, one_more(sides, load, pair))]
 
 
-def askings_at(box, frame, standing):
-    """The ascending list of all askings at a standing."""
-    wanted = pairs_wanted(box.sides, frame, load_of(box.sides, standing))
-    return [("end", switch) for switch in standing] + [("want", pair) for pair in wanted]
+class Wanted:
+    """The pairs of sides that are wanted at standings of a box and a frame; each load is looked at once."""
+
+    def __init__(self, box, frame):
+        self.sides = box.sides
+        self.frame = frame
+        self.told = {}
+
+    def pairs_at(self, standing):
+        """The ascending list of the pairs of sides that are wanted at the standing."""
+        load = load_of(self.sides, standing)
+        if load not in self.told:
+            self.told[load] = pairs_wanted(self.sides, self.frame, load)
+        return list(self.told[load])
+
+    def askings_at(self, standing):
+        """The ascending list of all askings at the standing."""
+        return [("end", switch) for switch in standing] + [("want", pair) for pair in self.pairs_at(standing)]
 
 
 def is_asking_at(box, frame, standing, thing):

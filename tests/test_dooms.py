@@ -9,7 +9,7 @@ from allcalls.dooms import (are_common_papers, bait, common_papers, common_stand
 from allcalls.errors import BadBarred, BadBox, BadFrame, BadMoves, BadStanding
 from allcalls.frames import greatest_loads
 from allcalls.keepings import greatest_keeping, is_keeping
-from allcalls.loads import box_frame
+from allcalls.loads import box_frame, way_for
 from tests.helpers import (any_values, anew, ascending_dict, game_of, kept_of, listed, ranks_of, refuse, some_box,
                            some_frame, too_many, untrue)
 from tests.test_frames import tree_box
@@ -194,6 +194,9 @@ class Moves(unittest.TestCase):
             number = numbers[0] if numbers else None
             seen.add(number)
             self.assertEqual(least_moves(box, frame), number)
+            self.assertEqual(number is None, any(way_for(box, load) is None for load in frame))
+            if number is not None:
+                self.assertLess(number, max([1] + [sum(load) for load in frame]))
             paper = moves_paper(box, frame)
             self.assertIs(type(paper), tuple)
             self.assertEqual(paper[0], number)

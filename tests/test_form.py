@@ -31,7 +31,7 @@ BUILTINS = """len range enumerate zip min max sum abs sorted reversed int str bo
 ValueError""".split()
 
 METHODS = """append count endswith extend find get index insert items join keys pop remove replace setdefault split
-startswith strip update values""".split()
+startswith strip update values pairs_at askings_at""".split()
 
 BARRED_WORDS = """type typing typing_extensions enum Enum IntEnum StrEnum Flag IntFlag Generic Protocol ABC ABCMeta
 namedtuple NamedTuple TypedDict TYPE_CHECKING abstractmethod""".split()
