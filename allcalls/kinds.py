@@ -27,3 +27,16 @@ def rises(row):
         if not row[k - 1] < row[k]:
             return False
     return True
+
+
+def is_plain(thing):
+    """Whether any value is a number, a string or a tuple of such, at every depth.
+
+    So it may be looked up in a dict, and no bool in it is taken for a number.
+    """
+    if isinstance(thing, tuple):
+        for item in thing:
+            if not is_plain(item):
+                return False
+        return True
+    return isinstance(thing, str) or is_number(thing)

@@ -150,22 +150,28 @@ def fillings(labels, choices, most):
     return found
 
 
-def moved_to(box, standing, gone, pair, most):
-    """The answers to a want in which just the switches in gone are missing: at most so many, if most is not None."""
+def moved_to(box, standing, gone, pairs, most):
+    """The standings with one wire more for each of these pairs of sides in which just the switches in gone are missing.
+
+    At most so many of them, if most is not None.
+    """
     kept = tuple([wire for wire in standing if wire not in gone])
-    wanted = sorted([(low[0], high[0]) for low, high in gone] + [pair])
+    wanted = sorted([(low[0], high[0]) for low, high in gone] + pairs)
     # What is missing is moved: it does not come again on its own switch.
     choices = [[wire for wire in free_between(box, kept, two) if wire not in gone] for two in wanted]
     return [tuple(sorted(kept + chosen)) for chosen in fillings(wanted, choices, most)]
 
 
-def want_answers(box, moves, standing, pair, most):
-    """The answers to a want, in no order: at most so many of them, if most is not None."""
+def refilled(box, moves, standing, pairs, most):
+    """The standings with one wire more for each of these pairs that lack at most so many switches of the standing.
+
+    In no order; at most so many of them, if most is not None.
+    """
     wires = list(standing)
     found = []
     for many in range(min(moves, len(wires)) + 1):
         for gone in combinations(wires, many):
-            found.extend(moved_to(box, standing, gone, pair, None if most is None else most - len(found)))
+            found.extend(moved_to(box, standing, gone, pairs, None if most is None else most - len(found)))
             if most is not None and len(found) >= most:
                 return found
     return found
@@ -175,4 +181,4 @@ def answers_to(box, moves, standing, asking, most):
     """The answers to an asking at the standing, in no order: at most so many of them, if most is not None."""
     if asking[0] == "end":
         return [less(standing, asking[1])]
-    return want_answers(box, moves, standing, asking[1], most)
+    return refilled(box, moves, standing, [asking[1]], most)
