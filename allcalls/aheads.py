@@ -4,7 +4,7 @@ from allcalls.ages import Ages
 from allcalls.errors import BadAhead, BadKeeping, BadMost
 from allcalls.keepings import check_game
 from allcalls.kinds import is_number, is_plain, is_tuple_of, is_within, rises
-from allcalls.plans import Falls, Plan, Rows, check_positions
+from allcalls.plans import Falls, Plan, RowBook, check_positions
 
 MOST_AHEAD = 6
 
@@ -19,9 +19,9 @@ def check_ahead_game(box, frame, moves, ahead, most):
 def plan_of(box, frame, moves, ahead):
     """The plan with so many calls told ahead; TooMany for more than 5000 seatings or 20000 positions."""
     ages = Ages(box, frame, moves)
-    rows = Rows(ages)
-    check_positions(ages, rows, ahead)
-    return Plan(ages, rows, ahead)
+    book = RowBook(ages)
+    check_positions(ages, book, ahead)
+    return Plan(ages, book, ahead)
 
 
 def starting_rows(plan):
@@ -198,10 +198,10 @@ def longer(box, frame, moves, ahead, keeping):
     """The positions of an ahead keeping with one call more each: an ahead keeping for ahead + 1."""
     check_ahead_game(box, frame, moves, ahead, MOST_AHEAD - 1)
     ages = Ages(box, frame, moves)
-    rows = Rows(ages)
-    check_positions(ages, rows, ahead)
-    check_positions(ages, rows, ahead + 1)
-    plan = Plan(ages, rows, ahead)
+    book = RowBook(ages)
+    check_positions(ages, book, ahead)
+    check_positions(ages, book, ahead + 1)
+    plan = Plan(ages, book, ahead)
     if not is_keeping_in(plan, keeping):
         raise BadKeeping("keeping is an ahead keeping")
     places = row_places(plan)
@@ -218,10 +218,10 @@ def least_ahead(box, frame, moves, most):
     if not is_within(most, 0, MOST_AHEAD):
         raise BadMost("most is a number from 0 to 6")
     ages = Ages(box, frame, moves)
-    rows = Rows(ages)
-    check_positions(ages, rows, most)
+    book = RowBook(ages)
+    check_positions(ages, book, most)
     for ahead in range(most + 1):
-        plan = Plan(ages, rows, ahead)
+        plan = Plan(ages, book, ahead)
         if is_kept(plan, Falls(plan).sets):
             return ahead
     return None

@@ -1,8 +1,8 @@
 """Bars of partings: how they are made, and how they are judged."""
 
 from allcalls.boxes import has_switch
-from allcalls.finders import bits_in
 from allcalls.kinds import is_plain, is_tuple_of, is_within
+from allcalls.packs import bits_in
 from allcalls.parters import MOST_NUMBER
 from allcalls.ways import is_standing_of
 
@@ -39,7 +39,8 @@ def bar_nodes(parter, caps):
         for at, room in enumerate(rooms):
             if room & bit:
                 rest.append(items[:at] + (items[at] | bit,) + items[at + 1:])
-    return {hold: node for hold, node in sorted([(told_hold(parter, items), nodes[items]) for items in nodes])}
+    told_nodes = [(told_hold(parter, one), nodes[one]) for one in nodes]
+    return {hold: node for hold, node in sorted(told_nodes)}
 
 
 def told_hold(parter, items):
@@ -55,7 +56,7 @@ def heaviest(parter, weights, loose, cap, item):
         own, space, total = rest.pop()
         best = max(best, total)
         free = [k for k in range(len(weights)) if space >> k & 1 and weights[k] > 0]
-        free = sorted(free, key=lambda k: -weights[k])
+        free = sorted(free, key=lambda wire: -weights[wire])
         more = min(cap, parter.greatest_size()) - bits_in(own)
         branches = []
         for at, k in enumerate(free):

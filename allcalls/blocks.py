@@ -39,7 +39,7 @@ class Blocks:
         self.ages = ages
         self.effects = Effects(ages)
         ends = {k: True for k in self.effects.ends}
-        told = [(self.effects.told(k), k) for k in range(len(self.effects.loads)) if k not in ends]
+        told = [(self.effects.numbered(k), k) for k in range(len(self.effects.loads)) if k not in ends]
         self.told = sorted(told)
         self.loads = [self.effects.loads[k] for _, k in self.told]
         self.others = [self.effects.others[k] for _, k in self.told]

@@ -1,6 +1,6 @@
 """What breaks a load: lots of switches that each of its ways has a switch of, found by the ways that they leave."""
 
-from allcalls.finders import bits_in
+from allcalls.packs import bits_in
 
 MOST_WOUNDS = 40
 
@@ -11,24 +11,24 @@ class Breaker:
     def __init__(self, finder, load):
         self.finder = finder
         self.load = load
-        self.concerned = finder.concerned(load)
+        self.between = finder.concerned(load)
         self.ways = []
-        self.parted = False
+        self.are_met = False
 
     def way_without(self, gone):
         """A way with the load that has no switch of the lot gone; None if the lot breaks it."""
         for way in self.ways:
             if not way & gone:
                 return way
-        way = self.finder.find(self.load, gone)
+        way = self.finder.way_with(self.load, gone)
         if way is not None:
             self.ways.append(way)
         return way
 
     def meet_ways(self):
         """Meet ways no two of which have a switch in common, as many as come: a lot has a switch of each."""
-        if not self.parted:
-            self.parted = True
+        if not self.are_met:
+            self.are_met = True
             gone = 0
             way = self.way_without(gone)
             while way is not None and way != 0:
@@ -68,16 +68,16 @@ class Breaker:
             return None
         self.meet_ways()
         budget = 0
-        lot = self.breaking(0, self.concerned, budget)
+        lot = self.breaking(0, self.between, budget)
         while lot is None:
             budget += 1
-            lot = self.breaking(0, self.concerned, budget)
+            lot = self.breaking(0, self.between, budget)
         return self.least(lot, budget)
 
     def least(self, lot, budget):
         """The least lot of so many switches that breaks the load, where one is given and none with fewer does."""
         gone = 0
-        free = self.concerned
+        free = self.between
         while gone != lot:
             bit = free & -free
             free ^= bit
@@ -93,7 +93,7 @@ class Breaker:
     def holds(self, number):
         """Whether no lot of at most so many switches breaks the load."""
         self.meet_ways()
-        return self.breaking(0, self.concerned, number) is None
+        return self.breaking(0, self.between, number) is None
 
 
 def least_hits(ways, enough):
@@ -132,7 +132,7 @@ class Strengths:
             if breaker.way_without(gone | lot) is None:
                 return False
         for breaker in self.breakers:
-            lot = breaker.breaking(gone, breaker.concerned & ~gone, self.number)
+            lot = breaker.breaking(gone, breaker.between & ~gone, self.number)
             if lot is not None:
                 if len(self.wounds) < MOST_WOUNDS:
                     self.wounds.append((breaker, lot & ~gone))

@@ -3,15 +3,16 @@
 from itertools import combinations
 from math import comb
 
-from allcalls.boxes import check_box, full, has_switch, is_lot
+from allcalls.boxes import full, has_switch, is_lot
 from allcalls.breakers import Breaker, Strengths
 from allcalls.counts import is_load_of, is_of, no_wires, raised
 from allcalls.errors import BadLot, BadMost, BadNumber, BadSwitch, BadTree, TooMany
-from allcalls.finders import Finder, bits_in
+from allcalls.finders import Finder
 from allcalls.frames import check_frame
 from allcalls.kinds import is_plain, is_tuple_of, is_within
 from allcalls.loads import check_box_load
 from allcalls.lottables import greatest_marked, left_tables
+from allcalls.packs import bits_in
 from allcalls.tallies import tally_of
 from allcalls.ways import is_way_of, load_of
 
@@ -46,7 +47,7 @@ def breaks(box, load, lot):
     check_box_load(box, load)
     check_lot(box, lot)
     finder = Finder(box)
-    return finder.find(load, finder.lot_of(lot)) is None
+    return finder.way_with(load, finder.lot_of(lot)) is None
 
 
 def fewest_breaking(box, load):
@@ -183,7 +184,7 @@ def frame_break(box, frame):
         lots.append((bits_in(lot), finder.switches_in(lot), lot))
     _, switches, lot = min(lots)
     for load in frame:
-        if finder.find(load, lot) is None:
+        if finder.way_with(load, lot) is None:
             return (load, switches)
     return None
 
@@ -240,7 +241,8 @@ def left_frame(box, frame, lot):
         raise TooMany(MOST_LOADS)
     finder = Finder(box)
     gone = finder.lot_of(lot)
-    rings = [{} for _ in range(max([sum(load) for load in frame]) + 1)]
+    greatest = max([sum(top) for top in frame])
+    rings = [{} for _ in range(greatest + 1)]
     for load in frame:
         rings[sum(load)][load] = True
     tops = []
@@ -249,7 +251,7 @@ def left_frame(box, frame, lot):
         for load in sorted(rings[total]):
             if is_of(tops, load):
                 continue
-            if finder.find(load, gone) is not None:
+            if finder.way_with(load, gone) is not None:
                 tops.append(load)
                 continue
             for place in range(len(load)):
@@ -261,7 +263,7 @@ def left_frame(box, frame, lot):
 def showing(finder, table, k):
     """The list of the lots without the switch of number k that do not break what the table tells of, but with it do."""
     bit = 1 << k
-    return [finder.everything ^ (lot | bit) for lot in table.less_one(k).both(table.opposite()).lots()]
+    return [finder.everything ^ (lot | bit) for lot in table.less_one(k).both(table.opposite()).marked()]
 
 
 def matters(box, frame, switch):

@@ -73,7 +73,7 @@ class BreakTable:
         wanted = Wanted(box, frame)
         self.asked = [asked_at(box, number, wanted, position) for position in self.positions]
 
-    def choices(self, k, asked):
+    def choices_at(self, k, asked):
         """The pair of the wires that may be moved, as a lot, and the numbers of the positions that may answer."""
         word, what = asked
         if word == "want":
@@ -114,7 +114,7 @@ class BreakFalls:
         lost = []
         for k, asked in enumerate(table.asked):
             for one in asked:
-                own, choices = table.choices(k, one)
+                own, choices = table.choices_at(k, one)
                 owners.append((k, one))
                 if not seekers.seek(own, choices) and k not in self.nodes:
                     self.nodes[k] = (0, one)

@@ -3,7 +3,7 @@
 from itertools import combinations
 
 from allcalls.boxes import is_lot
-from allcalls.counts import is_load_of, is_of, one_more, side_pairs, summed
+from allcalls.counts import is_load_of, is_of, side_pairs, summed
 from allcalls.errors import BadBurst, BadMany, TooMany
 from allcalls.frames import check_frame, check_moves, check_standing
 from allcalls.games import Table, is_few

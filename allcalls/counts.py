@@ -2,6 +2,7 @@
 
 from allcalls.errors import BadLoad, TooMany
 from allcalls.kinds import is_tuple_of, is_within, rises
+from allcalls.packs import first_over, guards, packed
 
 MOST_NUMBER = 99
 
@@ -33,7 +34,7 @@ def is_load_up_to(sides, thing, most):
     if not is_tuple_of(thing, len(side_pairs(sides))):
         return False
     for number in thing:
-        if not is_within(number, 0, most):
+        if not isinstance(number, int) or isinstance(number, bool) or number < 0 or number > most:
             return False
     return True
 
@@ -89,19 +90,21 @@ def sums_at_sides(sides, load):
     return sums
 
 
-def greatest(loads, most):
-    """The ascending list of the loads that are below no other one; TooMany(most) for more, if most is not None."""
+def are_apart(loads):
+    """Whether none of these different loads is below another one of them."""
     groups = {}
     for load in loads:
-        groups.setdefault(sum(load), {})[load] = True
+        groups.setdefault(sum(load), []).append(load)
     found = []
+    guard = guards(len(loads[0]))
     # Different loads with one sum are never below each other, so each group meets only those with greater sums.
     for total in sorted(groups, reverse=True):
-        tops = [load for load in groups[total] if not is_of(found, load)]
-        found.extend(tops)
-        if most is not None and len(found) > most:
-            raise TooMany(most)
-    return sorted(found)
+        packs = [packed(load) for load in groups[total]] if len(groups) > 1 else []
+        for pack in packs:
+            if first_over(found, pack, guard) is not None:
+                return False
+        found.extend(packs)
+    return True
 
 
 def is_frame_of(sides, thing):
@@ -111,7 +114,7 @@ def is_frame_of(sides, thing):
     for load in thing:
         if not is_load_of(sides, load):
             return False
-    return rises(thing) and len(greatest(list(thing), None)) == len(thing)
+    return rises(thing) and are_apart(thing)
 
 
 def let_loads(sides, tracks, most):
@@ -132,6 +135,29 @@ def let_loads(sides, tracks, most):
             left[side] -= number
             left[far] -= number
             rest.append((load + (number,), left))
+    return found
+
+
+def top_loads(sides, tracks):
+    """The ascending list of the loads that so many tracks let with at most one side that could bear more."""
+    pairs = side_pairs(sides)
+    found = []
+    # What is pushed: a beginning of a load, the room at the sides, and whether a side that is done has some left.
+    rest = [((), [tracks] * sides, False)]
+    while rest:
+        load, room, lacks = rest.pop()
+        if len(load) == len(pairs):
+            if not lacks or room[-1] == 0:
+                found.append(load)
+            continue
+        side, far = pairs[len(load)]
+        done = far == sides - 1
+        least = room[side] if done and lacks else 0
+        for number in range(min(room[side], room[far]), least - 1, -1):
+            left = list(room)
+            left[side] -= number
+            left[far] -= number
+            rest.append((load + (number,), left, lacks or (done and left[side] > 0)))
     return found
 
 

@@ -3,8 +3,8 @@
 Sets of members are lists of whole numbers here, with a bit for each member, 2048 in each number.
 """
 
-from allcalls.finders import bits_in
 from allcalls.packings import Packing
+from allcalls.packs import bits_in
 
 WIDTH = 2048
 MOST_NUMBER = 999
@@ -108,9 +108,7 @@ class Cover:
         return None
 
     def fewest(self, most):
-        """As few rows as can be that have all members together; None if some member is in none, or for more than most.
-
-        """
+        """As few rows as can be that have all members together; None if there are none, or only more than most."""
         best = self.greedy()
         if best is None:
             return None

@@ -27,7 +27,7 @@ class Effects:
         if len(loads) > MOST_LOADS:
             raise TooMany(MOST_EFFECTS)
         for load in loads:
-            self.number(load, load, tuple([ages.shelf.put([k]) for k in ages.group(load)]))
+            self.number_of(load, load, tuple([ages.shelf.put([k]) for k in ages.group(load)]))
         done = 0
         while done < len(self.loads):
             self.arrows.append(self.lead_on(done))
@@ -35,7 +35,7 @@ class Effects:
         self.ends = self.find_endless()
         self.depths = self.find_depths()
 
-    def number(self, load, other, parts):
+    def number_of(self, load, other, parts):
         """The number of the effect, which is added if it is new; TooMany(2000) if there are more."""
         name = (load, other, parts)
         if name not in self.place:
@@ -52,7 +52,7 @@ class Effects:
         found = []
         for step in self.ages.steps_at(self.others[k]):
             parts = tuple([self.ages.set_behind(step, held) for held in self.parts[k]])
-            found.append(self.number(self.loads[k], step.after, parts))
+            found.append(self.number_of(self.loads[k], step.after, parts))
         return found
 
     def find_endless(self):
@@ -85,7 +85,7 @@ class Effects:
                     depths[other] = max(depths[other], depths[k] + 1)
         return depths
 
-    def told(self, k):
+    def numbered(self, k):
         """The effect of number k with the numbers of its seatings, as a triple of two loads and pairs."""
         pairs = []
         for number, held in zip(self.ages.group(self.loads[k]), self.parts[k]):

@@ -4,14 +4,9 @@ Lots of switches are whole numbers here, with a bit for each switch of the box, 
 """
 
 from allcalls.counts import pair_place, side_pairs, sums_at_sides
+from allcalls.packs import bits_in
 
 PATIENCE = 100
-
-
-def bits_in(mark):
-    """How many bits the mark has."""
-    text = f"{mark:b}"
-    return text.count("1")
 
 
 class Finder:
@@ -58,7 +53,7 @@ class Finder:
                 found |= lot
         return found
 
-    def find(self, load, gone):
+    def way_with(self, load, gone):
         """A way with the load, as a lot, that has no switch of the lot gone; None if there is none."""
         free = self.concerned(load) & ~gone
         for lots, total in zip(self.ends, sums_at_sides(self.box.sides, load)):

@@ -1,10 +1,11 @@
 """Which loads a box carries: ways for them, or bars against them."""
 
 from allcalls.boxes import check_box, is_pin, pieces
-from allcalls.counts import check_load, greatest, is_load_up_to, is_of, no_wires, summed
+from allcalls.counts import check_load, is_load_up_to, is_of, no_wires, side_pairs, summed
 from allcalls.errors import BadPiece
 from allcalls.kinds import is_row
-from allcalls.reach import Reach, piece_ways, top_over, way_within
+from allcalls.packs import guards, unpacked
+from allcalls.reach import Piece, Reach, parts_of
 from allcalls.ways import is_way_of, load_of
 
 MOST_IN_BAR = 999
@@ -19,7 +20,7 @@ def check_box_load(box, load):
 def way_for(box, load):
     """A way of the box with the load; None if there is none."""
     check_box_load(box, load)
-    return way_within(box.sides, Reach(box), load)
+    return Reach(box).way_within(box.sides, load)
 
 
 def is_way_for(box, load, thing):
@@ -43,22 +44,27 @@ def piece_loads(box, piece):
     check_box(box)
     if not is_piece(box, piece):
         raise BadPiece("piece is one of the pieces of the box")
-    return tuple(greatest(list(piece_ways(box, piece)), None))
+    pins = {pin: True for pin in piece}
+    own = Piece(box.sides, [switch for switch in box.switches if switch[0] in pins], piece)
+    own.check_ways()
+    many = len(side_pairs(box.sides))
+    return tuple([unpacked(pack, many) for pack in own.top_ways(guards(many))])
 
 
 def box_frame(box):
     """The frame of all loads that the box carries."""
     check_box(box)
-    return tuple(sorted(Reach(box).steps[-1]))
+    reach = Reach(box)
+    return tuple(reach.sums_told(len(reach.parts)))
 
 
 def bar(box, load):
     """The bar of the load that has just the greatest sums in its lists; None if the box carries the load."""
     check_box_load(box, load)
     reach = Reach(box)
-    if top_over(reach.steps[-1], load) is not None:
+    if reach.is_in_reach(load):
         return None
-    return [sorted(step) for step in reach.steps]
+    return [reach.sums_told(step) for step in range(len(reach.steps))]
 
 
 def is_list_of_loads(sides, thing):
@@ -83,7 +89,8 @@ def leads_on(loads, tops, behind):
 def is_bar(box, load, thing):
     """Whether any value is a bar of the load in the box."""
     check_box_load(box, load)
-    tops = [greatest(list(piece_ways(box, piece)), None) for piece in pieces(box)]
+    many = len(side_pairs(box.sides))
+    tops = [[unpacked(pack, many) for pack in part] for part in parts_of(box, guards(many))]
     if not is_row(thing) or len(thing) != len(tops) + 1:
         return False
     for loads in thing:

@@ -65,7 +65,7 @@ class LotTable:
         full = (1 << (1 << self.low)) - 1
         return self.made([full & ~row for row in self.rows])
 
-    def lots(self):
+    def marked(self):
         """The list of the marked lots."""
         found = []
         for at, row in enumerate(self.rows):
@@ -93,4 +93,4 @@ def greatest_marked(table):
     found = table
     for k in range(table.many):
         found = found.both(table.less_one(k).opposite())
-    return found.lots()
+    return found.marked()

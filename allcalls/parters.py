@@ -5,9 +5,9 @@ Standings of the switches in question are whole numbers here, with a bit for eac
 
 from math import gcd
 
-from allcalls.counts import is_of, one_more, pair_place, side_pairs
-from allcalls.finders import bits_in
+from allcalls.counts import is_of, one_more, side_pairs
 from allcalls.packings import Packing
+from allcalls.packs import bits_in
 from allcalls.ways import load_of
 
 MOST_NUMBER = 999

@@ -6,7 +6,7 @@ from allcalls.seats import called
 MOST_POSITIONS = 20000
 
 
-class Rows:
+class RowBook:
     """The rows of calls at loads of a frame, and the loads to which they lead."""
 
     def __init__(self, ages):
@@ -14,35 +14,35 @@ class Rows:
         self.many = {}
         self.told = {}
 
-    def count(self, load, length):
+    def many_at(self, load, length):
         """How many rows of so many calls there are at the load."""
         if length == 0:
             return 1
         if (load, length) not in self.many:
             total = 0
             for call in self.ages.calls_of(load):
-                total += self.count(called(self.ages.sides, load, call), length - 1)
+                total += self.many_at(called(self.ages.sides, load, call), length - 1)
             self.many[(load, length)] = total
         return self.many[(load, length)]
 
-    def rows(self, load, length):
+    def rows_of(self, load, length):
         """The ascending list of the pairs of a row of so many calls at the load and the load to which it leads."""
         if length == 0:
             return [((), load)]
         if (load, length) not in self.told:
             found = []
             for call in self.ages.calls_of(load):
-                for row, end in self.rows(called(self.ages.sides, load, call), length - 1):
+                for row, end in self.rows_of(called(self.ages.sides, load, call), length - 1):
                     found.append(((call,) + row, end))
             self.told[(load, length)] = found
         return self.told[(load, length)]
 
 
-def check_positions(ages, rows, ahead):
+def check_positions(ages, book, ahead):
     """Raise TooMany(20000) if there are more positions with so many calls told ahead."""
     # With more calls told there are never fewer rows, so it is seen early if there are far too many.
     for length in range(ahead + 1):
-        total = sum([len(group) * rows.count(load, length) for load, group in ages.groups.items()])
+        total = sum([len(group) * book.many_at(load, length) for load, group in ages.groups.items()])
         if total > MOST_POSITIONS:
             raise TooMany(MOST_POSITIONS)
 
@@ -50,13 +50,15 @@ def check_positions(ages, rows, ahead):
 class Plan:
     """The positions with so many calls told ahead: each row of calls at a load stands for a set of seatings.
 
-    rows: the pairs of a row and the load to which it leads; loads: the load at which it is. first: from each load to
-    the number of its first row; past: to the number behind its last one. steps: for each row the steps that may be answered next. blocks: for each of these the range of the
-    rows that may be told then, or None if the step leads to a load without seatings. followers: from the number of a
-    row to the pairs (number, index) of those that may be followed by it, and of which of its steps.
+    rows: the pairs of a row and the load to which it leads. loads: the load at which it is. first: from each load to
+    the number of its first row. past: to the number behind its last one. steps: for each row the steps that may be
+    answered next. blocks: for each of these the numbers of the first row that may be told then, and of that behind
+    the last one; None if the step leads to a load without seatings. followers: for the first row of each block the
+    pairs (number, index) of those that may be followed by it, and of which of its steps. leaders: for each row the
+    first one of its block.
     """
 
-    def __init__(self, ages, rows, ahead):
+    def __init__(self, ages, book, ahead):
         self.ages = ages
         self.ahead = ahead
         self.rows = []
@@ -65,15 +67,15 @@ class Plan:
         self.past = {}
         for load in sorted(ages.groups):
             self.first[load] = len(self.rows)
-            found = rows.rows(load, ahead)
+            found = book.rows_of(load, ahead)
             self.rows.extend(found)
             self.loads.extend([load] * len(found))
             self.past[load] = len(self.rows)
-        self.starts = {load: self.block_starts(rows, load) for load in ages.groups}
+        self.starts = {load: self.block_starts(book, load) for load in ages.groups}
         self.steps = []
         self.blocks = []
         for load in sorted(ages.groups):
-            self.link(rows, load)
+            self.link(book, load)
         self.followers = [[] for _ in self.rows]
         for k, blocks in enumerate(self.blocks):
             for at, block in enumerate(blocks):
@@ -81,7 +83,7 @@ class Plan:
                     self.followers[block[0]].append((k, at))
         self.leaders = self.block_leaders()
 
-    def block_starts(self, rows, load):
+    def block_starts(self, book, load):
         """The numbers of the first rows of the blocks of those at the load that differ in the last call alone.
 
         Behind them stands the number behind the last row. If no call is told ahead, the one row is the one block.
@@ -89,11 +91,11 @@ class Plan:
         starts = [self.first[load]]
         if self.ahead == 0:
             return starts + [starts[0] + 1]
-        for _, end in rows.rows(load, self.ahead - 1):
+        for _, end in book.rows_of(load, self.ahead - 1):
             starts.append(starts[-1] + len(self.ages.calls_of(end)))
         return starts
 
-    def link(self, rows, load):
+    def link(self, book, load):
         """Add the steps and blocks of the rows at the load, in their order."""
         steps = self.ages.steps_at(load)
         if self.ahead == 0:
@@ -101,7 +103,7 @@ class Plan:
             self.blocks.append([self.block(step.after, 0) for step in steps])
             return
         for step in steps:
-            for at in range(len(rows.rows(step.after, self.ahead - 1))):
+            for at in range(len(book.rows_of(step.after, self.ahead - 1))):
                 self.steps.append([step])
                 self.blocks.append([self.block(step.after, at)])
 

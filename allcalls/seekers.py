@@ -43,7 +43,8 @@ class Seekers:
             self.dropped[one] = True
         lone = []
         for one in numbers:
-            for seeker in self.held.pop(one, []):
+            waiting = self.held.pop(one, [])
+            for seeker in waiting:
                 if not self.hold(seeker):
                     lone.append(seeker)
         return lone

@@ -7,7 +7,7 @@ class Shelf:
     def __init__(self):
         self.rows = []
         self.place = {}
-        self.within = {}
+        self.known = {}
         self.parts = {}
 
     def put(self, members):
@@ -20,9 +20,9 @@ class Shelf:
 
     def known_in(self, one):
         """The dict with the members of the set as its keys."""
-        if one not in self.within:
-            self.within[one] = {member: True for member in self.rows[one]}
-        return self.within[one]
+        if one not in self.known:
+            self.known[one] = {member: True for member in self.rows[one]}
+        return self.known[one]
 
     def parted(self, one, other):
         """The pair of the sets of those members of the one that are not, and that are, in the other."""

@@ -1,11 +1,10 @@
 """Splits: how a load falls into loads of single tracks, or of two mates, without any box at hand."""
 
-from allcalls.boxes import MOST_SIDES, check_sides, crossed
-from allcalls.counts import check_load, is_below, is_load_of, let_loads, no_wires, pair_place, raised, summed
-from allcalls.counts import sums_at_sides
+from allcalls.boxes import MOST_SIDES, check_sides
+from allcalls.counts import check_load, is_below, is_load_of, let_loads, no_wires, pair_place, raised, side_pairs
+from allcalls.counts import summed, sums_at_sides
 from allcalls.errors import BadLoad, BadRoom
 from allcalls.kinds import is_row, is_within
-from allcalls.reach import Reach, way_within
 
 MOST_PLAIN_SIDES = 4
 MOST_ROOM = 99
@@ -147,10 +146,15 @@ def reduced(load, part):
     return tuple([number - own for number, own in zip(load, part)])
 
 
-def part_off(sides, load, own, room):
-    """The first load let by own that leaves of the load what is let by room; None if there is none."""
-    for part in let_loads(sides, own, MOST_LET):
-        if is_below(part, load) and is_let(sides, reduced(load, part), room):
+def is_part(sides, load, part, room):
+    """Whether the part lies below the load, and leaves of it what is let by room."""
+    return is_below(part, load) and is_let(sides, reduced(load, part), room)
+
+
+def part_off(sides, load, parts, room):
+    """The first of the parts that leaves of the load what is let by room; None if there is none."""
+    for part in parts:
+        if is_part(sides, load, part, room):
             return part
     return None
 
@@ -165,9 +169,14 @@ def crossed_split(sides, load, room):
     rooms = mates_rooms(room)
     found = []
     left = load
+    parts = {own: let_loads(sides, own, MOST_LET) for own in (1, 2)}
+    part = None
     # The last one, let by 1, is taken off first: what an even room lets always has a part let by 2 that will do.
     for k in range(len(rooms) - 1, -1, -1):
-        part = part_off(sides, left, rooms[k], sum(rooms[:k]))
+        rest = room - sum(rooms[k:])
+        # A part that did once mostly does again.
+        if part is None or rooms[k] != rooms[k + 1] or not is_part(sides, left, part, rest):
+            part = part_off(sides, left, parts[rooms[k]], rest)
         left = reduced(left, part)
         found.append(part)
     return found[::-1]
@@ -187,5 +196,33 @@ def mates_way(sides, load):
     check_load(sides, load)
     if not is_let(sides, load, 2):
         raise BadLoad("load is let by 2")
-    box = crossed(sides, 2)
-    return way_within(sides, Reach(box), load)
+    found = []
+    for row in wire_rows(sides, load):
+        for side, far in row:
+            # Along a row each wire leaves a side by track 0 and comes to the next one on track 1.
+            one = (side, 0)
+            other = (far, 1)
+            found.append((one, other) if one < other else (other, one))
+    return tuple(sorted(found))
+
+
+def wire_rows(sides, load):
+    """The wires of a load that is let by 2, each as a pair (from, to) of sides, in rows that go from side to side."""
+    left = [[0] * sides for _ in range(sides)]
+    for (side, far), number in zip(side_pairs(sides), load):
+        left[side][far] = number
+        left[far][side] = number
+    rows = []
+    # Rows that do not come home begin at a side with one wire, so these go first.
+    starts = sorted(range(sides), key=lambda one: (sum(left[one]) != 1, one))
+    for start in starts:
+        row = []
+        side = start
+        while sum(left[side]) > 0:
+            far = [other for other in range(sides) if left[side][other] > 0][0]
+            left[side][far] -= 1
+            left[far][side] -= 1
+            row.append((side, far))
+            side = far
+        rows.append(row)
+    return rows

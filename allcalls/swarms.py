@@ -73,14 +73,14 @@ class Swarm:
         self.goals = {load: self.goals_of(load) for load in table.groups}
         self.told = {}
 
-    def after(self, load):
+    def loads_after(self, load):
         """The list of the loads of the frame with one wire more than the load."""
         return [one_more(self.table.sides, load, pair) for pair in self.table.wants[load]]
 
     def least_lack(self, load):
         """The least number of wires more that make a load that is not carried; None if there is none."""
         found = []
-        for other in self.after(load):
+        for other in self.loads_after(load):
             if other not in self.table.groups:
                 return 1
             if self.lacks[other] is not None:
@@ -94,7 +94,7 @@ class Swarm:
         for more in range(1, self.many + 1):
             known = {}
             for one in ring:
-                for other in self.after(one):
+                for other in self.loads_after(one):
                     if other in self.table.groups:
                         known[other] = True
             ring = sorted(known)

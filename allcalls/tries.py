@@ -3,9 +3,10 @@
 from allcalls.boxes import is_lot
 from allcalls.covers import Cover, beyond, first_of, set_of
 from allcalls.errors import BadNumber, TooMany
-from allcalls.finders import Finder, bits_in
+from allcalls.finders import Finder
 from allcalls.kinds import is_plain, is_row, is_tuple_of, is_within
 from allcalls.loads import check_box_load
+from allcalls.packs import bits_in
 from allcalls.trials import check_most, mutes_of
 
 MOST_WAYS = 5000

@@ -3,9 +3,10 @@
 from itertools import combinations
 
 from allcalls.boxes import has_switch, is_lot
-from allcalls.counts import is_of, is_pair_of_sides, no_wires, one_more, pair_place, side_pairs
+from allcalls.counts import is_of, is_pair_of_sides, one_more, pair_place, side_pairs
 from allcalls.errors import TooMany
 from allcalls.kinds import is_tuple_of
+from allcalls.packs import first_over, guards, packed, unit
 
 MOST_STANDINGS = 5000
 
@@ -45,29 +46,74 @@ def pins_of(way):
     return taken
 
 
+class Growth:
+    """Switches that grow to ways, as bits in their order: which ones may still come, by what is there.
+
+    If frame is not None the loads of the ways, which are packed here, are of it. later has, for each switch, those
+    behind it that do not meet it.
+    """
+
+    def __init__(self, sides, switches, frame):
+        pairs = side_pairs(sides)
+        self.between = {}
+        at_pin = {}
+        late = 0
+        for k, (low, high) in enumerate(switches):
+            bit = 1 << k
+            late |= bit
+            at_pin[low] = at_pin.get(low, 0) | bit
+            at_pin[high] = at_pin.get(high, 0) | bit
+            one = unit(len(pairs), pair_place(sides, low[0], high[0]))
+            self.between[one] = self.between.get(one, 0) | bit
+        self.steps = [unit(len(pairs), pair_place(sides, low[0], high[0])) for low, high in switches]
+        self.later = []
+        for k, (low, high) in enumerate(switches):
+            late ^= 1 << k
+            self.later.append(late & ~at_pin[low] & ~at_pin[high])
+        self.guard = guards(len(pairs))
+        self.tops = None if frame is None else [packed(load) for load in frame]
+        self.everything = (1 << len(switches)) - 1
+        self.fits = {}
+        self.known = {}
+
+    def is_fit(self, pack):
+        """Whether the packed load is of the frame."""
+        if pack not in self.fits:
+            self.fits[pack] = first_over(self.tops, pack, self.guard) is not None
+        return self.fits[pack]
+
+    def room(self, pack):
+        """The switches between two sides between which the packed load may have one wire more."""
+        if self.tops is None:
+            return self.everything
+        if pack not in self.known:
+            found = 0
+            for one, lot in self.between.items():
+                if self.is_fit(pack + one):
+                    found |= lot
+            self.known[pack] = found
+        return self.known[pack]
+
+
 def ways_among(sides, switches, frame, most):
     """The ascending list of the ways of these ascending switches, whose loads are of the frame if it is not None.
 
     TooMany(most) if there are more.
     """
+    growth = Growth(sides, switches, frame)
     found = []
-    fits = {}
-    rest = [((), 0, no_wires(sides))]
+    rest = [((), growth.everything, 0)]
     while rest:
-        way, start, load = rest.pop()
+        way, free, pack = rest.pop()
         found.append(way)
         if len(found) > most:
             raise TooMany(most)
-        taken = pins_of(way)
-        for k in range(len(switches) - 1, start - 1, -1):
-            low, high = switches[k]
-            if low in taken or high in taken:
-                continue
-            more = one_more(sides, load, (low[0], high[0]))
-            if more not in fits:
-                fits[more] = frame is None or is_of(frame, more)
-            if fits[more]:
-                rest.append((way + (switches[k],), k + 1, more))
+        left = free & growth.room(pack)
+        # The first switch is pushed last, so that the ways come ascending.
+        while left:
+            k = left.bit_length() - 1
+            left ^= 1 << k
+            rest.append((way + (switches[k],), free & growth.later[k], pack + growth.steps[k]))
     return found
 
 

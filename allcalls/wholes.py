@@ -1,9 +1,13 @@
 """Whole boxes: whether a box carries each load of a frame."""
 
-from allcalls.counts import first_loads, is_load_of
+from heapq import heappop, heappush
+
+from allcalls.counts import is_load_of
 from allcalls.errors import TooMany
 from allcalls.frames import check_frame
-from allcalls.reach import Reach, top_over, way_within
+from allcalls.packs import LANE, WIDTH, first_over, packed, unpacked
+from allcalls.reach import Reach
+from allcalls.tallies import tally_of
 from allcalls.ways import is_way_of, load_of
 
 MOST_LOADS = 20000
@@ -12,16 +16,35 @@ MOST_LOADS = 20000
 def missing(box, frame):
     """The first, by its sum, then by its numbers, of the loads of the frame that the box does not carry."""
     check_frame(box, frame)
-    tops = sorted(Reach(box).steps[-1])
-    if len(first_loads(frame, MOST_LOADS + 1)) > MOST_LOADS:
+    reach = Reach(box)
+    if tally_of(frame, MOST_LOADS) > MOST_LOADS:
         raise TooMany(MOST_LOADS)
-    beyond = [load for load in frame if top_over(tops, load) is None]
-    if not beyond:
-        return None
     # What is not carried lies below a load of the tuple that is not carried.
-    for load in sorted(first_loads(beyond, MOST_LOADS), key=lambda one: (sum(one), one)):
-        if top_over(tops, load) is None:
-            return load
+    beyond = [packed(load) for load in frame if not reach.is_in_reach(load)]
+    return unpacked(first_beyond(reach, beyond), reach.many) if beyond else None
+
+
+def first_beyond(reach, beyond):
+    """The first packed load, by its sum, then by its numbers, that is below one of beyond and not carried.
+
+    A load is not carried if it has, for each greatest one that is, a number that is above its number there. So
+    where it is below one of these, some number is raised just above; the least loads are looked at first.
+    """
+    tops = list(reach.steps[-1])
+    queue = [(0, 0)]
+    seen = {0: True}
+    while queue:
+        total, pack = heappop(queue)
+        top = first_over(tops, pack, reach.guard)
+        if top is None:
+            return pack
+        for place in range(reach.many):
+            shift = WIDTH * place
+            by = ((top >> shift) & LANE) - ((pack >> shift) & LANE) + 1
+            more = pack + (by << shift)
+            if more not in seen and first_over(beyond, more, reach.guard) is not None:
+                seen[more] = True
+                heappush(queue, (total + by, more))
     return None
 
 
@@ -31,7 +54,7 @@ def whole_paper(box, frame):
     reach = Reach(box)
     paper = {}
     for load in frame:
-        way = way_within(box.sides, reach, load)
+        way = reach.way_within(box.sides, load)
         if way is None:
             return None
         paper[load] = way

@@ -20,30 +20,52 @@ INTERFACE = {
     "stricts": "first_stuck is_stuck blocking_tree is_blocking_tree",
     "rules": "rule_standings rule_fails is_rule_paper good_rule grade",
     "seats": "is_seating seatings seated calls call_rows call_answers",
+    "aheads": "is_ahead_keeping ahead_keeping is_ahead_doom ahead_doom longer least_ahead",
+    "foreseen": "behind is_dead dead_row is_family family",
+    "blocks": "effect endless_effects is_block_keeping block_keeping is_block_doom block_doom enough_ahead",
+    "bursts": "bursts burst_answers is_burst_keeping burst_keeping is_burst_doom burst_doom burst_moves"
+              " greatest_burst patience",
+    "breaks": "breaks fewest_breaking breaking_lots way_tree is_way_tree way_left frame_break holds_through"
+              " frame_trees are_frame_trees left_frame matters spare strengthened",
+    "breakgames": "positions to_answer break_answers break_keeping is_break_keeping break_doom is_break_doom"
+                  " least_break_moves break_play",
+    "trials": "within_reach all_mutes told left twins",
+    "partings": "parting bar_of is_parting is_bar_of halving open_caps",
+    "hunts": "suspects trials_left wise foe fewest_trials trials_paper is_trials_paper",
+    "tries": "tries are_tries shield is_shield",
+    "alikes": "is_turn no_turn turn_back turn_on turned_box turned_way turned_load turned_frame turned_asking",
 }
 
 # The interface's modules and, among them, those that are the program's own, each behind all that it imports from.
-ORDER = """errors kinds boxes counts ways frames reach loads wholes splits games keepings dooms stricts rules seats"""
+ORDER = """errors kinds packs boxes counts ways frames reach loads tallies wholes splits games keepings dooms stricts
+rules seats shelves ages plans aheads foreseen effects blocks seekers swarms bursts finders breakers lottables breaks
+breaktables breakgames trials packings parters bearings partings hunts covers tries alikes"""
 
-LIBRARY = {"itertools": {"combinations", "permutations"}}
+LIBRARY = {"itertools": {"combinations", "permutations"}, "math": {"comb", "gcd"}, "heapq": {"heappop", "heappush"}}
 
 BUILTINS = """len range enumerate zip min max sum abs sorted reversed int str bool list tuple dict isinstance
 ValueError""".split()
 
 METHODS = """append count endswith extend find get index insert items join keys pop remove replace setdefault split
-startswith strip update values pairs_at askings_at""".split()
+startswith strip update values bit_length""".split()
+
+# What lists, dicts, strings and numbers have: no attribute is called so.
+BARRED_ATTRIBUTES = """items keys values pop update append clear extend insert remove reverse setdefault sort args
+encode decode hex fromhex format format_map mro register elements open input law""".split()
 
 BARRED_WORDS = """type typing typing_extensions enum Enum IntEnum StrEnum Flag IntFlag Generic Protocol ABC ABCMeta
 namedtuple NamedTuple TypedDict TYPE_CHECKING abstractmethod""".split()
 
 BARRED_NAMES = """register mro elements open input law version_info with_traceback add_note attrgetter breakpoint
 builtins compile copyright credits delattr dir eval exec exit gc getattr globals hasattr help id importlib license
-locals methodcaller os quit setattr super type vars sys""".split()
+locals methodcaller os quit setattr super type vars sys iter next map""".split()
 
 BARRED_NODES = (
     ast.Global, ast.AsyncFunctionDef, ast.Await, ast.Set, ast.SetComp, ast.GeneratorExp, ast.Yield, ast.YieldFrom,
-    ast.Div, ast.Pow, ast.AnnAssign, ast.Try, ast.With, ast.Match, ast.Delete,
+    ast.Div, ast.Pow, ast.AnnAssign, ast.Try, ast.With, ast.Match, ast.Delete, ast.Nonlocal, ast.NamedExpr, ast.Assert,
 )
+
+COMPREHENSIONS = (ast.ListComp, ast.DictComp)
 
 
 def files():
@@ -56,6 +78,10 @@ def tree_of(path):
 
 def functions(tree):
     return [node for node in ast.walk(tree) if isinstance(node, ast.FunctionDef)]
+
+
+def stored(node):
+    return {one.id for one in ast.walk(node) if isinstance(one, ast.Name) and isinstance(one.ctx, ast.Store)}
 
 
 class Form(unittest.TestCase):
@@ -106,13 +132,23 @@ class Form(unittest.TestCase):
                 made |= {item.targets[0].id for item in own if isinstance(item, ast.Assign)}
                 self.assertLessEqual(names, made, path)
 
-    def test_nothing_is_imported_in_vain(self):
+    def test_nothing_is_imported_or_made_in_vain(self):
+        every = {}
         for path in files():
             tree = tree_of(path)
             used = {node.id for node in ast.walk(tree) if isinstance(node, ast.Name)}
+            used |= {node.attr for node in ast.walk(tree) if isinstance(node, ast.Attribute)}
+            every[path.stem] = used
             for node in tree.body:
                 if isinstance(node, ast.ImportFrom):
                     self.assertLessEqual({alias.name for alias in node.names}, used, path)
+        everywhere = set().union(*every.values())
+        for path in files():
+            told = set(INTERFACE.get(path.stem, "").split())
+            for node in ast.walk(tree_of(path)):
+                own = isinstance(node, (ast.FunctionDef, ast.ClassDef)) and not node.name.startswith("__")
+                if own and path.stem != "errors" and node.name not in told:
+                    self.assertIn(node.name, everywhere, path)
 
     def test_interface(self):
         for module, names in INTERFACE.items():
@@ -132,29 +168,48 @@ class Form(unittest.TestCase):
                 if isinstance(node, ast.Assign):
                     top += [target.id for target in node.targets]
             self.assertEqual(len(top), len(set(top)), path)
-            local = {node.arg for node in ast.walk(tree) if isinstance(node, ast.arg)}
-            stores = [node for node in ast.walk(tree) if isinstance(node, ast.Name)]
-            local |= {node.id for node in stores if isinstance(node.ctx, ast.Store)}
-            self.assertFalse(local & fixed, (path, local & fixed))
+            local = {node.arg for node in ast.walk(tree) if isinstance(node, ast.arg)} | stored(tree)
+            constants = {target.id for node in tree.body if isinstance(node, ast.Assign) for target in node.targets}
+            self.assertFalse((local - constants) & fixed, (path, local & fixed))
             mine = local | set(top)
             self.assertFalse(mine & set(dir(builtins)), (path, mine & set(dir(builtins))))
             self.assertFalse(mine & set(BARRED_NAMES), path)
             self.assertFalse([name for name in mine if name.startswith("_") and name != "_"], path)
+            read = [node.id for node in ast.walk(tree) if isinstance(node, ast.Name) and isinstance(node.ctx, ast.Load)]
+            self.assertNotIn("_", read, path)
 
-    def test_builtins_and_methods(self):
-        own = set()
+    def test_methods_and_attributes(self):
+        methods, attributes, reads = set(), set(), set()
         for path in files():
-            own |= {node.name for node in functions(tree_of(path))}
+            for node in ast.walk(tree_of(path)):
+                if isinstance(node, ast.ClassDef):
+                    own = [item.name for item in node.body if isinstance(item, ast.FunctionDef)]
+                    self.assertEqual(len(own), len(set(own)), node.name)
+                    methods |= {name for name in own if not name.startswith("__")}
+                if isinstance(node, ast.Attribute):
+                    (attributes if isinstance(node.ctx, ast.Store) else reads).add(node.attr)
+        self.assertFalse(methods & attributes)
+        self.assertFalse((methods | attributes) & set(METHODS + BARRED_ATTRIBUTES))
+        self.assertLessEqual(reads, methods | attributes | set(METHODS) | {"__init__"})
+
+    def test_builtins_and_calls(self):
+        methods = set(METHODS) | {"__init__"}
+        for path in files():
+            for node in ast.walk(tree_of(path)):
+                if isinstance(node, ast.ClassDef):
+                    methods |= {item.name for item in node.body if isinstance(item, ast.FunctionDef)}
         for path in files():
             tree = tree_of(path)
             used = {node.id for node in ast.walk(tree) if isinstance(node, ast.Name)} & set(dir(builtins))
             self.assertLessEqual(used, set(BUILTINS), path)
             for node in ast.walk(tree):
                 if isinstance(node, ast.Call) and isinstance(node.func, ast.Attribute):
-                    self.assertIn(node.func.attr, METHODS + ["__init__"], (path, node.lineno))
+                    self.assertIn(node.func.attr, methods, (path, node.lineno))
                 if isinstance(node, ast.Call):
+                    self.assertIsInstance(node.func, (ast.Name, ast.Attribute), (path, node.lineno))
                     names = {word.arg for word in node.keywords}
                     self.assertLessEqual(names, {"key", "reverse"}, (path, node.lineno))
+                    self.assertFalse([one for one in node.args if isinstance(one, ast.Starred)], path)
 
     def test_nodes(self):
         for path in files():
@@ -173,6 +228,36 @@ class Form(unittest.TestCase):
                     for sign, other in zip(node.ops, node.comparators):
                         if isinstance(sign, (ast.Is, ast.IsNot)):
                             self.assertIsInstance(other, ast.Constant, (path, node.lineno))
+                if isinstance(node, ast.Raise) and node.exc is not None:
+                    self.assertIsInstance(node.exc, ast.Call, (path, node.lineno))
+
+    def test_comprehensions_and_lambdas(self):
+        for path in files():
+            for function in functions(tree_of(path)):
+                inner = [node for node in ast.walk(function) if isinstance(node, COMPREHENSIONS + (ast.Lambda,))]
+                own = {node.arg for node in function.args.args}
+                for node in ast.walk(function):
+                    if isinstance(node, (ast.Assign, ast.AugAssign, ast.For)):
+                        for target in getattr(node, "targets", None) or [node.target]:
+                            own |= stored(target)
+                for node in inner:
+                    bound = own | set().union(*[stored(one) for one in inner if one is not node])
+                    for one in ast.walk(node):
+                        if one is not node and isinstance(one, COMPREHENSIONS):
+                            names = set().union(*[stored(part.target) for part in one.generators])
+                            outer = own | set().union(*[stored(part.target) for part in getattr(node, "generators", [])])
+                            self.assertFalse(names & outer, (path, one.lineno))
+                    if isinstance(node, ast.Lambda):
+                        self.assertEqual(len(node.args.args), 1)
+                        self.assertNotIn(node.args.args[0].arg, bound, (path, node.lineno))
+
+    def test_products_are_iterated_at_once(self):
+        for path in files():
+            for function in functions(tree_of(path)):
+                for node in ast.walk(function):
+                    if isinstance(node, ast.Call) and getattr(node.func, "id", "") in LIBRARY["itertools"]:
+                        for one in node.args:
+                            self.assertIsInstance(one, (ast.Name, ast.Call), (path, node.lineno))
 
     def test_strings(self):
         for path in files():
@@ -202,6 +287,12 @@ class Form(unittest.TestCase):
                     if isinstance(node, ast.Call) and isinstance(node.func, ast.Attribute):
                         if node.func.attr in changing:
                             self.assertNotIn(ast.dump(node.func.value), over, (path, node.lineno))
+                for node in loop.body:
+                    for one in ast.walk(node):
+                        if isinstance(one, ast.Subscript) and isinstance(one.ctx, ast.Store):
+                            whole = ast.dump(one.value).replace("Store()", "Load()")
+                            plain = isinstance(loop.iter, ast.Call) and getattr(loop.iter.func, "id", "") == "range"
+                            self.assertTrue(plain or whole not in over, (path, one.lineno))
 
 
 if __name__ == "__main__":
