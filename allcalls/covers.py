@@ -76,7 +76,7 @@ class Cover:
         """The rows that have the first member left and are not barred, those with the most members left first."""
         rows = [row for row in self.having[first_of(left)] if row not in barred]
         sizes = {row: size_both(self.rows[row], left) for row in rows}
-        return sorted(rows, key=lambda row: (-sizes[row], row))
+        return sorted(rows, key=lambda one: (-sizes[one], one))
 
     def greedy(self):
         """A list of rows that have all members together; None if some member is in none."""
