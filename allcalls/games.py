@@ -82,7 +82,7 @@ def answers_of(table, moves, k, pair):
 def ranks_of(table, links, barred):
     """The list of the ranks of all standings: None for those that are not lost, or of barred (a dict of numbers)."""
     ranks = [None] * len(table.ways)
-    counts = [len([k for k in found if k not in barred]) for found in links.answers]
+    counts = [len([one for one in found if one not in barred]) for found in links.answers]
     reached = []
     for k in range(len(table.ways)):
         if k not in barred and is_stranded(table, links, barred, counts, k):

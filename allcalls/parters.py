@@ -97,7 +97,7 @@ class Parter:
         """The list of the items of a parting of all wires by these caps; None if there is none."""
         wide = [at for at in range(len(caps)) if caps[at] > 0]
         # Each wire needs one item at most, and the widest serve best.
-        wide = sorted(sorted(wide, key=lambda at: -caps[at])[:len(self.wires)])
+        wide = sorted(sorted(wide, key=lambda one: -caps[one])[:len(self.wires)])
         most = self.greatest_size()
         found = self.search([(min(caps[at], most), 0) for at in wide])
         if found is None:

@@ -35,7 +35,7 @@ class Quest:
         # Whoever has a way without more mutes has one without less.
         found = [mutes for mutes in self.mutes if bits_in(mutes) == greatest]
         left = {mutes: len([way for way in self.ways if not way & mutes]) for mutes in found}
-        return sorted(found, key=lambda mutes: (left[mutes], mutes))
+        return sorted(found, key=lambda one: (left[one], one))
 
     def cover(self, mutes):
         """The cover whose members are these mutes, and whose rows are the ways, each with those that it has none of."""
