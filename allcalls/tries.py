@@ -39,7 +39,7 @@ class Quest:
 
     def cover(self, mutes):
         """The cover whose members are these mutes, and whose rows are the ways, each with those that it has none of."""
-        having = [[k for k, way in enumerate(self.ways) if not way & lot] for lot in mutes]
+        having = [[at for at, way in enumerate(self.ways) if not way & lot] for lot in mutes]
         rows = [[] for _ in self.ways]
         for member, found in enumerate(having):
             for k in found:
