@@ -13,7 +13,7 @@ from tests.helpers import (any_values, anew, every_way, count_load, listed, pair
                            some_frame, too_many, untrue)
 from tests.test_aheads import BOX_A, BOX_MORE, EMPTY, FRAME_A, FRAME_MORE, load_of_seating
 from tests.test_seats import (FRAME_5000, FRAME_5001, SEATED_5000, SEATED_5001, every_call, every_row, every_seating,
-                              is_answer)
+                              is_answer, led)
 
 A = ((0, 0), (1, 0))
 B = ((0, 1), (1, 1))
@@ -33,8 +33,16 @@ DEAD_B = (("want", (0, 1)), ("want", (0, 2)), ("end", (0, 2), 0), ("want", (1, 2
 def call_game(box, frame, moves):
     """The dict from all seatings to dicts from their calls to all answers."""
     every = every_seating(box, frame)
-    return {seating: {call: [other for other in every if is_answer(box.sides, moves, seating, call, other)]
-                      for call in every_call(box.sides, frame, load_of_seating(seating))} for seating in every}
+    groups = {}
+    for seating in every:
+        groups.setdefault(load_of_seating(seating), []).append(seating)
+    game = {}
+    for seating in every:
+        load = load_of_seating(seating)
+        game[seating] = {call: [other for other in groups.get(led(box.sides, load, call), [])
+                                if is_answer(box.sides, moves, seating, call, other)]
+                         for call in every_call(box.sides, frame, load)}
+    return game
 
 
 def plainly_behind(game, held, row):
@@ -246,8 +254,45 @@ class Families(unittest.TestCase):
         self.assertIs(is_family(box, zeros, 0, ()), False)
 
 
-# Boxes and frames (without moves) with just so many lists behind rows, and whether a row is dead there.
-"""LISTS"""
+# A box without dead rows. With so many switches between the sides 0 and 3, and a load that wants just these, it has one
+# list more for each.
+BASE = (
+    ((0, 0), (1, 1)), ((0, 1), (1, 1)), ((0, 1), (1, 3)), ((0, 1), (2, 2)), ((0, 2), (1, 1)), ((0, 2), (1, 2)),
+    ((0, 2), (2, 0)), ((0, 2), (2, 1)), ((0, 2), (2, 2)), ((0, 2), (2, 3)), ((0, 3), (1, 0)), ((0, 3), (1, 2)),
+    ((0, 3), (2, 0)), ((0, 3), (2, 1)), ((0, 3), (2, 2)), ((1, 0), (2, 2)), ((1, 1), (2, 3)))
+
+TOPS = ((0, 3, 0, 0, 0, 0), (3, 1, 0, 1, 0, 0))
+# Likewise, but with a dead row.
+BASE_DEAD = (
+    ((0, 0), (2, 1)), ((0, 0), (2, 2)), ((0, 1), (1, 3)), ((0, 2), (1, 0)), ((0, 2), (1, 1)), ((0, 2), (2, 0)),
+    ((0, 2), (2, 1)), ((0, 3), (1, 2)), ((0, 3), (2, 1)), ((0, 3), (2, 4)), ((0, 4), (1, 3)), ((0, 4), (2, 0)),
+    ((1, 0), (2, 0)), ((1, 1), (2, 0)), ((1, 3), (2, 2)))
+TOPS_DEAD = ((1, 0, 0, 2, 0, 0), (2, 2, 0, 1, 0, 0))
+
+
+def widened(switches, tops, more):
+    """The box and the frame with so many switches more."""
+    wider = switches + tuple(((0, track), (3, track)) for track in range(more))
+    return Box(4, 5, tuple(sorted(wider))), ((0, 0, more, 0, 0, 0),) + tops
+
+
+def lists_ahead(game, empty):
+    """The pair of how many lists rows have behind them, row by row up to the first dead one, and of that row."""
+    seen = {(empty,)}
+    ring = [((), (empty,))]
+    while ring:
+        longer = []
+        for row, held in ring:
+            for call in game[held[0]]:
+                other = plainly_behind(game, held, (call,))
+                if not other:
+                    return len(seen), row + (call,)
+                # Rows behind a list that is known have known lists behind them.
+                if other not in seen:
+                    seen.add(other)
+                    longer.append((row + (call,), other))
+        ring = longer
+    return len(seen), None
 
 
 class Refused(unittest.TestCase):
@@ -278,6 +323,38 @@ class Refused(unittest.TestCase):
         self.assertIs(is_family(SEATED_5000, FRAME_5000, 0, ()), False)
         between = [switch for switch in SEATED_5000.switches if (switch[0][0], switch[1][0]) == (0, 1)]
         self.assertEqual(behind(SEATED_5000, FRAME_5000, 0, (WANT,)), [((switch,), (), ()) for switch in between])
+
+    def test_too_many_lists(self):
+        for more, many in ((3, 5000), (4, 5001)):
+            box, frame = widened(BASE, TOPS, more)
+            self.assertEqual(lists_ahead(call_game(box, frame, 0), no_seats(box)), (many, None))
+            if many > 5000:
+                for function in (dead_row, family):
+                    too_many(self, 5000, function, box, frame, 0)
+                    with self.assertRaises(BadMoves):
+                        function(box, frame, None)
+            else:
+                self.assertIsNone(dead_row(box, frame, 0))
+                found = family(box, frame, 0)
+                self.assertEqual(len(found), many)
+                self.assertIs(is_family(box, frame, 0, found), True)
+            # Lists are not counted in the others.
+            self.assertEqual(len(behind(box, frame, 0, (("want", (0, 3)),))), more)
+            self.assertIs(is_dead(box, frame, 0, (("want", (0, 3)),)), False)
+            self.assertIs(is_family(box, frame, 0, ()), False)
+
+    def test_too_many_lists_ahead_of_a_dead_row(self):
+        for more, many in ((2, 5000), (3, 5001)):
+            box, frame = widened(BASE_DEAD, TOPS_DEAD, more)
+            told, row = lists_ahead(call_game(box, frame, 0), no_seats(box))
+            self.assertEqual(told, many)
+            self.assertIs(is_dead(box, frame, 0, row), True)
+            if many > 5000:
+                for function in (dead_row, family):
+                    too_many(self, 5000, function, box, frame, 0)
+            else:
+                self.assertEqual(dead_row(box, frame, 0), row)
+                self.assertIsNone(family(box, frame, 0))
 
 
 if __name__ == "__main__":
