@@ -130,6 +130,9 @@ class Cover:
         members = members_of(left)
         if not members:
             return None
+        for member in members:
+            if not self.having[member]:
+                return {member: 1}
         sizes = [size_both(row, left) for row in self.rows]
         if max(sizes + [0]) * many < len(members):
             return {member: 1 for member in members}
