@@ -4,7 +4,9 @@ import importlib
 import inspect
 import unittest
 
+from allcalls.aheads import ahead_keeping
 from allcalls.boxes import Box, crossed, plain
+from allcalls.breaks import way_tree
 
 SIGNATURES = {
     "boxes": "plain(sides, tracks); crossed(sides, tracks); full(sides, tracks); beside(one, other);"
@@ -32,6 +34,42 @@ SIGNATURES = {
     "seats": "is_seating(box, frame, thing); seatings(box, frame); seated(box, frame, seating);"
              " calls(box, frame, load); call_rows(box, frame, load, many);"
              " call_answers(box, frame, moves, seating, call)",
+    "aheads": "is_ahead_keeping(box, frame, moves, ahead, thing); ahead_keeping(box, frame, moves, ahead);"
+              " is_ahead_doom(box, frame, moves, ahead, thing); ahead_doom(box, frame, moves, ahead);"
+              " longer(box, frame, moves, ahead, keeping); least_ahead(box, frame, moves, most)",
+    "foreseen": "behind(box, frame, moves, row); is_dead(box, frame, moves, thing); dead_row(box, frame, moves);"
+                " is_family(box, frame, moves, thing); family(box, frame, moves)",
+    "blocks": "effect(box, frame, moves, load, row); endless_effects(box, frame, moves);"
+              " is_block_keeping(box, frame, moves, thing); block_keeping(box, frame, moves);"
+              " is_block_doom(box, frame, moves, thing); block_doom(box, frame, moves);"
+              " enough_ahead(box, frame, moves)",
+    "bursts": "bursts(box, frame, many, standing); burst_answers(box, frame, moves, many, standing, burst);"
+              " is_burst_keeping(box, frame, moves, many, thing); burst_keeping(box, frame, moves, many);"
+              " is_burst_doom(box, frame, moves, many, thing); burst_doom(box, frame, moves, many);"
+              " burst_moves(box, frame, many); greatest_burst(box, frame, moves); patience(box, frame, moves)",
+    "breaks": "breaks(box, load, lot); fewest_breaking(box, load); breaking_lots(box, load);"
+              " way_tree(box, load, number); is_way_tree(box, load, number, thing); way_left(box, load, lot, tree);"
+              " frame_break(box, frame); holds_through(box, frame, number); frame_trees(box, frame, number);"
+              " are_frame_trees(box, frame, number, thing); left_frame(box, frame, lot);"
+              " matters(box, frame, switch); spare(box, frame); strengthened(box, frame, number, most)",
+    "breakgames": "positions(box, frame, number); to_answer(box, frame, number, position);"
+                  " break_answers(box, frame, moves, number, position, asked);"
+                  " break_keeping(box, frame, moves, number); is_break_keeping(box, frame, moves, number, thing);"
+                  " break_doom(box, frame, moves, number); is_break_doom(box, frame, moves, number, thing);"
+                  " least_break_moves(box, frame, number); break_play(box, frame, moves, number, line)",
+    "trials": "within_reach(box, frame); all_mutes(box, frame, most); told(box, frame, telling, mutes, trial);"
+              " left(box, frame, telling, most, heard); twins(box, frame, telling, most, trials)",
+    "partings": "parting(box, frame, some, caps); bar_of(box, frame, some, caps);"
+                " is_parting(box, frame, some, caps, thing); is_bar_of(box, frame, some, caps, thing);"
+                " halving(number); open_caps(number)",
+    "hunts": "suspects(box, frame, heard); trials_left(box, frame, heard); wise(box, frame, heard);"
+             " foe(box, frame, heard, trial); fewest_trials(box, frame, telling); trials_paper(box, frame, telling);"
+             " is_trials_paper(box, frame, telling, thing)",
+    "tries": "tries(box, load, most); are_tries(box, load, most, thing); shield(box, load, most, number);"
+             " is_shield(box, load, most, number, thing)",
+    "alikes": "is_turn(sides, tracks, thing); no_turn(sides, tracks); turn_back(sides, tracks, turn);"
+              " turn_on(sides, tracks, turn, then); turned_box(box, turn); turned_way(box, turn, way);"
+              " turned_load(box, turn, load); turned_frame(box, turn, frame); turned_asking(box, turn, asking)",
 }
 
 A = ((0, 0), (1, 0))
@@ -42,7 +80,23 @@ RIGHT = {
     "gone": (A,), "thing": None, "way": (A,), "frame": ((2,),), "standing": (A,), "moves": 1,
     "asking": ("want", (0, 1)), "load": (1,), "piece": ((0, 0), (1, 0)), "room": 2, "barred": ((A,),),
     "pair": (0, 1), "rule": (A, ((0, 1), (1, 1))), "seating": ((A,),), "call": ("want", (0, 1)), "many": 2,
+    "ahead": 1, "most": 1, "row": (("want", (0, 1)),), "burst": ((A,), (0,)), "lot": (A,), "number": 1, "switch": A,
+    "asked": ("want", (0, 1)), "line": [], "telling": "each", "mutes": (A,), "trial": (A,), "heard": [], "trials": [],
+    "some": (A,), "caps": [1], "turn": ((1, 0), ((1, 0), (0, 1))), "then": ((0, 1), ((1, 0), (0, 1))),
 }
+
+# Right arguments for functions whose arguments of these names are others than above.
+OWN = {
+    "longer": {"keeping": ahead_keeping(plain(2, 2), ((2,),), 1, 1)}, "way_left": {"tree": way_tree(plain(2, 2), (1,), 1)},
+    "effect": {"row": (("end", (0, 1), 0),)}, "to_answer": {"position": ((A,), ())},
+    "break_answers": {"position": ((A,), ())},
+}
+
+
+def right_for(name, words):
+    """The dict from the names of the arguments of a function to right ones."""
+    told = {**RIGHT, **OWN.get(name, {})}
+    return {word: told[word] for word in words.split(", ")}
 
 
 class Signatures(unittest.TestCase):
@@ -62,7 +116,7 @@ class Signatures(unittest.TestCase):
             for told in text.split(";"):
                 name, words = told.strip()[:-1].split("(")
                 function = getattr(held, name)
-                right = {word: RIGHT[word] for word in words.split(", ")}
+                right = right_for(name, words)
                 with self.subTest(name):
                     by_name = function(**{word: right[word] for word in reversed(list(right))})
                     self.assertEqual(by_name, function(*right.values()))
@@ -73,8 +127,7 @@ class Signatures(unittest.TestCase):
             for told in text.split(";"):
                 name, words = told.strip()[:-1].split("(")
                 if words.split(", ")[-1] == "thing":
-                    right = [RIGHT[word] for word in words.split(", ")]
-                    self.assertIs(getattr(held, name)(*right), False, name)
+                    self.assertIs(getattr(held, name)(*right_for(name, words).values()), False, name)
 
     def test_box_has_its_own_equality(self):
         self.assertIn("__eq__", vars(Box))
