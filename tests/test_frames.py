@@ -41,6 +41,19 @@ def tree_box(many):
     return Box(5, 6, tuple(sorted(switches)))
 
 
+def let_counted(sides, tracks):
+    """How many loads so many tracks let."""
+    rooms = {(tracks,) * sides: 1}
+    for one, two in pairs_of(sides):
+        less = {}
+        for room, many in rooms.items():
+            for number in range(min(room[one], room[two]) + 1):
+                left = tuple(own - number * (side in (one, two)) for side, own in enumerate(room))
+                less[left] = less.get(left, 0) + many
+        rooms = less
+    return sum(rooms.values())
+
+
 class Loads(unittest.TestCase):
     def test_is_load(self):
         for sides in range(2, 6):
@@ -89,6 +102,35 @@ class Loads(unittest.TestCase):
                 for side in range(sides))]
             top = [load for load in let if not any(load != other and under(load, other) for other in let)]
             self.assertEqual(greatest_loads(sides, tracks), tuple(top))
+
+    def test_how_many_loads_are_let(self):
+        # Counted by the sums that are left, pair by pair; 5 sides let too many from 5 tracks on, no others do.
+        counts = {(sides, tracks): let_counted(sides, tracks) for sides in range(2, 6) for tracks in range(7)}
+        self.assertEqual((counts[4, 6], counts[5, 3], counts[5, 4], counts[5, 5]), (3616, 2698, 14751, 62781))
+        for (sides, tracks), many in counts.items():
+            if many > 20000:
+                too_many(self, 20000, greatest_loads, sides, tracks)
+            else:
+                found = greatest_loads(sides, tracks)
+                self.assertEqual(list(found), sorted(set(found)))
+                for load in found:
+                    sums = [sum(number for pair, number in zip(pairs_of(sides), load) if side in pair)
+                            for side in range(sides)]
+                    self.assertTrue(max(sums) <= tracks and sum(own < tracks for own in sums) <= 1)
+
+    def test_all_greatest_loads_are_told(self):
+        # All loads below those that are told are all that are let.
+        for sides, tracks in ((4, 6), (5, 2), (5, 3), (4, 3), (3, 6)):
+            found = set(greatest_loads(sides, tracks))
+            rest = list(found)
+            while rest:
+                load = rest.pop()
+                for place, number in enumerate(load):
+                    less = load[:place] + (number - 1,) + load[place + 1:]
+                    if number > 0 and less not in found:
+                        found.add(less)
+                        rest.append(less)
+            self.assertEqual(len(found), let_counted(sides, tracks))
 
     def test_greatest_loads_too_many(self):
         for sides in (2, 3, 4):

@@ -31,6 +31,35 @@ SUMS_1001 = Box(5, 4, (
     ((2, 0), (4, 0)), ((2, 1), (3, 1)), ((2, 1), (4, 1)), ((2, 3), (3, 3)), ((2, 3), (4, 3)), ((3, 0), (4, 0)),
     ((3, 1), (4, 1)), ((3, 2), (4, 2)), ((3, 3), (4, 3))))
 
+# Boxes of one piece each: sides, tracks, how many ways there are, and the switches, side and track of both pins.
+WAYS = {
+    (3, 5, 20000): (
+        "0011 0013 0022 0110 0113 0114 0120 0122 0214 0222 0223 0311 0312 0321 0322 0324 0412 0413 0414 0420 "
+        "0423 1120 1121 1122 1123 1124 1222 1320 1321 1324 1420 1421 1422 1424"),
+    (3, 5, 20001): (
+        "0011 0012 0020 0022 0024 0110 0113 0114 0120 0121 0122 0123 0210 0223 0310 0311 0313 0323 0410 0413 "
+        "0420 0421 0422 1024 1123 1124 1220 1320 1322 1324 1420 1423 1424"),
+    (4, 3, 20000): (
+        "0011 0020 0021 0030 0031 0032 0111 0112 0120 0121 0122 0130 0131 0132 0211 0212 0220 0221 0222 0231 "
+        "0232 1020 1021 1022 1030 1031 1032 1120 1121 1122 1130 1131 1132 1220 1221 1222 1231 2130 2131 2132 "
+        "2231 2232"),
+    (4, 3, 20001): (
+        "0010 0011 0012 0020 0021 0022 0030 0031 0110 0111 0112 0120 0121 0122 0131 0132 0211 0212 0220 0222 "
+        "0230 0231 0232 1021 1022 1030 1031 1032 1120 1122 1130 1132 1220 1221 1222 1230 1232 2131 2132 2230 "
+        "2231 2232"),
+    (5, 3, 20000): (
+        "0011 0012 0022 0031 0032 0041 0042 0120 0140 0211 0241 1022 1030 1041 1042 1122 1130 1132 1140 1230 "
+        "1240 2040 2042 2140 2141 2230 2231 2240 2242 3042 3140 3141 3142 3240 3242"),
+    (5, 3, 20001): (
+        "0010 0032 0041 0122 0140 0142 0211 0222 0230 1031 1032 1040 1041 1121 1130 1131 1140 1230 1231 1240 "
+        "1242 2030 2141 2142 2240 2241 2242 3040 3042 3141 3142 3240 3241 3242"),
+}
+
+
+def box_told(sides, tracks, text):
+    return Box(sides, tracks, tuple(((int(word[0]), int(word[1])), (int(word[2]), int(word[3])))
+                                    for word in text.split()))
+
 
 def tops(loads):
     """Those of the loads that are below no other one, ascending."""
@@ -138,6 +167,66 @@ class Pieces(unittest.TestCase):
         too_many(self, 20000, box_frame, more)
         with self.assertRaises(BadLoad):
             way_for(more, zero + (0,))
+
+    def test_boxes_that_have_far_too_many_ways(self):
+        great, zero = full(4, 3), (0,) * 6
+        self.assertEqual(pieces(great), [tuple((side, track) for side in range(4) for track in range(3))])
+        too_many(self, 20000, piece_loads, great, pieces(great)[0])
+        too_many(self, 20000, box_frame, great)
+        for load in (zero, (1,) * 6, (99,) * 6):
+            too_many(self, 20000, way_for, great, load)
+            too_many(self, 20000, bar, great, load)
+            for thing in (None, [], [[zero], [zero]]):
+                too_many(self, 20000, is_bar, great, load, thing)
+        too_many(self, 1000, box_frame, plain(5, 6))
+        for load in (None, zero[1:], (100,) + zero[1:]):
+            for function, rest in ((way_for, ()), (bar, ()), (is_bar, (None,))):
+                with self.assertRaises(BadLoad):
+                    function(great, load, *rest)
+        with self.assertRaises(BadPiece):
+            piece_loads(great, pieces(great)[0][1:])
+
+    def test_pieces_of_just_so_many_ways(self):
+        for (sides, tracks, many), text in WAYS.items():
+            box = box_told(sides, tracks, text)
+            ways = every_way(box)
+            self.assertEqual((len(ways), len(pieces(box))), (many, 1))
+            zero = (0,) * len(pairs_of(sides))
+            calls = [(piece_loads, (pieces(box)[0],)), (box_frame, ()), (way_for, (zero,)), (bar, (zero,)),
+                     (is_bar, (zero, [])), (bar, ((99,) * len(zero),))]
+            if many > 20000:
+                for function, rest in calls:
+                    too_many(self, 20000, function, box, *rest)
+                continue
+            loads = {count_load(sides, way) for way in ways}
+            top = [load for load in loads if not any(
+                tuple(number + (at == place) for at, number in enumerate(load)) in loads for place in range(len(load)))]
+            # What is below a load that is carried is carried, so a greatest one has none with one wire more.
+            self.assertEqual(piece_loads(box, pieces(box)[0]), tuple(sorted(top)))
+            self.assertEqual(box_frame(box), tuple(sorted(top)))
+            self.assertEqual(bar(box, (99,) * len(zero)), [[zero], sorted(top)])
+            for load in top[:20]:
+                self.assertIs(is_way_for(box, load, way_for(box, load)), True)
+            self.assertIsNone(bar(box, zero))
+            self.assertIs(is_bar(box, zero, []), False)
+            self.assertIs(is_bar(box, (99,) * len(zero), [[zero], sorted(top)]), True)
+
+    def test_some_more_and_less(self):
+        # With a switch less there are fewer ways, with one more that meets what is there there are more.
+        for (sides, tracks, many), text in WAYS.items():
+            box = box_told(sides, tracks, text)
+            for k in range(0, len(box.switches), 17):
+                less = Box(sides, tracks, box.switches[:k] + box.switches[k + 1:])
+                wide = [len(every_way(Box(sides, tracks, tuple(wire for wire in less.switches if wire[0] in piece))))
+                        for piece in pieces(less)]
+                self.assertLess(max(wide), 20000)
+                self.assertTrue(box_frame(less))
+            new = [wire for wire in full(sides, tracks).switches if wire not in box.switches]
+            for wire in new[::25]:
+                more = Box(sides, tracks, tuple(sorted(box.switches + (wire,))))
+                self.assertEqual(len(pieces(more)), 1)
+                self.assertGreater(len(every_way(more)), 20000)
+                too_many(self, 20000, box_frame, more)
 
     def test_only_the_own_piece_counts(self):
         great = full(3, 4)

@@ -9,7 +9,8 @@ from allcalls.frames import greatest_loads
 from allcalls.loads import is_way_for, way_for
 from allcalls.splits import (crossed_split, is_crossed_split, is_plain_split, mates_way, plain_bar, plain_need,
                              plain_split, side_sums, triangle_sums)
-from tests.helpers import any_values, anew, ascending_dict, every_load, listed, pairs_of, refuse, untrue
+from tests.helpers import (any_values, anew, ascending_dict, count_load, every_load, listed, pairs_of, refuse, untrue,
+                           with_one)
 
 
 def at_side(sides, load, side):
@@ -157,6 +158,34 @@ class Crossed(unittest.TestCase):
         self.check(5, (24,) * 10, 99, crossed_split(5, (24,) * 10, 99))
         self.assertIsNone(crossed_split(5, (25,) * 10, 99))
         anew(self, crossed_split, 4, (1,) * 6, 4)
+
+    def test_wide_splits(self):
+        for load in ((24,) * 10, (0,) * 10, (99,) + (0,) * 8 + (99,), (1,) * 10, (33, 33, 33, 0, 33, 33, 0, 33, 0, 0)):
+            self.check(5, load, 99, crossed_split(5, load, 99))
+        rnd = random.Random(43)
+        for _ in range(60):
+            sides = rnd.choice([4, 5])
+            load = (0,) * len(pairs_of(sides))
+            while sum(load) < 180:
+                more = with_one(sides, load, rnd.choice(pairs_of(sides)))
+                if max(at_side(sides, more, side) for side in range(sides)) > 99:
+                    break
+                load = more
+            self.check(sides, load, 99, crossed_split(sides, load, 99))
+
+    def test_ways_of_mates(self):
+        for load in ((0,) * 10, (2, 0, 0, 0, 0, 0, 0, 0, 0, 2), (1, 0, 0, 1, 1, 0, 0, 1, 0, 1)):
+            way = mates_way(5, load)
+            self.assertEqual(count_load(5, way), load)
+            self.assertIs(is_way_for(crossed(5, 2), load, way), True)
+        rnd = random.Random(44)
+        for _ in range(200):
+            load = (0,) * 10
+            for _ in range(12):
+                more = with_one(5, load, rnd.choice(pairs_of(5)))
+                if max(at_side(5, more, side) for side in range(5)) <= 2:
+                    load = more
+            self.assertIs(is_way_for(crossed(5, 2), load, mates_way(5, load)), True)
 
     def test_refusals(self):
         wrong = {0: [1, 6], 1: [(1, 1), (0, 0, 100), [0, 0, 0]] + untrue((1, 0, 1)), 2: [-1, 100]}
