@@ -26,6 +26,16 @@ def beyond(one, other):
     return [mine & ~yours for mine, yours in zip(one, other)]
 
 
+def both_of(one, other):
+    """The set of the members of both."""
+    return [mine & yours for mine, yours in zip(one, other)]
+
+
+def joined(one, other):
+    """The set of the members of the one or the other."""
+    return [mine | yours for mine, yours in zip(one, other)]
+
+
 def size_both(one, other):
     """How many members are in both."""
     return sum([bits_in(mine & yours) for mine, yours in zip(one, other)])
@@ -57,10 +67,33 @@ def members_of(one):
     return found
 
 
+class Misses:
+    """Some lots of switches, numbered, and which of them have none of the switches of another lot.
+
+    Lots are whole numbers with a bit for each switch. having: for each bit the set of those that have it.
+    """
+
+    def __init__(self, lots):
+        self.every = set_of(list(range(len(lots))), len(lots))
+        numbers = {}
+        for k, lot in enumerate(lots):
+            for bit in members_of([lot]):
+                numbers.setdefault(bit, []).append(k)
+        self.having = {bit: set_of(found, len(lots)) for bit, found in numbers.items()}
+
+    def missing(self, lot):
+        """The set of those that have no switch of the lot."""
+        found = self.every
+        for bit in members_of([lot]):
+            if bit in self.having:
+                found = beyond(found, self.having[bit])
+        return found
+
+
 class Cover:
     """Rows, each of which has some of the members below many.
 
-    having: for each member the list of the rows that have it. rows: for each row the set of its members.
+    having: for each member the set of the rows that have it. rows: for each row the set of its members.
     """
 
     def __init__(self, many, having, rows):
@@ -74,52 +107,71 @@ class Cover:
 
     def likeliest(self, left, barred):
         """The rows that have the first member left and are not barred, those with the most members left first."""
-        rows = [row for row in self.having[first_of(left)] if row not in barred]
+        rows = members_of(beyond(self.having[first_of(left)], barred))
         sizes = {row: size_both(self.rows[row], left) for row in rows}
         return sorted(rows, key=lambda one: (-sizes[one], one))
 
     def greedy(self):
         """A list of rows that have all members together; None if some member is in none."""
         left = self.all_members()
+        barred = set_of([], len(self.rows))
         chosen = []
         while size_of(left) > 0:
-            rows = self.likeliest(left, {})
+            rows = self.likeliest(left, barred)
             if not rows:
                 return None
             chosen.append(rows[0])
             left = beyond(left, self.rows[rows[0]])
         return chosen
 
+    def whole_rows(self, left):
+        """The set of the rows that have all members left."""
+        found = set_of(list(range(len(self.rows))), len(self.rows))
+        for member in members_of(left):
+            found = both_of(found, self.having[member])
+            if size_of(found) == 0:
+                break
+        return found
+
     def within(self, left, many, barred):
         """A list of at most so many rows, none barred, that have all members left; None if there is none."""
         size = size_of(left)
         if size == 0:
             return []
-        if many == 0 or size > many * max([size_both(row, left) for row in self.rows]):
+        if many == 0:
             return None
-        tried = {row: True for row in barred}
+        if many == 1:
+            row = first_of(beyond(self.whole_rows(left), barred))
+            return None if row is None else [row]
+        most = max([size_both(row, left) for row in self.rows])
+        tried = barred
         for row in self.likeliest(left, barred):
+            # Behind it come such with fewer members left, and no other row has more than most.
+            if size_both(self.rows[row], left) + (many - 1) * most < size:
+                break
             more = self.within(beyond(left, self.rows[row]), many - 1, tried)
             if more is not None:
                 return [row] + more
             # What was tried ahead is left out: it led to nothing.
-            tried = {one: True for one in tried}
-            tried[row] = True
+            tried = joined(tried, set_of([row], len(self.rows)))
         return None
 
-    def fewest(self, most):
-        """As few rows as can be that have all members together; None if there are none, or only more than most."""
+    def fewest(self, least, most):
+        """As few rows as can be that have all members together; None if there are none, or only more than most.
+
+        least is a number below which there are surely none.
+        """
         best = self.greedy()
         if best is None:
             return None
-        least = 0
-        while least < len(best):
-            if least > most:
+        many = least
+        while many < len(best):
+            if many > most:
                 return None
-            found = self.within(self.all_members(), least, {})
+            found = self.within(self.all_members(), many, set_of([], len(self.rows)))
             if found is not None:
                 return found
-            least += 1
+            many += 1
         return best if len(best) <= most else None
 
     def numbers(self, left, many):
@@ -131,8 +183,12 @@ class Cover:
         if not members:
             return None
         for member in members:
-            if not self.having[member]:
+            if size_of(self.having[member]) == 0:
                 return {member: 1}
+        if many == 0:
+            return {members[0]: 1}
+        if many == 1:
+            return self.few_members(members)
         sizes = [size_both(row, left) for row in self.rows]
         if max(sizes + [0]) * many < len(members):
             return {member: 1 for member in members}
@@ -141,10 +197,23 @@ class Cover:
             return None
         return self.packed_numbers(members, hit, many)
 
+    def few_members(self, members):
+        """The dict from some of the members to 1 such that no row has all of them; None if some row has all."""
+        found = {}
+        rows = set_of(list(range(len(self.rows))), len(self.rows))
+        for member in members:
+            if size_of(rows) == 0:
+                break
+            less = both_of(rows, self.having[member])
+            if less != rows:
+                found[member] = 1
+                rows = less
+        return found if size_of(rows) == 0 else None
+
     def packed_numbers(self, members, hit, many):
         """What numbers tells, found by packing members into the rows that have some of them."""
         places = {row: at for at, row in enumerate(hit)}
-        columns = [[places[row] for row in self.having[member]] for member in members]
+        columns = [[places[row] for row in members_of(self.having[member])] for member in members]
         packing = Packing([1] * len(hit))
         based = [None] * len(hit)
         for _ in range(MOST_STEPS):
@@ -172,6 +241,6 @@ class Cover:
             return False
         borne = {}
         for member, number in found.items():
-            for row in self.having[member]:
+            for row in members_of(self.having[member]):
                 borne[row] = borne.get(row, 0) + number
         return max(list(borne.values()) + [0]) * many < total

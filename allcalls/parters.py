@@ -6,6 +6,7 @@ Standings of the switches in question are whole numbers here, with a bit for eac
 from math import gcd
 
 from allcalls.counts import is_of, one_more, side_pairs
+from allcalls.mixers import Mixer
 from allcalls.packings import Packing
 from allcalls.packs import bits_in
 from allcalls.ways import load_of
@@ -99,21 +100,48 @@ class Parter:
         # Each wire needs one item at most, and the widest serve best.
         wide = sorted(sorted(wide, key=lambda one: -caps[one])[:len(self.wires)])
         most = self.greatest_size()
-        found = self.search([(min(caps[at], most), 0) for at in wide])
+        lows = [min(caps[at], most) for at in wide]
+        if self.is_short(lows):
+            return None
+        found = self.search([(low, 0) for low in lows])
         if found is None:
             return None
         items = [0] * len(caps)
-        for at, (_, item) in zip(wide, found):
+        for at, item in zip(wide, found):
             items[at] = item
         return items
 
+    def is_short(self, caps):
+        """Whether these caps are too few or too low for all wires, or for those at a pin or between two sides."""
+        if sum(caps) < len(self.wires):
+            return True
+        for mask, most in zip(list(self.between.values()), self.widths()):
+            if sum([min(cap, most) for cap in caps]) < bits_in(mask):
+                return True
+        degrees = {}
+        for wire in self.wires:
+            for pin in wire:
+                degrees[pin] = degrees.get(pin, 0) + 1
+        return max(list(degrees.values()) + [0]) > len(caps)
+
+    def widths(self):
+        """For each pair of sides a number that no standing of the wires has more switches between the two than."""
+        found = []
+        for place, mask in enumerate(self.between.values()):
+            held = [wire for k, wire in enumerate(self.wires) if mask >> k & 1]
+            most = max([top[place] for top in self.frame])
+            found.append(min(most, len({low: True for low, _ in held}), len({high: True for _, high in held})))
+        return found
+
     def greatest_size(self):
         """A number that no standing of the wires has more switches than."""
+        widths = self.widths()
         pins = {pin: True for wire in self.wires for pin in wire}
-        return min(len(pins) // 2, max([sum(load) for load in self.frame]))
+        sums = [sum([min(number, width) for number, width in zip(top, widths)]) for top in self.frame]
+        return min(len(pins) // 2, max(sums))
 
     def search(self, start):
-        """The states (cap, item) of a parting that begins with these states; None if there is none."""
+        """The items of a parting that begins with these states (cap, item); None if there is none."""
         seen = {}
         rest = [start]
         while rest:
@@ -122,13 +150,17 @@ class Parter:
             for _, item in states:
                 loose &= ~item
             if loose == 0:
-                return states
+                return [item for _, item in states]
             name = tuple(sorted(states))
             if name in seen:
                 continue
             seen[name] = True
-            if len(seen) == PATIENCE and not self.is_long() and self.numbers(start, self.everything) is not None:
-                return None
+            if len(seen) == PATIENCE:
+                if not self.is_long() and self.numbers(start, self.everything) is not None:
+                    return None
+                mixed = Mixer(self, [cap for cap, _ in start]).mix()
+                if mixed is not None:
+                    return mixed
             rest.extend(self.branches(states, loose))
         return None
 

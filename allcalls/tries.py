@@ -1,7 +1,7 @@
 """Finding a way that rings: rows of tries, and shields that show that so few are not enough."""
 
 from allcalls.boxes import is_lot
-from allcalls.covers import Cover, beyond, first_of, set_of
+from allcalls.covers import Cover, Misses, beyond, first_of, members_of, size_of
 from allcalls.errors import BadNumber, TooMany
 from allcalls.finders import Finder
 from allcalls.kinds import is_plain, is_row, is_tuple_of, is_within
@@ -12,6 +12,8 @@ from allcalls.trials import check_most, mutes_of
 MOST_WAYS = 5000
 MOST_NUMBER = 99
 MOST_WORTH = 999
+# So many ways are looked at before tries no two of which have a switch in common are given up.
+MOST_STEPS = 2000
 
 
 class Quest:
@@ -28,23 +30,53 @@ class Quest:
             raise TooMany(MOST_WAYS)
         self.switches = [self.finder.switches_in(way) for way in self.ways]
         self.place = {way: k for k, way in enumerate(self.switches)}
+        self.steps = 0
 
     def hard_mutes(self):
         """The list of those of the mutes that are as many as can be, those that leave the fewest ways first."""
         greatest = max([bits_in(mutes) for mutes in self.mutes])
         # Whoever has a way without more mutes has one without less.
         found = [mutes for mutes in self.mutes if bits_in(mutes) == greatest]
-        left = {mutes: len([way for way in self.ways if not way & mutes]) for mutes in found}
+        ways = Misses(self.ways)
+        left = {mutes: size_of(ways.missing(mutes)) for mutes in found}
         return sorted(found, key=lambda one: (left[one], one))
 
     def cover(self, mutes):
         """The cover whose members are these mutes, and whose rows are the ways, each with those that it has none of."""
-        having = [[at for at, way in enumerate(self.ways) if not way & lot] for lot in mutes]
-        rows = [[] for _ in self.ways]
-        for member, found in enumerate(having):
-            for k in found:
-                rows[k].append(member)
-        return Cover(len(mutes), having, [set_of(row, len(mutes)) for row in rows])
+        ways = Misses(self.ways)
+        members = Misses(mutes)
+        having = [ways.missing(lot) for lot in mutes]
+        return Cover(len(mutes), having, [members.missing(way) for way in self.ways])
+
+    def least(self):
+        """A number below which there is surely no row of so many ways."""
+        # Mutes that have a switch of each way are no more than there are ways.
+        return self.most + 1 if sum(self.load) > 0 else 0
+
+    def apart(self, ways, many):
+        """The list of so many of these ways no two of which have a switch in common; None if none came."""
+        if many == 0:
+            return []
+        for at, k in enumerate(ways):
+            self.steps += 1
+            if self.steps > MOST_STEPS:
+                return None
+            rest = [other for other in ways[at + 1:] if not self.ways[other] & self.ways[k]]
+            more = self.apart(rest, many - 1) if len(rest) >= many - 1 else None
+            if more is not None:
+                return [k] + more
+        return None
+
+    def fewest(self, most):
+        """The list of the numbers of as few tries as can be; None if there are none, or only more than most."""
+        if self.least() > most:
+            return None
+        if self.least() > 0:
+            self.steps = 0
+            found = self.apart(list(range(len(self.ways))), self.least())
+            if found is not None:
+                return found
+        return self.cover(self.hard_mutes()).fewest(self.least(), most)
 
     def is_hit(self, ways, budget):
         """Whether mutes of at most so many switches have one of each of these ways."""
@@ -71,7 +103,7 @@ def tries(box, load, most):
     """A row of as few tries as can be; None if there is none."""
     check_quest(box, load, most)
     quest = Quest(box, load, most)
-    rows = quest.cover(quest.hard_mutes()).fewest(len(quest.ways))
+    rows = quest.fewest(len(quest.ways))
     return None if rows is None else [quest.switches[k] for k in rows]
 
 
@@ -111,7 +143,7 @@ def shield_nodes(quest, mutes, cover, number):
         member = first_of(left)
         nodes[key] = ("mutes", quest.finder.switches_in(mutes[member]))
         if len(key) < number:
-            for k in cover.having[member]:
+            for k in members_of(cover.having[member]):
                 rest.append(tuple(sorted(key + (k,))))
     return nodes
 
@@ -121,11 +153,10 @@ def shield(box, load, most, number):
     check_quest(box, load, most)
     check_shield_number(number)
     quest = Quest(box, load, most)
-    mutes = quest.hard_mutes()
-    cover = quest.cover(mutes)
-    if cover.fewest(number) is not None:
+    if quest.fewest(number) is not None:
         return None
-    nodes = shield_nodes(quest, mutes, cover, number)
+    mutes = quest.hard_mutes()
+    nodes = shield_nodes(quest, mutes, quest.cover(mutes), number)
     found = {}
     for key in sorted(nodes):
         word, what = nodes[key]
