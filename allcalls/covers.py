@@ -55,6 +55,14 @@ def first_of(one):
     return None
 
 
+def is_empty(one):
+    """Whether there are no members."""
+    for part in one:
+        if part:
+            return False
+    return True
+
+
 def members_of(one):
     """The ascending list of the members."""
     found = []
@@ -65,6 +73,47 @@ def members_of(one):
             found.append(at * WIDTH + bit.bit_length() - 1)
             left ^= bit
     return found
+
+
+class Sums:
+    """A sum for each of so many members, bit by bit: the plane of an index has those whose sum has this bit."""
+
+    def __init__(self, many):
+        self.every = set_of(list(range(many)), many)
+        self.none = set_of([], many)
+        self.planes = []
+
+    def raise_by(self, members, worth):
+        """Make the sums of the members greater by a worth."""
+        place = 0
+        while worth >> place:
+            if worth >> place & 1:
+                self.carry(members, place)
+            place += 1
+
+    def carry(self, members, place):
+        """Make the sums of the members greater by the bit of this index."""
+        at = place
+        left = members
+        while not is_empty(left):
+            while at >= len(self.planes):
+                self.planes.append(self.none)
+            both = both_of(self.planes[at], left)
+            self.planes[at] = beyond(joined(self.planes[at], left), both)
+            left = both
+            at += 1
+
+    def reaches(self, least):
+        """Whether some sum is not below a number."""
+        equal = self.every
+        for at in range(max(len(self.planes), least.bit_length()) - 1, -1, -1):
+            plane = self.planes[at] if at < len(self.planes) else self.none
+            both = both_of(equal, plane)
+            if least >> at & 1:
+                equal = both
+            elif not is_empty(both):
+                return True
+        return not is_empty(equal)
 
 
 class Misses:
@@ -93,17 +142,15 @@ class Misses:
 class Cover:
     """Rows, each of which has some of the members below many.
 
-    having: for each member the set of the rows that have it. rows: for each row the set of its members.
+    having: for each member the set of the rows that have it. rows: for each row the set of its members. every_member,
+    every_row: the sets of all.
     """
 
     def __init__(self, many, having, rows):
-        self.many = many
         self.having = having
         self.rows = rows
-
-    def all_members(self):
-        """The set of all members."""
-        return set_of(list(range(self.many)), self.many)
+        self.every_member = set_of(list(range(many)), many)
+        self.every_row = set_of(list(range(len(rows))), len(rows))
 
     def likeliest(self, left, barred):
         """The rows that have the first member left and are not barred, those with the most members left first."""
@@ -113,10 +160,10 @@ class Cover:
 
     def greedy(self):
         """A list of rows that have all members together; None if some member is in none."""
-        left = self.all_members()
+        left = self.every_member
         barred = set_of([], len(self.rows))
         chosen = []
-        while size_of(left) > 0:
+        while not is_empty(left):
             rows = self.likeliest(left, barred)
             if not rows:
                 return None
@@ -126,10 +173,10 @@ class Cover:
 
     def whole_rows(self, left):
         """The set of the rows that have all members left."""
-        found = set_of(list(range(len(self.rows))), len(self.rows))
+        found = self.every_row
         for member in members_of(left):
             found = both_of(found, self.having[member])
-            if size_of(found) == 0:
+            if is_empty(found):
                 break
         return found
 
@@ -168,7 +215,7 @@ class Cover:
         while many < len(best):
             if many > most:
                 return None
-            found = self.within(self.all_members(), many, set_of([], len(self.rows)))
+            found = self.within(self.every_member, many, set_of([], len(self.rows)))
             if found is not None:
                 return found
             many += 1
@@ -183,7 +230,7 @@ class Cover:
         if not members:
             return None
         for member in members:
-            if size_of(self.having[member]) == 0:
+            if is_empty(self.having[member]):
                 return {member: 1}
         if many == 0:
             return {members[0]: 1}
@@ -200,15 +247,15 @@ class Cover:
     def few_members(self, members):
         """The dict from some of the members to 1 such that no row has all of them; None if some row has all."""
         found = {}
-        rows = set_of(list(range(len(self.rows))), len(self.rows))
+        rows = self.every_row
         for member in members:
-            if size_of(rows) == 0:
+            if is_empty(rows):
                 break
             less = both_of(rows, self.having[member])
             if less != rows:
                 found[member] = 1
                 rows = less
-        return found if size_of(rows) == 0 else None
+        return found if is_empty(rows) else None
 
     def packed_numbers(self, members, hit, many):
         """What numbers tells, found by packing members into the rows that have some of them."""

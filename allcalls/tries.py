@@ -1,7 +1,7 @@
 """Finding a way that rings: rows of tries, and shields that show that so few are not enough."""
 
 from allcalls.boxes import is_lot
-from allcalls.covers import Cover, Misses, beyond, first_of, members_of, size_of
+from allcalls.covers import Cover, Misses, Sums, beyond, first_of, members_of, size_of
 from allcalls.errors import BadNumber, TooMany
 from allcalls.finders import Finder
 from allcalls.kinds import is_plain, is_row, is_tuple_of, is_within
@@ -133,7 +133,7 @@ def shield_nodes(quest, mutes, cover, number):
         key = rest.pop()
         if key in nodes:
             continue
-        left = cover.all_members()
+        left = cover.every_member
         for k in key:
             left = beyond(left, cover.rows[k])
         found = cover.numbers(left, number - len(key))
@@ -172,6 +172,7 @@ class ShieldJudge:
     def __init__(self, quest, number):
         self.quest = quest
         self.number = number
+        self.ways = Misses(quest.ways)
         self.known = {quest.finder.switches_in(mutes): mutes for mutes in quest.mutes}
 
     def key_told(self, thing):
@@ -239,11 +240,14 @@ class ShieldJudge:
                 return False
             worths.append((lot, worth))
         total = sum([worth for _, worth in worths])
-        for way in self.quest.ways:
-            borne = sum([worth for lot, worth in worths if not way & lot])
-            if borne * (self.number - len(key)) >= total:
-                return False
-        return True
+        more = self.number - len(key)
+        if more == 0:
+            return total > 0 or len(self.quest.ways) == 0
+        sums = Sums(len(self.quest.ways))
+        for lot, worth in worths:
+            sums.raise_by(self.ways.missing(lot), worth)
+        # What is borne, times more, is to be less than all.
+        return not sums.reaches((total + more - 1) // more)
 
 
 def is_shield(box, load, most, number, thing):
