@@ -197,6 +197,30 @@ def kept_of(game, barred):
     return tuple(sorted(kept)) if () in kept else None
 
 
+def greatest_of(game):
+    """All places of a game from which one can answer for ever, by taking away those where one cannot."""
+    kept = set(game)
+    while True:
+        out = {place for place in kept if any(not set(found) & kept for found in game[place].values())}
+        if not out:
+            return kept
+        kept -= out
+
+
+def is_kept(game, starts, thing):
+    """Whether a tuple is ascending and has all of starts, and some answer to whatever may be asked there."""
+    return (list(thing) == sorted(set(thing)) and set(thing) <= set(game) and set(starts) <= set(thing)
+            and all(set(found) & set(thing) for place in thing for found in game[place].values()))
+
+
+def is_doomed(game, starts, thing):
+    """Whether a dict from places, one of starts among them, to pairs (rank, asked) is a doom."""
+    return any(place in thing for place in starts) and all(
+        place in game and asked in game[place]
+        and all(other in thing and thing[other][0] < rank for other in game[place][asked])
+        for place, (rank, asked) in thing.items())
+
+
 def ranks_of(game, barred):
     """The dict from all lost standings to pairs of their rank and first asking, round by round."""
     nodes = {}

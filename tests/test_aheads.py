@@ -7,8 +7,8 @@ from allcalls.aheads import ahead_doom, ahead_keeping, is_ahead_doom, is_ahead_k
 from allcalls.boxes import Box, full, plain
 from allcalls.errors import BadAhead, BadBox, BadFrame, BadKeeping, BadMost, BadMoves
 from allcalls.keepings import greatest_keeping
-from tests.helpers import (any_values, anew, ascending_dict, listed, pairs_of, refuse, some_box, some_frame, too_many,
-                           untrue)
+from tests.helpers import (any_values, anew, ascending_dict, greatest_of, is_doomed, is_kept, listed, pairs_of, refuse,
+                           some_box, some_frame, too_many, untrue)
 from tests.test_keepings import RING
 from tests.test_seats import (FRAME_5000, FRAME_5001, SEATED_5000, SEATED_5001, every_call, every_row, every_seating,
                               is_answer, led)
@@ -60,16 +60,6 @@ def ahead_game(box, frame, moves, ahead):
     return game
 
 
-def kept_of(game):
-    """All positions that are in some tuple that has all that an ahead keeping has, but for the beginnings."""
-    kept = set(game)
-    while True:
-        out = {place for place in kept if any(not set(found) & kept for found in game[place].values())}
-        if not out:
-            return kept
-        kept -= out
-
-
 def lost_of(game):
     """The dict from the lost positions to their ranks and first calls, round by round."""
     nodes = {}
@@ -91,17 +81,6 @@ def beginnings_of(game):
     return {place for place in game if not any(place[0])}
 
 
-def is_kept(game, thing):
-    return (list(thing) == sorted(set(thing)) and set(thing) <= set(game) and beginnings_of(game) <= set(thing)
-            and all(set(found) & set(thing) for place in thing for found in game[place].values()))
-
-
-def is_doomed(game, thing):
-    return (set(thing) <= set(game) and bool(beginnings_of(game) & set(thing)) and all(
-        call in game[place] and all(other in thing and thing[other][0] < rank for other in game[place][call])
-        for place, (rank, call) in thing.items()))
-
-
 def some_games(seed, many, most=2):
     rnd = random.Random(seed)
     done = 0
@@ -121,7 +100,7 @@ class Games(unittest.TestCase):
     def test_some_games(self):
         both = [0, 0]
         for rnd, box, frame, moves, ahead, game in some_games(71, 120):
-            kept, nodes = kept_of(game), lost_of(game)
+            kept, nodes = greatest_of(game), lost_of(game)
             self.assertEqual(set(game) - kept, set(nodes))
             keeping, doom = ahead_keeping(box, frame, moves, ahead), ahead_doom(box, frame, moves, ahead)
             good = beginnings_of(game) <= kept
@@ -130,7 +109,7 @@ class Games(unittest.TestCase):
                 self.assertIsNone(doom)
                 self.assertEqual(keeping, tuple(sorted(kept)))
                 self.assertIs(is_ahead_keeping(box, frame, moves, ahead, keeping), True)
-                self.assertIs(is_ahead_doom(box, frame, moves, ahead, nodes), is_doomed(game, nodes))
+                self.assertIs(is_ahead_doom(box, frame, moves, ahead, nodes), is_doomed(game, beginnings_of(game), nodes))
             else:
                 self.assertIsNone(keeping)
                 self.assertEqual(doom, nodes)
@@ -142,7 +121,7 @@ class Games(unittest.TestCase):
     def spoiled(self, rnd, box, frame, moves, ahead, game, kept, nodes):
         for _ in range(3):
             thing = tuple(sorted(place for place in kept if rnd.random() < 0.9))
-            self.assertIs(is_ahead_keeping(box, frame, moves, ahead, thing), is_kept(game, thing))
+            self.assertIs(is_ahead_keeping(box, frame, moves, ahead, thing), is_kept(game, beginnings_of(game), thing))
         for _ in range(3):
             if nodes:
                 place = rnd.choice(list(nodes))
@@ -150,7 +129,7 @@ class Games(unittest.TestCase):
                 other = {**nodes, place: (max(0, nodes[place][0] + rnd.choice([-1, 1])), nodes[place][1])}
                 call = {**nodes, place: (nodes[place][0], rnd.choice(list(game[place])))}
                 for thing in (less, other, call, dict(reversed(list(nodes.items())))):
-                    self.assertIs(is_ahead_doom(box, frame, moves, ahead, thing), is_doomed(game, thing))
+                    self.assertIs(is_ahead_doom(box, frame, moves, ahead, thing), is_doomed(game, beginnings_of(game), thing))
 
     def test_facts(self):
         for _, box, frame, moves, _, _ in some_games(72, 50, 0):

@@ -11,10 +11,10 @@ from allcalls.errors import BadBox, BadFrame, BadLoad, BadMoves, BadRow
 from allcalls.foreseen import dead_row
 from allcalls.keepings import greatest_keeping
 from allcalls.seats import call_rows
-from tests.helpers import (any_values, anew, ascending_dict, every_load, inside, listed, pairs_of, refuse, some_box,
-                           some_frame, too_many, untrue)
-from tests.test_aheads import (BOX_A, BOX_MORE, EMPTY, FRAME_A, FRAME_MORE, beginnings_of, is_doomed, is_kept, kept_of,
-                               load_of_seating, lost_of, positions_counted)
+from tests.helpers import (any_values, anew, ascending_dict, every_load, greatest_of, inside, is_doomed, is_kept, listed,
+                           pairs_of, refuse, some_box, some_frame, too_many, untrue)
+from tests.test_aheads import (BOX_A, BOX_MORE, EMPTY, FRAME_A, FRAME_MORE, beginnings_of, load_of_seating, lost_of,
+                               positions_counted)
 from tests.test_foreseen import call_game, no_seats
 from tests.test_seats import FRAME_5000, FRAME_5001, SEATED_5000, SEATED_5001, every_call, every_seating, led
 
@@ -182,7 +182,7 @@ class Games(unittest.TestCase):
         both = [0, 0]
         for rnd, box, frame, moves, effects in some_games(732, 140):
             game = effects.block_game()
-            kept, nodes = kept_of(game), lost_of(game)
+            kept, nodes = greatest_of(game), lost_of(game)
             self.assertEqual(set(game) - kept, set(nodes))
             keeping, doom = block_keeping(box, frame, moves), block_doom(box, frame, moves)
             good = beginnings_of(game) <= kept
@@ -191,7 +191,7 @@ class Games(unittest.TestCase):
                 self.assertIsNone(doom)
                 self.assertEqual(keeping, tuple(sorted(kept)))
                 self.assertIs(is_block_keeping(box, frame, moves, keeping), True)
-                self.assertIs(is_block_doom(box, frame, moves, nodes), is_doomed(game, nodes))
+                self.assertIs(is_block_doom(box, frame, moves, nodes), is_doomed(game, beginnings_of(game), nodes))
             else:
                 self.assertIsNone(keeping)
                 self.assertIsNone(enough_ahead(box, frame, moves))
@@ -204,7 +204,7 @@ class Games(unittest.TestCase):
     def spoiled(self, rnd, box, frame, moves, game, kept, nodes):
         for _ in range(3):
             thing = tuple(sorted(place for place in kept if rnd.random() < 0.9))
-            self.assertIs(is_block_keeping(box, frame, moves, thing), is_kept(game, thing))
+            self.assertIs(is_block_keeping(box, frame, moves, thing), is_kept(game, beginnings_of(game), thing))
         for _ in range(3):
             if nodes:
                 place = rnd.choice(list(nodes))
@@ -212,7 +212,7 @@ class Games(unittest.TestCase):
                 other = {**nodes, place: (max(0, nodes[place][0] + rnd.choice([-1, 1])), nodes[place][1])}
                 told = {**nodes, place: (nodes[place][0], rnd.choice(list(game[place])))}
                 for thing in (less, other, told, dict(reversed(list(nodes.items())))):
-                    self.assertIs(is_block_doom(box, frame, moves, thing), is_doomed(game, thing))
+                    self.assertIs(is_block_doom(box, frame, moves, thing), is_doomed(game, beginnings_of(game), thing))
 
     def test_degrees(self):
         told = {}

@@ -11,7 +11,8 @@ from allcalls.dooms import least_moves
 from allcalls.errors import (BadAsking, BadBox, BadFrame, BadLine, BadMoves, BadNumber, BadPosition)
 from allcalls.keepings import greatest_keeping
 from tests.helpers import (any_values, anew, ascending_dict, count_load, every_answer, every_asking, every_standing,
-                           listed, pairs_of, refuse, some_box, some_frame, too_many, untrue)
+                           greatest_of, is_doomed, is_kept, listed, pairs_of, refuse, some_box, some_frame, too_many,
+                           untrue)
 from tests.test_breaks import every_lot
 from tests.test_frames import tree_box
 from tests.test_keepings import EVERY
@@ -70,27 +71,6 @@ def break_game(box, frame, moves, number):
         known.setdefault(gone, []).append(way)
     return {position: {asked: all_answers(box, moves, position, asked, known)
                        for asked in all_to_answer(box, frame, number, position)} for position in every}
-
-
-def greatest_of(game):
-    kept = set(game)
-    while True:
-        out = {place for place in kept if any(not set(found) & kept for found in game[place].values())}
-        if not out:
-            return kept
-        kept -= out
-
-
-def is_kept(game, thing):
-    return (list(thing) == sorted(set(thing)) and set(thing) <= set(game) and START in thing
-            and all(set(found) & set(thing) for place in thing for found in game[place].values()))
-
-
-def is_doomed(game, thing):
-    return START in thing and all(
-        place in game and asked in game[place]
-        and all(other in thing and thing[other][0] < rank for other in game[place][asked])
-        for place, (rank, asked) in thing.items())
 
 
 def some_games(seed, many, wide=250):
@@ -177,12 +157,12 @@ class Games(unittest.TestCase):
                 self.assertIs(is_break_keeping(*told, keeping), True)
             else:
                 self.assertIsNone(keeping)
-                self.assertTrue(is_doomed(game, doom))
+                self.assertTrue(is_doomed(game, [START], doom))
                 self.assertIs(is_break_doom(*told, doom), True)
                 ascending_dict(self, doom)
             for _ in range(3):
                 thing = tuple(sorted(place for place in kept if rnd.random() < 0.95))
-                self.assertIs(is_break_keeping(*told, thing), is_kept(game, thing))
+                self.assertIs(is_break_keeping(*told, thing), is_kept(game, [START], thing))
             self.spoiled(rnd, told, game, doom or {})
         self.assertGreater(min(both), 25)
 
@@ -192,7 +172,7 @@ class Games(unittest.TestCase):
             other = {**nodes, place: (max(0, nodes[place][0] + rnd.choice([-1, 1])), nodes[place][1])}
             asked = {**nodes, place: (nodes[place][0], rnd.choice(list(game[place])))}
             for thing in (less, other, asked, dict(reversed(list(nodes.items())))):
-                self.assertIs(is_break_doom(*told, thing), is_doomed(game, thing))
+                self.assertIs(is_break_doom(*told, thing), is_doomed(game, [START], thing))
 
     def test_least_moves(self):
         told = {}

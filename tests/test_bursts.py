@@ -11,8 +11,9 @@ from allcalls.bursts import (burst_answers, burst_doom, burst_keeping, burst_mov
 from allcalls.dooms import least_moves
 from allcalls.errors import BadBox, BadBurst, BadFrame, BadMany, BadMoves, BadStanding
 from allcalls.keepings import greatest_keeping, is_keeping
-from tests.helpers import (any_values, anew, ascending_dict, count_load, every_standing, every_way, inside, listed,
-                           pairs_of, ranks_of, refuse, some_box, some_frame, too_many, under, untrue)
+from tests.helpers import (any_values, anew, ascending_dict, count_load, every_standing, every_way, greatest_of, inside,
+                           is_doomed, is_kept, listed, pairs_of, ranks_of, refuse, some_box, some_frame, too_many,
+                           under, untrue)
 from tests.test_frames import tree_box
 from tests.test_keepings import EVERY, RING
 
@@ -62,28 +63,6 @@ def burst_game(box, frame, moves, many):
     ways = every_standing(box, frame)
     return {way: {burst: every_burst_answer(box, moves, way, burst, ways)
                   for burst in every_burst(box, frame, many, way)} for way in ways}
-
-
-def kept_of(game):
-    """All standings of all tuples that have, except for (), all that a burst keeping has."""
-    kept = set(game)
-    while True:
-        out = {way for way in kept if any(not set(found) & kept for found in game[way].values())}
-        if not out:
-            return kept
-        kept -= out
-
-
-def is_kept(game, thing):
-    return (list(thing) == sorted(set(thing)) and set(thing) <= set(game) and () in thing
-            and all(set(found) & set(thing) for way in thing for found in game[way].values()))
-
-
-def is_doomed(game, thing):
-    return () in thing and all(
-        way in game and burst in game[way] and all(other in thing and thing[other][0] < rank
-                                                   for other in game[way][burst])
-        for way, (rank, burst) in thing.items())
 
 
 def some_games(seed, many, wide=30):
@@ -148,7 +127,7 @@ class Games(unittest.TestCase):
         both = [0, 0]
         for rnd, box, frame, moves, many in some_games(81, 150):
             game = burst_game(box, frame, moves, many)
-            kept, nodes = kept_of(game), ranks_of(game, ())
+            kept, nodes = greatest_of(game), ranks_of(game, ())
             self.assertEqual(set(game) - kept, set(nodes))
             keeping, doom = burst_keeping(box, frame, moves, many), burst_doom(box, frame, moves, many)
             both[() in kept] += 1
@@ -168,13 +147,13 @@ class Games(unittest.TestCase):
     def spoiled(self, rnd, told, game, kept, nodes):
         for _ in range(3):
             thing = tuple(sorted(way for way in kept if rnd.random() < 0.9))
-            self.assertIs(is_burst_keeping(*told, thing), is_kept(game, thing))
+            self.assertIs(is_burst_keeping(*told, thing), is_kept(game, [()], thing))
         for way in rnd.sample(sorted(nodes), min(3, len(nodes))):
             less = {key: node for key, node in nodes.items() if key != way}
             other = {**nodes, way: (max(0, nodes[way][0] + rnd.choice([-1, 1])), nodes[way][1])}
             burst = {**nodes, way: (nodes[way][0], rnd.choice(list(game[way])))}
             for thing in (less, other, burst, dict(reversed(list(nodes.items())))):
-                self.assertIs(is_burst_doom(*told, thing), is_doomed(game, thing))
+                self.assertIs(is_burst_doom(*told, thing), is_doomed(game, [()], thing))
 
     def test_a_doom_may_be_less(self):
         lesser = 0
@@ -250,7 +229,7 @@ class Moves(unittest.TestCase):
             wires = max(sum(load) for load in frame)
             needs = {}
             for most in range(1, 4):
-                kept = [moves for moves in range(wires + 1) if () in kept_of(burst_game(box, frame, moves, most))]
+                kept = [moves for moves in range(wires + 1) if () in greatest_of(burst_game(box, frame, moves, most))]
                 needs[most] = kept[0] if kept else None
                 self.assertEqual(burst_moves(box, frame, most), needs[most])
                 self.assertEqual(needs[most] is None, lacking)

@@ -4,8 +4,9 @@ import random
 import unittest
 from itertools import product
 
-from allcalls.boxes import Box, full, plain
+from allcalls.boxes import Box, crossed, full, plain
 from allcalls.errors import BadBox, BadCaps, BadFrame, BadNumber, BadSome
+from allcalls.frames import greatest_loads
 from allcalls.partings import bar_of, halving, is_bar_of, is_parting, open_caps, parting
 from allcalls.trials import within_reach
 from tests.helpers import (any_values, anew, ascending_dict, every_standing, listed, refuse, some_box, some_frame,
@@ -247,6 +248,22 @@ class Partings(unittest.TestCase):
         self.assertEqual((len(told), sum(map(len, told))), (400, 36))
         self.assertIsNone(parting(box, ((2,),), some, open_caps(17)))
         self.assertIsNotNone(parting(box, ((2,),), some, open_caps(18)))
+
+    def test_wide_boxes(self):
+        # As many standings as there are switches at a pin, each as great as can be, so one less is too few.
+        for box, frame, number in ((full(2, 6), ((4,),), 9), (full(3, 4), ((2, 2, 2),), 8), (full(4, 4), None, 12),
+                                   (full(4, 3), ((1,) * 6,), 9), (crossed(4, 4), None, 3), (full(2, 6), ((5,),), 8)):
+            frame = frame or greatest_loads(box.sides, box.tracks)
+            told = parting(box, frame, box.switches, open_caps(number))
+            self.assertIs(is_parting(box, frame, box.switches, open_caps(number), told), True)
+            self.assertIsNone(parting(box, frame, box.switches, open_caps(number - 1)))
+        for box, frame in ((full(2, 6), ((6,),)), (full(3, 3), ((1, 1, 1),)), (crossed(4, 3), greatest_loads(4, 3))):
+            found = [parting(box, frame, box.switches, halving(number)) for number in range(14)]
+            self.assertEqual([told is None for told in found], sorted([told is None for told in found], reverse=True))
+            for number, told in enumerate(found):
+                if told is not None:
+                    self.assertIs(is_parting(box, frame, box.switches, halving(number), told), True)
+            self.assertIsNotNone(found[-1])
 
     def test_halving_and_open_caps(self):
         self.assertEqual([halving(number) for number in range(5)], [[], [1], [2, 1], [4, 2, 1], [8, 4, 2, 1]])
