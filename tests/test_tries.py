@@ -171,6 +171,19 @@ class Tries(unittest.TestCase):
             self.assertIs(is_shield(box, load, most, number, thing), True)
             self.assertTrue(is_plain_shield(mutes, ways, number, thing))
 
+    def test_tries_that_are_not_apart(self):
+        # More than most + 1 are needed here, and whoever takes the way that has none of the most mutes takes too many.
+        for text, tracks, most, fewest in (("00 01 02 10 11 12 20", 3, 3, 5), ("01 12 21 30 33", 4, 2, 4),
+                                           ("11 13 20 22 32", 4, 2, 4)):
+            box = Box(2, tracks, tuple(((0, int(word[0])), (1, int(word[1]))) for word in text.split()))
+            ways = [way for way in every_way(box) if len(way) == 2]
+            self.assertEqual(fewest_tries(plain_mutes(box, ((2,),), most), ways), fewest)
+            self.assertEqual(len(tries(box, (2,), most)), fewest)
+            self.assertIsNone(shield(box, (2,), most, fewest))
+            held = shield(box, (2,), most, fewest - 1)
+            self.assertTrue(is_plain_shield(plain_mutes(box, ((2,),), most), ways, fewest - 1, held))
+            self.assertIs(is_shield(box, (2,), most, fewest - 1, held), True)
+
     def test_example(self):
         box, load = plain(2, 3), (2,)
         self.assertEqual(len(tries(box, load, 1)), 3)
