@@ -199,7 +199,7 @@ def longer(box, frame, moves, ahead, keeping):
     check_ahead_game(box, frame, moves, ahead, MOST_AHEAD - 1)
     ages = Ages(box, frame, moves)
     book = RowBook(ages)
-    check_positions(ages, book, ahead)
+    # With one call more told there are never fewer positions, but for the frame of zeros, which has one.
     check_positions(ages, book, ahead + 1)
     plan = Plan(ages, book, ahead)
     if not is_keeping_in(plan, keeping):

@@ -266,7 +266,9 @@ class Judged(unittest.TestCase):
         flat = {place: (0, number) for place, (rank, number) in right.items()}
         great = {place: (rank, 10 ** 6) for place, (rank, number) in right.items()}
         less = {place: (rank, -1) for place, (rank, number) in right.items()}
-        wrong = [{}, low, flat, great, less, list(right.items()), {**right, 0: (0, 1)}, {**right, (): (0, 1)}]
+        many = len(endless_effects(box, frame, 1))
+        past = {place: (rank, many) for place, (rank, number) in right.items()}
+        wrong = [{}, low, flat, great, less, past, {place: (rank, many + 1) for place, (rank, _) in right.items()}, list(right.items()), {**right, 0: (0, 1)}, {**right, (): (0, 1)}]
         for thing in wrong + untrue(right) + listed(right) + any_values():
             self.assertIs(is_block_doom(box, frame, 1, thing), False, thing)
 

@@ -155,6 +155,17 @@ class Games(unittest.TestCase):
             self.assertTrue([burst for _, burst in nodes.values() if burst[0] and any(burst[1])])
             self.assertEqual(burst_doom(box, frame, moves, many), nodes)
 
+    def test_ranks_of_ends(self):
+        # One end more each time leads to what is lost.
+        for box, frame, moves in (
+                (Box(3, 2, (((0, 1), (2, 0)), ((1, 1), (2, 1)))), ((0, 1, 1), (1, 0, 0)), 1),
+                (Box(3, 4, (((0, 2), (1, 0)), ((0, 3), (2, 3)), ((1, 3), (2, 0)))), ((0, 2, 0), (1, 0, 1)), 3),
+                (Box(3, 2, (((0, 0), (1, 0)), ((0, 1), (1, 0)), ((1, 0), (2, 0)), ((1, 1), (2, 0)), ((1, 1), (2, 1)))),
+                 ((0, 1, 0), (1, 0, 1)), 2)):
+            for many in (1, 2, 3):
+                nodes = ranks_of(burst_game(box, frame, moves, many), ())
+                self.assertEqual(burst_doom(box, frame, moves, many), nodes)
+
     def spoiled(self, rnd, told, game, kept, nodes):
         for _ in range(3):
             thing = tuple(sorted(way for way in kept if rnd.random() < 0.9))

@@ -238,7 +238,10 @@ class Tries(unittest.TestCase):
         one = {(): ("numbers", {(A,): 1, (B,): 1})}
         self.assertIs(is_shield(box, load, 1, 1, {(): ("mutes", (A,)), ((B, C),): ("mutes", (B,))}), True)
         self.assertIs(is_shield(box, load, 1, 1, one), True)
+        numbers = {(A,): 1, (B,): 1, (C,): 1}
         wrong = [
+            {(): ("numbers", {**numbers, (): 0})}, {(): ("numbers", {**numbers, (): -1})},
+            {(): ("mutes", (A,)), ((B, C),): ("mutes", (B,)), ((A, C), (B, C)): ("numbers", {})},
             {}, {(): ("mutes", (A,))}, one, {(): ("numbers", {})}, {(): ("numbers", {(A,): 0, (B,): 0, (C,): 0})},
             {(): ("numbers", {(A,): 1000, (B,): 1000, (C,): 1000})}, {(): ("numbers", [((A,), 1)])}, list(right.items()),
             {(): ("numbers", {(A, B): 1, (C,): 1})}, {(): ("mutes", (A, B)), ((B, C),): right[((B, C),)]}, [right],
