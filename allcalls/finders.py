@@ -110,6 +110,11 @@ class Finder:
                 found.append(way)
                 vain = 0
                 continue
+            if sum(need) == 1:
+                ends = self.with_one_of(way, free & self.between[scarce[1]])
+                found.extend(ends)
+                vain = 0 if ends else vain + 1
+                continue
             vain += 1
             # It is costly to see ahead whether a way comes at all, so this is done only where none came for long.
             if vain > PATIENCE and self.search(free, need, failed) is None:
@@ -121,6 +126,16 @@ class Finder:
                 free ^= bit
                 branches.append(self.taken(way, bit, free, need))
             rest.extend(branches[::-1])
+        return found[:most + 1]
+
+    def with_one_of(self, way, options):
+        """The list of the ways that come of this one by each of the options, ascending."""
+        found = []
+        left = options
+        while left:
+            bit = left & -left
+            left ^= bit
+            found.append(way | bit)
         return found
 
     def taken(self, way, bit, free, need):
