@@ -123,6 +123,31 @@ class Loads(unittest.TestCase):
         self.assertEqual(len(fewest_breaking(full(2, 6), (5,))), 12)
         self.assertIs(breaks(crossed(4, 6), (2,) * 6, ()), False)
 
+    def test_dense_boxes(self):
+        # There are as many ways apart as switches between the two first sides, so nothing less than all of them breaks.
+        for sides, tracks in ((3, 4), (3, 5), (4, 3), (3, 6)):
+            box = full(sides, tracks)
+            load = (1,) * len(pairs_of(sides))
+            between = tuple(switch for switch in box.switches if (switch[0][0], switch[1][0]) == (0, 1))
+            lot = fewest_breaking(box, load)
+            self.assertEqual(len(lot), tracks * tracks)
+            self.assertLessEqual(lot, between)
+            self.assertIs(breaks(box, load, lot), True)
+            self.assertIs(breaks(box, load, lot[1:]), False)
+            number = min(30, tracks * tracks)
+            self.assertIs(holds_through(box, (load,), number), tracks * tracks > number)
+            self.assertIs(holds_through(box, (load,), number - 1), True)
+
+    def test_wires_between_two_sides(self):
+        # All switches that are left have one of fewer pins than there are wires.
+        for tracks in range(1, 7):
+            for wires in range(1, tracks + 1):
+                lot = fewest_breaking(full(2, tracks), (wires,))
+                self.assertEqual(lot, tuple(((0, one), (1, two)) for one in range(tracks - wires + 1)
+                                            for two in range(tracks)))
+                self.assertIs(holds_through(full(2, tracks), ((wires,),), min(30, len(lot)) - 1), True)
+                self.assertIs(holds_through(full(2, tracks), ((wires,),), min(30, len(lot))), len(lot) > 30)
+
     def test_few_switches(self):
         fourteen = Box(2, 6, full(2, 6).switches[:14])
         fifteen = Box(2, 6, full(2, 6).switches[:15])

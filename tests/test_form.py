@@ -38,7 +38,7 @@ INTERFACE = {
 
 # The interface's modules and, among them, those that are the program's own, each behind all that it imports from.
 ORDER = """errors kinds packs boxes counts ways frames reach loads tallies wholes splits games keepings dooms stricts
-rules seats shelves ages plans aheads foreseen effects blocks seekers swarms bursts finders breakers lottables breaks
+rules seats shelves ages plans aheads foreseen effects blocks seekers swarms bursts finders sheaves breakers lottables breaks
 breaktables breakgames trials packings mixers parters bearings partings hunts covers tries alikes"""
 
 LIBRARY = {"itertools": {"combinations", "permutations"}, "math": {"comb", "gcd"}, "heapq": {"heappop", "heappush"}}
