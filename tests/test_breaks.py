@@ -8,8 +8,10 @@ from allcalls.boxes import Box, crossed, full, plain, without
 from allcalls.breaks import (are_frame_trees, breaking_lots, breaks, fewest_breaking, frame_break, frame_trees,
                              holds_through, is_way_tree, left_frame, matters, spare, strengthened, way_left, way_tree)
 from allcalls.errors import (BadBox, BadFrame, BadLoad, BadLot, BadMost, BadNumber, BadSwitch, BadTree, CallError)
+from allcalls.finders import Finder
 from allcalls.frames import is_frame, is_way
 from allcalls.loads import way_for
+from allcalls.sheaves import Sheaf
 from tests.helpers import (any_values, anew, count_load, every_way, inside, listed, pairs_of, refuse, some_box,
                            some_frame, too_many, under, untrue)
 
@@ -165,6 +167,47 @@ class Loads(unittest.TestCase):
         too_many(self, 14, spare, fifteen, ((0,),))
         self.assertIsNotNone(matters(fourteen, ((3,),), A))
         self.assertEqual(spare(fourteen, ((3,),)), ())
+
+
+class Gathered(unittest.TestCase):
+    """Ways that have no free switch in common show that so few switches break nothing, so they have to be right."""
+
+    def check(self, box, load, gone, free, many):
+        finder = Finder(box)
+        found = Sheaf(finder, load, finder.lot_of(gone), finder.lot_of(free), many).gather()
+        if found is None:
+            return False
+        ways = [finder.switches_in(lot) for lot in found]
+        self.assertEqual(len(ways), many)
+        for way in ways:
+            self.assertIs(is_way(box, way), True)
+            self.assertEqual(count_load(box.sides, way), load)
+            self.assertFalse(set(way) & set(gone))
+        taken = [switch for way in ways for switch in way if switch in free]
+        self.assertEqual(len(taken), len(set(taken)))
+        return True
+
+    def test_some_boxes(self):
+        told = [0, 0]
+        rnd = random.Random(96)
+        for _ in range(400):
+            sides, tracks = rnd.choice([(2, 4), (3, 3), (3, 4), (4, 2), (4, 3)])
+            great = full(sides, tracks)
+            box = Box(sides, tracks, tuple(sorted(rnd.sample(great.switches, rnd.randint(4, len(great.switches))))))
+            load = tuple(rnd.choice([0, 1, 1, 2]) for _ in pairs_of(sides))
+            if any(load):
+                gone = [switch for switch in box.switches if rnd.random() < 0.1]
+                free = [switch for switch in box.switches if rnd.random() < 0.8 and switch not in gone]
+                told[self.check(box, load, gone, free, rnd.randint(1, 6))] += 1
+        self.assertGreater(min(told), 100)
+
+    def test_all_switches(self):
+        # Each of all these ways is needed, so switches are given up again and again.
+        for sides, tracks, load, many in ((3, 4, (1, 1, 1), 16), (3, 5, (1, 1, 1), 25), (4, 3, (1,) * 6, 9),
+                                          (2, 6, (6,), 6), (2, 5, (5,), 5), (3, 4, (2, 2, 2), 8), (4, 4, (1,) * 6, 16)):
+            switches = full(sides, tracks).switches
+            self.assertIs(self.check(full(sides, tracks), load, [], switches, many), True)
+            self.assertIs(self.check(full(sides, tracks), load, [], switches, many + 1), False)
 
 
 class Trees(unittest.TestCase):
