@@ -25,9 +25,9 @@ def plan_of(box, frame, moves, ahead):
 
 
 def starting_rows(plan):
-    """The range of the numbers of the rows of all beginnings."""
+    """The list of the numbers of the rows of all beginnings."""
     load = plan.ages.loads[0]
-    return range(plan.first[load], plan.past[load])
+    return list(range(plan.first[load], plan.past[load]))
 
 
 def is_kept(plan, sets):

@@ -67,6 +67,11 @@ BARRED_NODES = (
 
 COMPREHENSIONS = (ast.ListComp, ast.DictComp)
 
+# What is no list and goes over something else, and what goes over it on the spot if it stands there first.
+LAZY = "range zip enumerate reversed".split()
+VIEWS = "items keys values".split()
+GO_OVER = "list tuple dict sorted sum any all enumerate zip combinations permutations product".split()
+
 
 def files():
     return sorted(PACKAGE.glob("*.py"))
@@ -82,6 +87,42 @@ def functions(tree):
 
 def stored(node):
     return {one.id for one in ast.walk(node) if isinstance(one, ast.Name) and isinstance(one.ctx, ast.Store)}
+
+
+def is_lazy(node):
+    """Whether a node makes a range, a zip, an enumerate, a reversed or a view."""
+    if not isinstance(node, ast.Call):
+        return False
+    if isinstance(node.func, ast.Name):
+        return node.func.id in LAZY
+    return isinstance(node.func, ast.Attribute) and node.func.attr in VIEWS
+
+
+def is_on_the_spot(node, outer):
+    """Whether what is_lazy is gone over, or asked, right where it stands: outer is the node around it."""
+    if isinstance(outer, (ast.For, ast.comprehension)):
+        return outer.iter is node
+    if isinstance(outer, ast.Compare):
+        made = ast.unparse(node.func).split(".")[-1]
+        plain = len(outer.ops) == 1 and isinstance(outer.ops[0], (ast.In, ast.NotIn))
+        return plain and outer.comparators[0] is node and made in ("range", "keys")
+    if not isinstance(outer, ast.Call) or outer.func is node:
+        return False
+    if isinstance(outer.func, ast.Attribute):
+        return outer.func.attr == "join" and isinstance(outer.func.value, ast.Constant)
+    if outer.func.id in ("min", "max"):
+        return outer.args == [node] and {word.arg for word in outer.keywords} <= {"default"}
+    return outer.func.id in GO_OVER and outer.args[0] is node
+
+
+def held_rows(tree):
+    """The rows of a tree that return, pass on or store what is_lazy, instead of going over it on the spot."""
+    found = []
+    for outer in ast.walk(tree):
+        for node in ast.iter_child_nodes(outer):
+            if is_lazy(node) and not is_on_the_spot(node, outer):
+                found.append(node.lineno)
+    return sorted(found)
 
 
 class Form(unittest.TestCase):
@@ -258,6 +299,28 @@ class Form(unittest.TestCase):
                     if isinstance(node, ast.Call) and getattr(node.func, "id", "") in LIBRARY["itertools"]:
                         for one in node.args:
                             self.assertIsInstance(one, (ast.Name, ast.Call), (path, node.lineno))
+
+    def test_ranges_and_views_are_gone_over_on_the_spot(self):
+        for path in files():
+            self.assertEqual(held_rows(tree_of(path)), [], path)
+
+    def test_rows_that_hold_ranges_and_views_are_seen(self):
+        for row in """return range(n); return zip(a, b); found = enumerate(a); f(reversed(a)); self.a = d.items()
+        a.append(range(n)); found = [range(n)]; return d.keys(); found = {0: d.values()}; return (range(n), 1)
+        found = range(n) if a else a; f(a, range(n)); for k in f(range(n)): pass; range(n)[0]; return range(n) == a
+        len(d.items()); found = lambda k: range(k); set(d.values()); max(range(n), a); return [*range(n)]; d.keys().a
+        zip(a, range(n)); a[0] = range(n); range(n) in a; d.items() in a; a in d.items(); sorted(a, key=range(n))
+        found.join(d.keys()); a, b = range(2); found = a or range(n); return f"{range(n)}"; sum(a, range(n))
+        """.replace(";", "\n").split("\n"):
+            if row.strip():
+                self.assertTrue(held_rows(ast.parse("def f():\n    " + row.strip())), row)
+        for row in """return list(range(n)); for k in range(n): pass; found = [k for k in zip(a, b)]; sum(d.values())
+        return {k: 1 for k in d.keys()}; max(d.values(), default=0); min(range(n)); k in range(n); k not in d.keys()
+        tuple(enumerate(a)); sorted(d.items(), key=f); " ".join(d.keys()); dict(zip(a, b)); combinations(range(n), 2)
+        return list(reversed(a)); for k, (a, b) in enumerate(zip(a, b)): pass; any(d.values()); f(list(range(n)))
+        """.replace(";", "\n").split("\n"):
+            if row.strip():
+                self.assertEqual(held_rows(ast.parse("def f():\n    " + row.strip())), [], row)
 
     def test_strings(self):
         for path in files():
