@@ -55,11 +55,13 @@ def is_pin(sides, tracks, thing):
 
 def is_switch(sides, tracks, thing):
     """Whether thing is a switch of so many sides and tracks."""
-    if not is_tuple_of(thing, 2):
+    if not is_tuple_of(thing, 2) or not is_tuple_of(thing[0], 2) or not is_tuple_of(thing[1], 2):
         return False
-    if not is_pin(sides, tracks, thing[0]) or not is_pin(sides, tracks, thing[1]):
-        return False
-    return thing[0][0] < thing[1][0]
+    (side, track), (far, other) = thing
+    for number in (side, track, far, other):
+        if not isinstance(number, int) or isinstance(number, bool):
+            return False
+    return 0 <= side < far < sides and 0 <= track < tracks and 0 <= other < tracks
 
 
 def is_switch_tuple(sides, tracks, thing):

@@ -12,6 +12,11 @@ def side_pairs(sides):
     return [(side, far) for side in range(sides) for far in range(side + 1, sides)]
 
 
+def many_pairs(sides):
+    """How many pairs of sides there are."""
+    return sides * (sides - 1) // 2
+
+
 def pair_place(sides, side, far):
     """The index of the pair (side, far) among the pairs of sides."""
     return side * (2 * sides - side - 1) // 2 + far - side - 1
@@ -26,22 +31,17 @@ def is_pair_of_sides(sides, thing):
 
 def no_wires(sides):
     """The load of no wires."""
-    return (0,) * len(side_pairs(sides))
-
-
-def is_load_up_to(sides, thing, most):
-    """Whether any value is a tuple of a number from 0 to most for each pair of sides."""
-    if not is_tuple_of(thing, len(side_pairs(sides))):
-        return False
-    for number in thing:
-        if not isinstance(number, int) or isinstance(number, bool) or number < 0 or number > most:
-            return False
-    return True
+    return (0,) * many_pairs(sides)
 
 
 def is_load_of(sides, thing):
     """Whether any value is a load of so many sides."""
-    return is_load_up_to(sides, thing, MOST_NUMBER)
+    if not is_tuple_of(thing, many_pairs(sides)):
+        return False
+    for number in thing:
+        if not isinstance(number, int) or isinstance(number, bool) or number < 0 or number > MOST_NUMBER:
+            return False
+    return True
 
 
 def check_load(sides, load):

@@ -23,22 +23,22 @@ def packed(load):
     return found
 
 
-def unpacked(pack, many):
-    """The load of so many numbers that is packed."""
-    return tuple([(pack >> (WIDTH * k)) & LANE for k in range(many - 1, -1, -1)])
-
-
 def unit(many, place):
     """The packed load of so many numbers that has just a 1 at the place."""
     return 1 << (WIDTH * (many - 1 - place))
 
 
-def guards(many):
-    """The free bits of a packed load of so many numbers."""
+def lanes(many, width, number):
+    """The packed load that has the number so many times, so many bits for each."""
     found = 0
     for _ in range(many):
-        found = (found << WIDTH) | GUARD
+        found = (found << width) | number
     return found
+
+
+def guards(many):
+    """The free bits of a packed load of so many numbers."""
+    return lanes(many, WIDTH, GUARD)
 
 
 def first_over(tops, pack, guard):
@@ -50,19 +50,34 @@ def first_over(tops, pack, guard):
     return None
 
 
-def total_of(pack):
-    """The sum of the numbers of a packed load, which is below 255."""
-    # 256 is 1 modulo 255, so each eight bits count as they are.
-    return pack % 255
-
-
-def greatest_packed(packs, guard):
-    """The ascending list of the packed loads that are below no other one; their sums are below 255."""
+def by_totals(packs, width):
+    """The dict from sums of numbers, which are below what so many bits hold, to the lists of packed loads with them."""
+    # What is 1 more is 1 modulo this, so each number counts as it is.
+    whole = (1 << width) - 1
+    totals = [pack % whole for pack in packs]
+    if totals.count(totals[0]) == len(totals):
+        return {totals[0]: packs}
     groups = {}
-    for pack in packs:
-        groups.setdefault(total_of(pack), {})[pack] = True
+    for pack, total in zip(packs, totals):
+        groups.setdefault(total, []).append(pack)
+    return groups
+
+
+def greatest_packed(packs, many, width):
+    """The ascending list of those of the different packed loads, of so many numbers, that are below no other one."""
+    groups = by_totals(packs, width)
+    if len(groups) == 1:
+        return sorted(packs)
+    guard = lanes(many, width, 1 << (width - 1))
     found = []
     # Different loads with one sum are never below each other, so each group meets only those with greater sums.
     for total in sorted(groups, reverse=True):
-        found.extend([pack for pack in groups[total] if first_over(found, pack, guard) is None])
+        rest = groups[total]
+        if len(rest) < len(found):
+            rest = [pack for pack in rest if first_over(found, pack, guard) is None]
+        else:
+            for top in found:
+                high = top | guard
+                rest = [pack for pack in rest if (high - pack) & guard != guard]
+        found += rest
     return sorted(found)

@@ -5,8 +5,8 @@ from heapq import heappop, heappush
 from allcalls.counts import is_load_of
 from allcalls.errors import TooMany
 from allcalls.frames import check_frame
-from allcalls.packs import LANE, WIDTH, first_over, packed, unpacked
-from allcalls.reach import Reach
+from allcalls.packs import first_over
+from allcalls.reach import HIGHEST, SPAN, Reach, narrow, told_wide
 from allcalls.tallies import tally_of
 from allcalls.ways import is_way_of, load_of
 
@@ -16,12 +16,12 @@ MOST_LOADS = 20000
 def missing(box, frame):
     """The first, by its sum, then by its numbers, of the loads of the frame that the box does not carry."""
     check_frame(box, frame)
-    reach = Reach(box)
+    reach = Reach(box, False)
     if tally_of(frame, MOST_LOADS) > MOST_LOADS:
         raise TooMany(MOST_LOADS)
     # What is not carried lies below a load of the tuple that is not carried.
-    beyond = [packed(load) for load in frame if not reach.is_in_reach(load)]
-    return unpacked(first_beyond(reach, beyond), reach.many) if beyond else None
+    beyond = [narrow(load) for load in frame if not reach.is_in_reach(load)]
+    return told_wide([first_beyond(reach, beyond)], reach.many)[0] if beyond else None
 
 
 def first_beyond(reach, beyond):
@@ -30,7 +30,8 @@ def first_beyond(reach, beyond):
     A load is not carried if it has, for each greatest one that is, a number that is above its number there. So
     where it is below one of these, some number is raised just above; the least loads are looked at first.
     """
-    tops = list(reach.steps[-1])
+    # Those that stand side by side are much alike, and what lies below one of them lies above few others.
+    tops = reach.steps[-1][1::2] + reach.steps[-1][::2]
     queue = [(0, 0)]
     seen = {0: True}
     while queue:
@@ -39,8 +40,8 @@ def first_beyond(reach, beyond):
         if top is None:
             return pack
         for place in range(reach.many):
-            shift = WIDTH * place
-            by = ((top >> shift) & LANE) - ((pack >> shift) & LANE) + 1
+            shift = SPAN * place
+            by = ((top >> shift) & HIGHEST) - ((pack >> shift) & HIGHEST) + 1
             more = pack + (by << shift)
             if more not in seen and first_over(beyond, more, reach.guard) is not None:
                 seen[more] = True
@@ -51,10 +52,10 @@ def first_beyond(reach, beyond):
 def whole_paper(box, frame):
     """The dict from the loads of the frame's tuple to ways for them; None unless the box is whole for it."""
     check_frame(box, frame)
-    reach = Reach(box)
+    reach = Reach(box, True)
     paper = {}
     for load in frame:
-        way = reach.way_within(box.sides, load)
+        way = reach.way_within(load)
         if way is None:
             return None
         paper[load] = way

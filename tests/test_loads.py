@@ -3,7 +3,7 @@
 import random
 import unittest
 
-from allcalls.boxes import Box, beside, crossed, full, pieces, plain
+from allcalls.boxes import Box, beside, crossed, full, pieces, plain, without
 from allcalls.errors import BadBox, BadLoad, BadPiece
 from allcalls.frames import is_way, way_load
 from allcalls.loads import bar, box_frame, is_bar, is_way_for, piece_loads, way_for
@@ -73,6 +73,116 @@ def loads_of_ways(box):
 
 def sums(one, other):
     return [tuple(x + y for x, y in zip(low, high)) for low in one for high in other]
+
+
+def pieces_told(box):
+    """The pieces of a box as boxes of their own switches, ascending by their pins."""
+    groups = []
+    for switch in box.switches:
+        near = [group for group in groups if any(set(switch) & set(wire) for wire in group)]
+        groups = [group for group in groups if group not in near] + [sum(near, []) + [switch]]
+    groups = sorted(groups, key=lambda group: sorted({pin for wire in group for pin in wire}))
+    return [Box(box.sides, box.tracks, tuple(sorted(group))) for group in groups]
+
+
+def lists_told(sides, parts):
+    """The lists of a bar that have just the greatest sums of these loads; None if there are more than 1000 in one."""
+    lists = [[(0,) * len(pairs_of(sides))]]
+    for own in parts:
+        lists.append(tops(sums(lists[-1], own)))
+        if len(lists[-1]) > 1000:
+            return None
+    return lists
+
+
+def loads_about(rnd, box, carried):
+    """Loads at and just above what is carried, far above, and with a number of 5 and more."""
+    many = len(carried[0])
+    found = [(0,) * many, (99,) * many, (9,) * many, (5,) + (0,) * (many - 1), (5,) + (1,) * (many - 1)]
+    for top in rnd.sample(carried, min(3, len(carried))):
+        place = rnd.randrange(many)
+        found += [top, top[:place] + (top[place] + 1,) + top[place + 1:], top[:place] + (5,) + top[place + 1:],
+                  tuple(number // 2 for number in top), top[:place] + (0,) + top[place + 1:]]
+    place = rnd.randrange(many)
+    found += [(0,) * place + (rnd.choice((6, 7, 15, 16, 31, 32, 99)),) + (0,) * (many - 1 - place)]
+    return found
+
+
+class SmallBoxes(unittest.TestCase):
+    def look_at(self, rnd, box):
+        parts = [tops(loads_of_ways(piece)) for piece in pieces_told(box)]
+        lists = lists_told(box.sides, parts)
+        if lists is None:
+            too_many(self, 1000, way_for, box, (0,) * len(pairs_of(box.sides)))
+            too_many(self, 1000, bar, box, (5,) * len(pairs_of(box.sides)))
+            return
+        for load in loads_about(rnd, box, lists[-1]):
+            way, held = way_for(box, load), bar(box, load)
+            if any(under(load, top) for top in lists[-1]):
+                self.assertIs(held, None)
+                self.assertTrue(set(way) <= set(box.switches) and list(way) == sorted(way))
+                self.assertEqual(len({pin for wire in way for pin in wire}), 2 * len(way))
+                self.assertEqual(count_load(box.sides, way), load)
+                self.assertIs(is_bar(box, load, lists), False)
+            else:
+                self.assertIs(way, None)
+                self.assertEqual(held, lists)
+                self.assertIs(is_bar(box, load, held), True)
+                self.assertIs(is_bar(box, load, tuple(tuple(row) for row in held)), True)
+            self.assertIs(is_bar(box, load, None), False)
+            self.look_at_others(rnd, box, load, lists, parts)
+
+    def look_at_others(self, rnd, box, load, lists, parts):
+        """What is judged as a bar is judged by the document's words."""
+        for _ in range(2):
+            thing = [list(row) for row in lists]
+            row = rnd.choice(thing)
+            if rnd.random() < 0.4:
+                row.pop(rnd.randrange(len(row)))
+            else:
+                old = row.pop(rnd.randrange(len(row)))
+                place = rnd.randrange(len(old))
+                row.append(old[:place] + (rnd.choice((0, 1, old[place] + 1, 7, 900, 999)),) + old[place + 1:])
+            right = bool(thing[0]) and not any(under(load, one) for one in thing[-1])
+            for before, own, after in zip(thing, parts, thing[1:]):
+                right = right and all(any(under(one, top) for top in after) for one in sums(before, own))
+            self.assertIs(is_bar(box, load, thing), right)
+
+    def test_boxes_of_each_sides_and_tracks(self):
+        rnd = random.Random(14)
+        for sides in range(2, 6):
+            for tracks in range(1, 7):
+                for made in (plain, crossed):
+                    box = made(sides, tracks)
+                    if len(box.switches) <= 30:
+                        self.look_at(rnd, box)
+                    gone = rnd.sample(box.switches, max(len(box.switches) // 3, len(box.switches) - 16))
+                    self.look_at(rnd, without(box, tuple(sorted(gone))))
+                for many in (2, 6, 10, 12, 14):
+                    self.look_at(rnd, some_box(rnd, sides, tracks, many))
+
+    def test_the_boxes_of_the_issue(self):
+        rnd = random.Random(15)
+        box = without(crossed(4, 2), crossed(4, 2).switches[:2])
+        for one in (box, crossed(3, 3), plain(5, 1), full(2, 3), Box(2, 1, ()), plain(2, 6), full(3, 2), full(4, 1)):
+            for _ in range(3):
+                self.look_at(rnd, one)
+        self.assertEqual(way_for(box, (0, 1, 0, 0, 1, 0)) is None, bar(box, (0, 1, 0, 0, 1, 0)) is not None)
+        self.assertEqual(bar(full(2, 3), (5,)), [[(0,)], [(3,)]])
+        self.assertEqual(bar(plain(5, 1), (5,) + (0,) * 9)[0], [(0,) * 10])
+        self.assertEqual(len(bar(plain(5, 1), (5,) + (0,) * 9)[1]), 15)
+        for function, rest in ((bar, ()), (way_for, ())):
+            anew(self, function, box, (5, 1, 1, 1, 1, 1), *rest)
+
+    def test_rows_of_switches(self):
+        # Pieces that are rows of up to 18 switches, each of which meets the next one.
+        rnd = random.Random(16)
+        for many in range(7, 19):
+            for sides in (2, 3, 4, 5):
+                pins = [(k % sides, k // sides) for k in range(many + 1)]
+                if pins[-1][1] < 6:
+                    row = tuple(sorted(tuple(sorted(two)) for two in zip(pins, pins[1:])))
+                    self.look_at(rnd, Box(sides, 6, row))
 
 
 class Ways(unittest.TestCase):
