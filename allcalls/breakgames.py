@@ -162,18 +162,17 @@ def are_answered(judge, moves, known, groups, position, every):
     return True
 
 
-def is_break_keeping(box, frame, moves, number, thing):
-    """Whether any value is a keeping."""
-    check_break_game(box, frame, moves, number)
+def is_answered_tuple(box, frame, moves, number, thing):
+    """Whether any value is an ascending tuple of different positions at which all has an answer among them."""
     judge = Judge(box, frame, number)
     if not isinstance(thing, tuple):
         return False
     for position in thing:
         if not judge.is_position(position):
             return False
-    known = {position: True for position in thing}
-    if not rises(thing) or ((), ()) not in known:
+    if not rises(thing):
         return False
+    known = {position: True for position in thing}
     groups = {}
     for gone, way in thing:
         groups.setdefault((gone, load_of(box.sides, way)), []).append(judge.ways[way])
@@ -185,11 +184,19 @@ def is_break_keeping(box, frame, moves, number, thing):
     return True
 
 
-def is_break_doom(box, frame, moves, number, thing):
-    """Whether any value is a doom."""
+def is_break_keeping(box, frame, moves, number, thing):
+    """Whether any value is a keeping."""
     check_break_game(box, frame, moves, number)
+    # The position ((), ()) is the first of all.
+    if not isinstance(thing, tuple) or len(thing) == 0 or thing[0] != ((), ()):
+        return False
+    return is_answered_tuple(box, frame, moves, number, thing)
+
+
+def are_falls(box, frame, moves, number, thing):
+    """Whether any value is a dict from positions to ranks and askings whose answers have lesser ranks."""
     judge = Judge(box, frame, number)
-    if not isinstance(thing, dict) or ((), ()) not in thing:
+    if not isinstance(thing, dict):
         return False
     for position, node in thing.items():
         if not judge.is_position(position) or not is_tuple_of(node, 2):
@@ -203,6 +210,12 @@ def is_break_doom(box, frame, moves, number, thing):
             if other not in thing or thing[other][0] >= node[0]:
                 return False
     return True
+
+
+def is_break_doom(box, frame, moves, number, thing):
+    """Whether any value is a doom."""
+    check_break_game(box, frame, moves, number)
+    return are_falls(box, frame, moves, number, thing) and ((), ()) in thing
 
 
 def least_break_moves(box, frame, number):

@@ -9,15 +9,20 @@ from allcalls.boxes import Box, plain
 from allcalls.breakgames import break_answers, break_doom, break_keeping, break_play, is_break_doom, is_break_keeping
 from allcalls.breakgames import to_answer
 from allcalls.breaks import are_frame_trees, breaks, frame_trees, is_way_tree, left_frame, matters, way_left, way_tree
+from allcalls.budgets import budgets, is_budgets, is_ruin, ruin
 from allcalls.bursts import burst_answers, burst_doom, burst_keeping, bursts, is_burst_doom, is_burst_keeping
-from allcalls.errors import (BadAsking, BadBurst, BadCaps, BadFrame, BadHeard, BadKeeping, BadLine, BadLoad, BadLot,
-                             BadMutes, BadPosition, BadRow, BadSome, BadStanding, BadSwitch, BadTree, BadTrial,
-                             BadTrials, BadTurn, BadWay)
+from allcalls.dooms import doom
+from allcalls.errors import (BadAsking, BadBurst, BadCaps, BadDoom, BadFit, BadFrame, BadHeard, BadKeeping, BadLine,
+                             BadLoad, BadLot, BadMutes, BadPair, BadPosition, BadRow, BadSome, BadStanding, BadSwitch,
+                             BadTree, BadTrial, BadTrials, BadTurn, BadWay)
+from allcalls.fits import doom_back, fitted_frame, fitted_keeping, is_fit
 from allcalls.foreseen import behind, dead_row, family, is_dead, is_family
 from allcalls.hunts import foe, is_trials_paper, suspects, trials_paper
 from allcalls.partings import is_bar_of, is_parting, parting
+from allcalls.refuges import are_perils, is_refuge, perils
 from allcalls.trials import left, told, twins
 from allcalls.tries import are_tries, is_shield, tries
+from allcalls.worths import cheap, high_paper, is_high, is_low, low_paper
 from tests.helpers import deep
 
 ONE, TWO, THREE = plain(2, 1), plain(2, 2), plain(2, 3)
@@ -29,6 +34,9 @@ WANT = ("want", (0, 1))
 TURN = ((1, 0), ((0, 1), (1, 0)))
 SIDES = ((1, 0, 2), ((0,), (0,), (0,)))
 HEARD = [((A, B), True), ((A,), True)]
+# Example B of the document, where what comes is to be moved.
+B_BOX = Box(3, 2, (A, ((0, 0), (2, 0)), B, ((1, 1), (2, 0))))
+B_FRAME = ((1, 0, 1), (1, 1, 0))
 
 ANY = [
     None, True, False, 0, 1, -1, 10 ** 9 - 1, "", "want", "share", "numbers", "mutes", (), [], {}, EMPTY, (EMPTY,),
@@ -58,6 +66,13 @@ PAPERS = [
     (are_tries, (THREE, (2,), 1), tries(THREE, (2,), 1)),
     (is_shield, (THREE, (2,), 1, 2), {(): ("mutes", (A,)), ((B, C),): ("numbers", {(B,): 1, (C,): 1})}),
     (is_turn, (2, 2), TURN),
+    (is_fit, (TWO, THREE), ((1, 0), ((2, 0), (2, 0)))),
+    (is_low, (TWO, ((1,),), (1, 2)), low_paper(TWO, ((1,),), (1, 2))),
+    (is_high, (TWO, ((1,),), (0, 1)), high_paper(TWO, ((1,),), (0, 1))),
+    (is_budgets, (TWO, ((1,),), 0, 1), budgets(TWO, ((1,),), 0, 1)),
+    (is_ruin, (B_BOX, B_FRAME, 0, 1, 0), ruin(B_BOX, B_FRAME, 0, 1, 0)),
+    (is_refuge, (TWO, ((1,),), 0, 1), (((A,), ()), ((A,), (B,)))),
+    (are_perils, (ONE, ((1,),), 0, 1), perils(ONE, ((1,),), 0, 1)),
 ]
 
 # Functions, what stands ahead of a right argument, the argument, what stands behind it, and what else is raised.
@@ -89,6 +104,12 @@ ARGUMENTS = [
     (turned_load, (plain(3, 1), SIDES), (1, 0, 1), (), BadLoad),
     (turned_frame, (plain(3, 1), SIDES), ((1, 0, 1),), (), BadFrame),
     (turned_asking, (TWO, TURN), ("end", A), (), BadAsking),
+    (fitted_frame, (TWO, THREE), ((1, 0), ((2, 0), (2, 0))), (((1,),),), BadFit),
+    (fitted_keeping, (ONE, TWO, ((1, 0), ((1,), (1,))), ((1,),), 0), ((), (A,)), (), BadKeeping),
+    (doom_back, (ONE, TWO, ((1, 0), ((1,), (1,))), ((3,),), 0), doom(TWO, ((3,),), 0, ()), (), BadDoom),
+    (cheap, (TWO, ((2,),)), (A,), (WANT,), BadStanding),
+    (cheap, (TWO, ((2,),), (A,)), ("end", A), (), BadAsking),
+    (low_paper, (TWO, ((2,),)), (1, 2), (), BadPair),
 ]
 
 

@@ -34,14 +34,20 @@ INTERFACE = {
     "hunts": "suspects trials_left wise foe fewest_trials trials_paper is_trials_paper",
     "tries": "tries are_tries shield is_shield",
     "alikes": "is_turn no_turn turn_back turn_on turned_box turned_way turned_load turned_frame turned_asking",
+    "likes": "turns alike likes first_like",
+    "fits": "is_fit first_fit fitted_frame fitted_keeping doom_back",
+    "worths": "worth cheap is_low is_high low_paper high_paper",
+    "budgets": "least_budget budgets is_budgets ruin is_ruin",
+    "refuges": "safe_positions perils is_refuge are_perils",
 }
 
 # The interface's modules and, among them, those that are the program's own, each behind all that it imports from.
 ORDER = """errors kinds packs boxes counts ways frames reach loads tallies wholes splits games keepings dooms stricts
 rules seats shelves ages plans aheads foreseen effects blocks seekers swarms bursts finders sheaves breakers lottables breaks
-breaktables breakgames trials packings mixers parters bearings partings hunts covers tries alikes"""
+breaktables breakgames trials packings mixers parters bearings partings hunts covers tries alikes likes
+fits tolls worths budgets refuges"""
 
-LIBRARY = {"itertools": {"combinations", "permutations"}, "math": {"comb", "gcd"}, "heapq": {"heappop", "heappush"}}
+LIBRARY = {"itertools": {"combinations", "permutations"}, "math": {"comb", "factorial", "gcd", "perm"}, "heapq": {"heappop", "heappush"}}
 
 BUILTINS = """len range enumerate zip min max sum abs sorted reversed int str bool list tuple dict isinstance
 ValueError""".split()

@@ -7,6 +7,8 @@ import unittest
 from allcalls.aheads import ahead_keeping
 from allcalls.boxes import Box, crossed, plain
 from allcalls.breaks import way_tree
+from allcalls.dooms import doom
+from allcalls.keepings import greatest_keeping
 
 SIGNATURES = {
     "boxes": "plain(sides, tracks); crossed(sides, tracks); full(sides, tracks); beside(one, other);"
@@ -70,6 +72,16 @@ SIGNATURES = {
     "alikes": "is_turn(sides, tracks, thing); no_turn(sides, tracks); turn_back(sides, tracks, turn);"
               " turn_on(sides, tracks, turn, then); turned_box(box, turn); turned_way(box, turn, way);"
               " turned_load(box, turn, load); turned_frame(box, turn, frame); turned_asking(box, turn, asking)",
+    "likes": "turns(one, other); alike(one, other); likes(box); first_like(box)",
+    "fits": "is_fit(one, other, thing); first_fit(one, other); fitted_frame(one, other, fit, frame);"
+            " fitted_keeping(one, other, fit, frame, moves, keeping); doom_back(one, other, fit, frame, moves, doom)",
+    "worths": "worth(box, frame); cheap(box, frame, standing, asking); is_low(box, frame, pair, thing);"
+              " is_high(box, frame, pair, thing); low_paper(box, frame, pair); high_paper(box, frame, pair)",
+    "budgets": "least_budget(box, frame, gain, price); budgets(box, frame, gain, price);"
+               " is_budgets(box, frame, gain, price, thing); ruin(box, frame, gain, price, budget);"
+               " is_ruin(box, frame, gain, price, budget, thing)",
+    "refuges": "safe_positions(box, frame, moves, number); perils(box, frame, moves, number);"
+               " is_refuge(box, frame, moves, number, thing); are_perils(box, frame, moves, number, thing)",
 }
 
 A = ((0, 0), (1, 0))
@@ -83,6 +95,7 @@ RIGHT = {
     "ahead": 1, "most": 1, "row": (("want", (0, 1)),), "burst": ((A,), (0,)), "lot": (A,), "number": 1, "switch": A,
     "asked": ("want", (0, 1)), "line": [], "telling": "each", "mutes": (A,), "trial": (A,), "heard": [], "trials": [],
     "some": (A,), "caps": [1], "turn": ((1, 0), ((1, 0), (0, 1))), "then": ((0, 1), ((1, 0), (0, 1))),
+    "fit": ((1, 0), ((1, 0), (0, 1))), "keeping": ((),), "gain": 1, "price": 2, "budget": 3,
 }
 
 # Right arguments for functions whose arguments of these names are others than above.
@@ -90,6 +103,8 @@ OWN = {
     "longer": {"keeping": ahead_keeping(plain(2, 2), ((2,),), 1, 1)}, "way_left": {"tree": way_tree(plain(2, 2), (1,), 1)},
     "effect": {"row": (("end", (0, 1), 0),)}, "to_answer": {"position": ((A,), ())},
     "break_answers": {"position": ((A,), ())},
+    "fitted_keeping": {"keeping": greatest_keeping(plain(2, 2), ((2,),), 1, ())},
+    "doom_back": {"frame": ((3,),), "doom": doom(crossed(2, 2), ((3,),), 1, ())},
 }
 
 
