@@ -54,7 +54,7 @@ class BreakTable:
     """All positions and what is to be answered there.
 
     lots, marks: for each position what is gone and the wires, as lots of the finder. groups: from pairs of a lot gone
-    and a load to the ascending numbers of the positions that have both. asked: for each position the ascending list
+    and a load to the ascending numbers of the positions that have both. due: for each position the ascending list
     of what is to be answered there.
     """
 
@@ -71,7 +71,7 @@ class BreakTable:
         for k, load in enumerate(self.loads):
             self.groups.setdefault((self.lots[k], load), []).append(k)
         wanted = Wanted(box, frame)
-        self.asked = [asked_at(box, number, wanted, position) for position in self.positions]
+        self.due = [asked_at(box, number, wanted, position) for position in self.positions]
 
     def choices_at(self, k, asked):
         """The pair of the wires that may be moved, as a lot, and the numbers of the positions that may answer."""
@@ -112,7 +112,7 @@ class BreakFalls:
         seekers = Seekers(table.marks, moves)
         owners = []
         lost = []
-        for k, asked in enumerate(table.asked):
+        for k, asked in enumerate(table.due):
             for one in asked:
                 own, choices = table.choices_at(k, one)
                 owners.append((k, one))

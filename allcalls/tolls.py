@@ -27,7 +27,7 @@ def check_toll_game(box, frame):
 class Tolls:
     """All standings, what is asked there, and what the answers cost; TooMany(200) if there are more standings.
 
-    ways: the standings. place: from each to its number. asked: for each number the askings. behind: for each number
+    ways: the standings. place: from each to its number. due: for each number the askings. behind: for each number
     and each of its askings the pairs of the number of an answer and its cost.
     """
 
@@ -36,11 +36,11 @@ class Tolls:
         table = Table(box, frame)
         self.ways = table.ways
         self.place = table.place
-        self.asked = []
+        self.due = []
         self.behind = []
         for k, way in enumerate(table.ways):
             wants = table.wants[table.loads[k]]
-            self.asked.append([("end", switch) for switch in way] + [("want", pair) for pair in wants])
+            self.due.append([("end", switch) for switch in way] + [("want", pair) for pair in wants])
             rows = [[(other, 0)] for other in table.ends[k]]
             for pair in wants:
                 group = table.groups[one_more(box.sides, table.loads[k], pair)]
@@ -50,7 +50,7 @@ class Tolls:
     def answers_at(self, standing, asking):
         """The list of the pairs of the number of an answer and its cost."""
         k = self.place[standing]
-        return self.behind[k][self.asked[k].index(asking)]
+        return self.behind[k][self.due[k].index(asking)]
 
 
 def least_sum(answers, scale, sums):

@@ -6,6 +6,7 @@ What is written down here goes over everything there is, one by one, and is not 
 from itertools import combinations
 
 from allcalls.boxes import Box, plain
+from allcalls.exchange import Exchange
 
 # None of these is right for any parameter that names an error.
 WRONG = [
@@ -24,7 +25,9 @@ def deep(levels):
 
 def any_values():
     """Values of all kinds, none of which is a paper of any kind."""
+    one = Exchange(plain(2, 1), ((1,),), 0, 0)
     return [thing for thing in WRONG if thing not in (None, [], {}, {(): ()})] + [
+        one, [one], (one, one), {"a": one}, {(): one},
         deep(80), Box(2, 1, ()), [Box(2, 1, ())], (plain(2, 1),), {"a": plain(2, 1)}, 7, "full", ("full", "full"),
         [None], (True, True), ((None, None), (None, None)), {1: {}}, {True: ()}, {None: None},
     ]

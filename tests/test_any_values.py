@@ -12,14 +12,21 @@ from allcalls.breaks import are_frame_trees, breaks, frame_trees, is_way_tree, l
 from allcalls.budgets import budgets, is_budgets, is_ruin, ruin
 from allcalls.bursts import burst_answers, burst_doom, burst_keeping, bursts, is_burst_doom, is_burst_keeping
 from allcalls.dooms import doom
-from allcalls.errors import (BadAsking, BadBurst, BadCaps, BadDoom, BadFit, BadFrame, BadHeard, BadKeeping, BadLine,
-                             BadLoad, BadLot, BadMutes, BadPair, BadPosition, BadRow, BadSome, BadStanding, BadSwitch,
-                             BadTree, BadTrial, BadTrials, BadTurn, BadWay)
+from allcalls.errors import (BadAnswer, BadAsking, BadBurst, BadCaps, BadDoom, BadExchange, BadFit, BadFrame, BadHeard,
+                             BadKeeping, BadLine, BadLoad, BadLot, BadMutes, BadPair, BadPosition, BadRow, BadSome,
+                             BadStanding, BadSwitch, BadSwitches, BadText, BadTree, BadTrial, BadTrials, BadTurn, BadWay,
+                             BadWish)
+from allcalls.exchange import Exchange
+from allcalls.fewest import is_short_tree, meets, short_tree
 from allcalls.fits import doom_back, fitted_frame, fitted_keeping, is_fit
 from allcalls.foreseen import behind, dead_row, family, is_dead, is_family
+from allcalls.hearsay import is_fence, is_run, may_stand, run_through
 from allcalls.hunts import foe, is_trials_paper, suspects, trials_paper
 from allcalls.partings import is_bar_of, is_parting, parting
+from allcalls.prices import are_prices, fewest_moved
 from allcalls.refuges import are_perils, is_refuge, perils
+from allcalls.texts import exchange_text, read_exchange
+from allcalls.trades import are_trade_papers, trade_papers
 from allcalls.trials import left, told, twins
 from allcalls.tries import are_tries, is_shield, tries
 from allcalls.worths import cheap, high_paper, is_high, is_low, low_paper
@@ -38,11 +45,15 @@ HEARD = [((A, B), True), ((A,), True)]
 B_BOX = Box(3, 2, (A, ((0, 0), (2, 0)), B, ((1, 1), (2, 0))))
 B_FRAME = ((1, 0, 1), (1, 1, 0))
 
+# Something is asked of it.
+ASKED = Exchange(TWO, ((2,),), 0, 1)
+ASKED.ask(WANT)
+
 ANY = [
     None, True, False, 0, 1, -1, 10 ** 9 - 1, "", "want", "share", "numbers", "mutes", (), [], {}, EMPTY, (EMPTY,),
     {"a": EMPTY}, ((EMPTY,), EMPTY), (None,), {None: None}, {True: 1}, A, [[0, 0], [1, 0]], ((0, 0), (1, True)), WANT,
     ("end", A), (0, WANT), deep(80), ((), ()), (((),),), {(): ()}, ("numbers", (1,)), ("numbers", {(): 1}),
-    ("mutes", ()), ("share", A),
+    ("mutes", ()), ("share", A), ASKED, {"a": ASKED}, ((ASKED,), ASKED),
 ]
 
 # Judges, what they are asked besides, and a thing that is right.
@@ -73,7 +84,31 @@ PAPERS = [
     (is_ruin, (B_BOX, B_FRAME, 0, 1, 0), ruin(B_BOX, B_FRAME, 0, 1, 0)),
     (is_refuge, (TWO, ((1,),), 0, 1), (((A,), ()), ((A,), (B,)))),
     (are_perils, (ONE, ((1,),), 0, 1), perils(ONE, ((1,),), 0, 1)),
+    (is_run, (TWO, ((2,),), 0, [WANT, ("end", A)]), [(), (A,), ()]),
+    (is_fence, (TWO, ((2,),), 0, [WANT, ("end", B), WANT], 1, (A, B)), ("before", [[()], [(A,), (B,)]])),
+    (is_fence, (TWO, ((2,),), 0, [WANT, ("end", B), WANT], 1, (A,)), ("behind", [[(A,)], [], []])),
+    (are_prices, (TWO, ((2,),), 0, [WANT, ("break", A)], 0), [{(): 0}, {(A,): 0, (B,): 0}, {(B,): 0}]),
+    (is_short_tree, (2, 2, ((2,),), ("live", 0), 2), short_tree(2, 2, ((2,),), ("live", 0), 2)),
+    (is_short_tree, (2, 1, ((1,),), ("loads",), 1), ((), {A: []})),
+    (are_trade_papers, (2, 2, ((2,),)), trade_papers(2, 2, ((2,),))),
 ]
+
+
+def ask(thing):
+    other = ASKED.copy()
+    other.undo()
+    other.ask(thing)
+
+
+def answer(thing):
+    ASKED.copy().answer(thing)
+
+
+def relay(thing):
+    other = ASKED.copy()
+    other.answer((B,))
+    other.relay(thing)
+
 
 # Functions, what stands ahead of a right argument, the argument, what stands behind it, and what else is raised.
 ARGUMENTS = [
@@ -110,6 +145,18 @@ ARGUMENTS = [
     (cheap, (TWO, ((2,),)), (A,), (WANT,), BadStanding),
     (cheap, (TWO, ((2,),), (A,)), ("end", A), (), BadAsking),
     (low_paper, (TWO, ((2,),)), (1, 2), (), BadPair),
+    (may_stand, (TWO, ((2,),), 0), [WANT, ("end", A), ("break", B)], (), BadHeard),
+    (run_through, (TWO, ((2,),), 0, [WANT], 1), (A,), (), BadStanding),
+    (fewest_moved, (TWO, ((2,),), 0), [WANT, ("end", A), ("break", B)], (), BadHeard),
+    (meets, (2, 2, ((2,),)), ("live", 0), ((A,),), BadWish),
+    (meets, (2, 2, ((2,),), ("live", 0)), (A, B), (), BadSwitches),
+    (Exchange, (TWO,), ((2,),), (0, 1), BadFrame),
+    (ask, (), WANT, (), BadAsking),
+    (ask, (), ("break", A), (), BadAsking),
+    (answer, (), (A,), (), BadAnswer),
+    (relay, (), (A,), (), BadStanding),
+    (exchange_text, (), ASKED, (), BadExchange),
+    (read_exchange, (), "box 2 1 none\nframe 1\nmoves 0 breaks 0", (), BadText),
 ]
 
 

@@ -39,13 +39,26 @@ INTERFACE = {
     "worths": "worth cheap is_low is_high low_paper high_paper",
     "budgets": "least_budget budgets is_budgets ruin is_ruin",
     "refuges": "safe_positions perils is_refuge are_perils",
+    "exchange": "Exchange",
+    "hearsay": "is_run may_stand surely run_through fence is_fence",
+    "prices": "fewest_moved most_moved calm_run prices are_prices",
+    "texts": "exchange_text read_exchange",
+    "fewest": "meets fewest_switches least_lots great_lots short_tree is_short_tree",
+    "trades": "trade trade_papers are_trade_papers",
+}
+
+# The methods that the interface names; they stand in the class itself.
+METHODS_TOLD = {
+    "Box": "__init__ __eq__",
+    "Exchange": "__init__ __eq__ __len__ ask answer relay undo position asked log moved heard copy is_safe advice peril"
+                " repair",
 }
 
 # The interface's modules and, among them, those that are the program's own, each behind all that it imports from.
 ORDER = """errors kinds packs boxes counts ways frames reach loads tallies wholes splits games keepings dooms stricts
 rules seats shelves ages plans aheads foreseen effects blocks seekers swarms bursts finders sheaves breakers lottables breaks
 breaktables breakgames trials packings mixers parters bearings partings hunts covers tries alikes likes
-fits tolls worths budgets refuges"""
+fits tolls worths budgets refuges outlooks exchange hearings hearsay prices texts wishes fewest trades"""
 
 LIBRARY = {"itertools": {"combinations", "permutations"}, "math": {"comb", "factorial", "gcd", "perm"}, "heapq": {"heappop", "heappush"}}
 
@@ -192,6 +205,7 @@ class Form(unittest.TestCase):
         everywhere = set().union(*every.values())
         for path in files():
             told = set(INTERFACE.get(path.stem, "").split())
+            told |= {name for one in told for name in METHODS_TOLD.get(one, "").split()}
             for node in ast.walk(tree_of(path)):
                 own = isinstance(node, (ast.FunctionDef, ast.ClassDef)) and not node.name.startswith("__")
                 if own and path.stem != "errors" and node.name not in told:
@@ -202,6 +216,10 @@ class Form(unittest.TestCase):
             body = tree_of(PACKAGE / (module + ".py")).body
             made = {node.name for node in body if isinstance(node, (ast.FunctionDef, ast.ClassDef))}
             self.assertLessEqual(set(names.split()), made)
+            for node in body:
+                if isinstance(node, ast.ClassDef) and node.name in METHODS_TOLD:
+                    own = {item.name for item in node.body if isinstance(item, ast.FunctionDef)}
+                    self.assertLessEqual(set(METHODS_TOLD[node.name].split()), own)
 
     def test_names(self):
         for path in files():

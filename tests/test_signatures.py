@@ -8,6 +8,7 @@ from allcalls.aheads import ahead_keeping
 from allcalls.boxes import Box, crossed, plain
 from allcalls.breaks import way_tree
 from allcalls.dooms import doom
+from allcalls.exchange import Exchange
 from allcalls.keepings import greatest_keeping
 
 SIGNATURES = {
@@ -82,6 +83,19 @@ SIGNATURES = {
                " is_ruin(box, frame, gain, price, budget, thing)",
     "refuges": "safe_positions(box, frame, moves, number); perils(box, frame, moves, number);"
                " is_refuge(box, frame, moves, number, thing); are_perils(box, frame, moves, number, thing)",
+    "exchange": "Exchange(box, frame, moves, number)",
+    "hearsay": "is_run(box, frame, moves, heard, thing); may_stand(box, frame, moves, heard);"
+               " surely(box, frame, moves, heard, at); run_through(box, frame, moves, heard, at, standing);"
+               " fence(box, frame, moves, heard, at, standing); is_fence(box, frame, moves, heard, at, standing, thing)",
+    "prices": "fewest_moved(box, frame, moves, heard); most_moved(box, frame, moves, heard);"
+              " calm_run(box, frame, moves, heard); prices(box, frame, moves, heard, number);"
+              " are_prices(box, frame, moves, heard, number, thing)",
+    "texts": "exchange_text(exchange); read_exchange(text)",
+    "fewest": "meets(sides, tracks, frame, wish, switches); fewest_switches(sides, tracks, frame, wish);"
+              " least_lots(sides, tracks, frame, wish); great_lots(sides, tracks, frame, wish);"
+              " short_tree(sides, tracks, frame, wish, number); is_short_tree(sides, tracks, frame, wish, number, thing)",
+    "trades": "trade(sides, tracks, frame); trade_papers(sides, tracks, frame);"
+              " are_trade_papers(sides, tracks, frame, thing)",
 }
 
 A = ((0, 0), (1, 0))
@@ -96,6 +110,8 @@ RIGHT = {
     "asked": ("want", (0, 1)), "line": [], "telling": "each", "mutes": (A,), "trial": (A,), "heard": [], "trials": [],
     "some": (A,), "caps": [1], "turn": ((1, 0), ((1, 0), (0, 1))), "then": ((0, 1), ((1, 0), (0, 1))),
     "fit": ((1, 0), ((1, 0), (0, 1))), "keeping": ((),), "gain": 1, "price": 2, "budget": 3,
+    "at": 0, "exchange": Exchange(plain(2, 2), ((2,),), 0, 1), "text": "box 2 1 none\nframe 1\nmoves 0 breaks 0",
+    "wish": ("live", 1),
 }
 
 # Right arguments for functions whose arguments of these names are others than above.
@@ -104,6 +120,7 @@ OWN = {
     "effect": {"row": (("end", (0, 1), 0),)}, "to_answer": {"position": ((A,), ())},
     "break_answers": {"position": ((A,), ())},
     "fitted_keeping": {"keeping": greatest_keeping(plain(2, 2), ((2,),), 1, ())},
+    "run_through": {"standing": ()}, "fence": {"standing": ()}, "is_fence": {"standing": ()},
     "doom_back": {"frame": ((3,),), "doom": doom(crossed(2, 2), ((3,),), 1, ())},
 }
 
@@ -143,6 +160,21 @@ class Signatures(unittest.TestCase):
                 name, words = told.strip()[:-1].split("(")
                 if words.split(", ")[-1] == "thing":
                     self.assertIs(getattr(held, name)(*right_for(name, words).values()), False, name)
+
+    def test_methods(self):
+        methods = ("ask(self, asked); answer(self, standing); relay(self, standing); undo(self); position(self); asked(self);"
+                   " log(self); moved(self); heard(self); copy(self); is_safe(self); advice(self); peril(self); repair(self);"
+                   " __len__(self); __eq__(self, other)")
+        for told in methods.split(";"):
+            name, words = told.strip()[:-1].split("(")
+            self.assertIn(name, vars(Exchange))
+            self.assertEqual(list(inspect.signature(vars(Exchange)[name]).parameters), words.split(", "))
+
+    def test_objects_of_the_package(self):
+        one = Exchange(frame=((2,),), box=plain(2, 2), number=1, moves=0)
+        self.assertEqual((one.box, one.frame, one.moves, one.number), (plain(2, 2), ((2,),), 0, 1))
+        box = Box(tracks=2, switches=(A,), sides=3)
+        self.assertEqual((box.sides, box.tracks, box.switches), (3, 2, (A,)))
 
     def test_box_has_its_own_equality(self):
         self.assertIn("__eq__", vars(Box))
