@@ -215,7 +215,7 @@ def are_falls(box, frame, moves, number, thing):
 def is_break_doom(box, frame, moves, number, thing):
     """Whether any value is a doom."""
     check_break_game(box, frame, moves, number)
-    return are_falls(box, frame, moves, number, thing) and ((), ()) in thing
+    return isinstance(thing, dict) and ((), ()) in thing and are_falls(box, frame, moves, number, thing)
 
 
 def least_break_moves(box, frame, number):

@@ -78,7 +78,8 @@ def switches_by_side(box):
 def orders_of(many, chosen):
     """The ascending list of the tuples of so many different numbers out of the first many ones."""
     places = int(chosen)
-    return list(permutations(list(range(many)), places))
+    numbers = list(range(many))
+    return list(permutations(numbers, places))
 
 
 def rows_from(one, other, sides):

@@ -29,12 +29,14 @@ def check_shapes(one, other):
 
 def all_turns(sides, tracks):
     """The ascending list of all turns of so many sides and tracks."""
-    orders = list(permutations(list(range(tracks))))
+    every_side = list(range(sides))
+    every_track = list(range(tracks))
+    orders = list(permutations(every_track))
     rows = [()]
     for _ in range(sides):
         rows = [row + (order,) for row in rows for order in orders]
     found = []
-    for order in list(permutations(list(range(sides)))):
+    for order in permutations(every_side):
         found.extend([(order, row) for row in rows])
     return found
 

@@ -1,7 +1,7 @@
 """Which loads a box carries: ways for them, or bars against them."""
 
 from allcalls.boxes import check_box, is_pin, pieces
-from allcalls.counts import check_load
+from allcalls.counts import check_load, no_wires
 from allcalls.errors import BadPiece
 from allcalls.kinds import is_row, is_tuple_of
 from allcalls.packs import first_over, lanes
@@ -66,7 +66,7 @@ def bar(box, load):
     reach = Reach(box, False)
     if reach.is_in_reach(load):
         return None
-    return [told_wide(step, reach.many) for step in reach.steps]
+    return [[no_wires(box.sides)]] + [told_wide(step, reach.many) for step in reach.steps[1:]]
 
 
 def wide_pack(many, thing):

@@ -30,10 +30,8 @@ def unit(many, place):
 
 def lanes(many, width, number):
     """The packed load that has the number so many times, so many bits for each."""
-    found = 0
-    for _ in range(many):
-        found = (found << width) | number
-    return found
+    # The quotient has just a 1 so many times.
+    return ((1 << (width * many)) - 1) // ((1 << width) - 1) * number
 
 
 def guards(many):

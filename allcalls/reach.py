@@ -34,6 +34,9 @@ def narrow(load):
 
 def told_wide(packs, many):
     """The list of the loads of so many numbers that are packed."""
+    if many == 3:
+        # Boxes of three sides are asked for most, and three numbers come fastest one by one.
+        return [(pack >> 2 * SPAN, (pack >> SPAN) & HIGHEST, pack & HIGHEST) for pack in packs]
     shifts = list(range(SPAN * (many - 1), -1, -SPAN))
     return [tuple([(pack >> shift) & HIGHEST for shift in shifts]) for pack in packs]
 
@@ -99,8 +102,14 @@ class Wiring:
 
     def greatest_in(self, k):
         """The dict from the greatest packed loads of ways of the piece k, ascending, to such ways, as bits if told."""
+        if self.many == 1:
+            ways = self.ways_over(self.rows[k])
+            if len(ways) == 1:
+                return ways
         if k not in self.great and self.has_few_ways(self.rows[k]):
             ways = self.full_ways(self.rows[k])
+            if len(ways) == 1:
+                return ways
             return {load: ways[load] for load in greatest_packed(list(ways), self.many, self.width)}
         great = self.great[k] if k in self.great else GreatPiece(self, self.rows[k])
         ways = great.all_loads()
@@ -117,6 +126,20 @@ class Wiring:
         pins = {pin: True for k in row for pin in self.switches[k]}
         return len(pins) <= FEW_IN_PIECE
 
+    def ways_over(self, row):
+        """Between two sides: the dict from a load to a way that takes all lesser pins of a piece; {} if none is seen.
+
+        Each switch that can be is taken, one behind the other. No way of the piece has more wires than this one.
+        """
+        way = 0
+        for k in row:
+            if not way >> k & 1:
+                way = (way | self.covers[k]) + self.wires[k]
+        lows = {self.switches[k][0]: True for k in row}
+        load = way >> self.high
+        own = way ^ (load << self.high)
+        return {load: own >> len(self.covers)} if load == len(lows) else {}
+
     def full_ways(self, row):
         """The dict from the packed loads of ways of a piece, to which no switch of it can be added, to such ways."""
         covers = self.covers
@@ -132,6 +155,8 @@ class Wiring:
             ways += [(way | cover) + wire for way in ways if not way & bit]
         many = len(covers)
         high = self.high
+        if high == many:
+            return {way >> high: 0 for way in ways if way & every == every}
         own = (1 << (high - many)) - 1
         return {way >> high: (way >> many) & own for way in ways if way & every == every}
 

@@ -139,30 +139,34 @@ def longest(rows, take, give):
 
 
 def fine(tolls):
-    """How many fine parts each part of a cost is cut into: an asking takes one, and no path that is short takes all."""
+    """How many fine parts each part of a cost is cut into: more than there are steps on a path without a round."""
     return len(tolls.ways) + 1
+
+
+def better_row(rows, row, take, needs):
+    """For each asking of a standing the answer chosen, with its cost, or another one with which less is needed."""
+    found = []
+    for answers, (other, cost) in zip(rows, row):
+        is_best = least_sum(answers, take, needs) == take * cost + needs[other]
+        found.append((other, cost) if is_best else best_of(answers, take, needs))
+    return found
 
 
 def fine_needs(tolls, worth, up, down):
     """For each standing the least need in fine parts, if each asking gives up and each wire takes down.
 
-    The worth is not above up / down. Each asking takes a fine part less, so no round is even, and what cannot be made
-    better by one other answer is the least.
+    The worth is not above up / down. Each asking gives a fine part more, so no round is even, and what no other answer
+    alone makes better is the least.
     """
-    chosen = [list(row) for row in worth.chosen]
+    chosen = worth.chosen
     give = fine(tolls) * up + 1
     take = fine(tolls) * down
     while True:
         needs = longest(chosen, take, give)
-        is_new = False
-        for rows, row in zip(tolls.behind, chosen):
-            for place, answers in enumerate(rows):
-                other, cost = row[place]
-                if least_sum(answers, take, needs) < take * cost + needs[other]:
-                    row[place] = best_of(answers, take, needs)
-                    is_new = True
-        if not is_new:
+        better = [better_row(rows, row, take, needs) for rows, row in zip(tolls.behind, chosen)]
+        if better == chosen:
             return needs
+        chosen = better
 
 
 def least_needs(tolls, up, down):

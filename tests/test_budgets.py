@@ -156,6 +156,22 @@ class Budgets(unittest.TestCase):
             self.assertIs(is_ruin(*told, budget, thing), judged)
             seen[2 + judged] += 1
 
+    def test_ranks_in_any_order(self):
+        """A key with more left may have a lesser rank than one with less left, and stand for it."""
+        for box, frame, _ in DEAR[:2]:
+            costs = costs_of(game_of(box, frame, 99))
+            for budget in (5, 9):
+                # Those of a ruin for 1 more stand for those with less left, behind which others rank higher.
+                thing = {key: 10 ** 6 + rank for key, rank in ruin(box, frame, 1, 5, budget).items()}
+                thing.update({key: 10 ** 7 + rank for key, rank in ruin(box, frame, 1, 5, budget + 3).items()})
+                thing.update(ruin(box, frame, 1, 5, budget + 1))
+                thing[((), budget)] = thing[((), budget + 1)]
+                self.assertTrue(judged_ruin(costs, 1, 5, budget, thing))
+                self.assertIs(is_ruin(box, frame, 1, 5, budget, thing), True)
+                thing[((), budget)] = 1
+                self.assertFalse(judged_ruin(costs, 1, 5, budget, thing))
+                self.assertIs(is_ruin(box, frame, 1, 5, budget, thing), False)
+
     def test_long_runs(self):
         for rnd, box, frame, costs in every_game(1406):
             for gain, price in some_prices(rnd, worth(box, frame)):

@@ -260,7 +260,8 @@ class Trees(unittest.TestCase):
                  ((C, A), right[1]), ([A, C], right[1]), ((A, C), {D: [(D, B)], B: None}), [(A, C), [D, B]], [(A, C), (B, D)],
                  ((A, C), list(right[1])), ((A, C), {D: [(D, B)], B: [(A, B)]}), ((A, C), {D: [(D, B)], B: [(A, C)]}),
                  [(A, C), (D, B), None], ((A, C), {D: [(D, B)], 0: []}), ((A, C), {D: [(D, B)], ((0, 2), (1, 0)): []}),
-                 [(A, C), (D, B), ((0, 2), (1, 0))], {}, None, {A: []}]
+                 [(A, C), (D, B), ((0, 2), (1, 0))], {}, None, {A: []}, ((A, C), {D: [(D, B)], A: [(A, C)]}),
+                 ((A, C), {C: [(A, C)], A: [(A, C)]})]
         things = [thing for thing in untrue(right) + listed(right) if thing != right]
         for thing in wrong + things + any_values() + [deep(80)]:
             self.assertIs(is_short_tree(*told, thing), thing == ((A, C), {D: [(D, B)], B: ((D, B), {A: [], C: []})}), thing)

@@ -99,6 +99,11 @@ class Fits(unittest.TestCase):
                  (right[0], ((1, 0, 2), (0, 2))), (right[0], ((-1, 0), (0, 2))), (right[0], None), right[::-1]]
         for thing in wrong + untrue(right) + listed(right) + any_values():
             self.assertIs(is_fit(one, other, thing), False, thing)
+        # Without switches any different sides and tracks do, but nothing else.
+        none, wide = Box(2, 2, ()), Box(3, 3, ())
+        self.assertIs(is_fit(none, wide, right), True)
+        for thing in wrong + untrue(right) + listed(right) + any_values():
+            self.assertIs(is_fit(none, wide, thing), False, thing)
         self.assertIs(is_fit(one, plain(3, 3), right), False)
         self.assertIs(is_fit(one, plain(3, 3), ((2, 0), ((1, 0), (1, 0)))), True)
 

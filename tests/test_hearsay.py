@@ -253,23 +253,33 @@ class Runs(unittest.TestCase):
         box, frame = full(2, 5), ((3,),)
         heard = [WANT, WANT, WANT, ("break", A), ("end", B), ("break", C), WANT]
         for moves in (0, 1, 2, 3):
-            rows = may_stand(box, frame, moves, heard)
-            ways = standings(box, frame)
-            here = {()}
-            for at in range(len(heard)):
-                here = {other for way in here for other in self.answered(moves, heard, at, way, ways)}
-                self.assertLessEqual(set(rows[at + 1]), here)
-            self.assertEqual(set(rows[-1]), here)
+            self.all_that_may_stand(box, frame, moves, heard)
+
+    def test_many_wires(self):
+        far = ("want", (2, 3))
+        heard = [WANT, far] * 4 + [("end", A), WANT, ("end", ((2, 0), (3, 0))), far]
+        for moves in (0, 1, 2, 3, 4, 7):
+            self.all_that_may_stand(plain(4, 5), ((4, 0, 0, 0, 0, 4),), moves, heard)
+
+    def all_that_may_stand(self, box, frame, moves, heard):
+        ways = standings(box, frame)
+        rows = [{()}]
+        for at in range(len(heard)):
+            rows.append({other for way in rows[-1] for other in self.answered(moves, heard, at, way, ways)})
+        found = may_stand(box, frame, moves, heard)
+        for old, new in zip(rows, found):
+            self.assertLessEqual(set(new), old)
+        self.assertEqual(found[-1], sorted(rows[-1]))
 
     def answered(self, moves, heard, at, way, ways):
         gone = gone_at(heard, at + 1)
         word, what = heard[at]
         if word == "end":
             return [tuple(switch for switch in way if switch != what)] if what in way else []
-        size = len(way) + (word == "want")
+        load = [(low[0], high[0]) for low, high in way] + ([what] if word == "want" else [])
         keep = set(way) - {what}
-        return [other for other in ways if len(other) == size and len(keep.difference(other)) <= moves
-                and gone.isdisjoint(other)]
+        return [other for other in ways if len(other) == len(load) and len(keep.difference(other)) <= moves
+                and gone.isdisjoint(other) and sorted(load) == sorted((low[0], high[0]) for low, high in other)]
 
 
 class Judged(unittest.TestCase):

@@ -154,6 +154,18 @@ class Prices(unittest.TestCase):
                 thing = [dict(rnd.sample(list(row.items()), len(row))) for row in thing]
                 self.assertIs(are_prices(*told, number, thing), judged_prices(steps, heard, number, thing))
 
+    def test_calm_runs(self):
+        """What costs as much together, but does not lead there, is no part of a run."""
+        every = [(full(2, 2), ((2,),), 1, [WANT, WANT, ("end", D), ("break", A), ("end", D)]),
+                 (full(2, 2), ((2,),), 20, [WANT, WANT, ("end", C), ("break", C), ("break", A), ("end", B)]),
+                 (full(3, 2), ((0, 2, 2),), 1, [("want", (0, 2)), ("want", (1, 2)), ("end", ((1, 1), (2, 0))),
+                                                ("break", ((0, 1), (2, 0))), ("want", (1, 2))])]
+        for told in every:
+            steps, run = steps_of(*told), calm_run(*told)
+            self.assertTrue(all(run[k + 1] in steps[k][run[k]] for k in range(len(steps))))
+            self.assertEqual(sum(cost_of(item, *pair) for item, pair in zip(told[3], zip(run, run[1:]))),
+                             min(sums_told(steps, told[3], min)[-1].values()))
+
     def test_exchanges(self):
         """What was really moved lies between the least and the greatest sum."""
         between = 0

@@ -38,6 +38,10 @@ DEAR = [
     (Box(3, 3, (((0, 0), (1, 0)), ((0, 0), (2, 2)), ((0, 1), (1, 1)), ((0, 1), (2, 0)), ((0, 2), (1, 2)),
                 ((0, 2), (2, 0)), ((0, 2), (2, 1)), ((1, 0), (2, 0)), ((1, 0), (2, 2)), ((1, 2), (2, 0)),
                 ((1, 2), (2, 1)), ((1, 2), (2, 2)))), ((0, 1, 2), (0, 2, 1)), (1, 8)),
+    (Box(3, 2, (((0, 0), (1, 1)), ((0, 0), (2, 0)), ((0, 1), (1, 0)), ((0, 1), (2, 0)), ((0, 1), (2, 1)),
+                ((1, 0), (2, 1)), ((1, 1), (2, 0)), ((1, 1), (2, 1)))), ((0, 0, 2), (1, 1, 1), (2, 0, 0)), (1, 4)),
+    (Box(3, 3, (((0, 0), (1, 0)), ((0, 1), (2, 0)), ((0, 1), (2, 1)), ((0, 2), (1, 2)), ((0, 2), (2, 1)),
+                ((1, 0), (2, 2)), ((1, 1), (2, 0)), ((1, 1), (2, 1)))), ((1, 0, 2), (1, 1, 1), (1, 2, 0)), (3, 8)),
 ]
 
 # Boxes and frames with just so many standings.
@@ -148,7 +152,7 @@ class Worths(unittest.TestCase):
         self.assertEqual(worth(full(2, 2), ((2,),)), (0, 1))
         for box, frame, told in DEAR:
             self.assertEqual(worth(box, frame), told)
-            self.assertEqual(least_moves(box, frame), 1)
+            self.assertLessEqual(2 * told[0], told[1] * least_moves(box, frame))
         self.assertEqual(cheap(DEAR[0][0], DEAR[0][1], (((0, 0), (1, 0)),), ("want", (0, 2))), 1)
         self.assertEqual(cheap(DEAR[0][0], DEAR[0][1], (((0, 0), (1, 0)),), ("want", (1, 2))), 0)
         self.assertEqual(cheap(plain(2, 2), ((2,),), (), WANT), 0)
@@ -210,6 +214,17 @@ class Worths(unittest.TestCase):
             scale = 9999 // told[1] - 1
             for pair in ((told[0] * scale + 1, told[1] * scale), (told[0] * scale, told[1] * scale)):
                 self.assertEqual(low_paper(box, frame, pair), least_low(costs, pair))
+
+    def test_least_numbers(self):
+        # With more than the worth, other answers may be better than those that cost least on the long run.
+        for box, frame, told in DEAR:
+            costs = costs_of(game_of(box, frame, 99))
+            for pair in pairs_near(told)[:4] + [(told[0] + 1, told[1]), (3, 8), (2, 6), (2, 5), (1, 3), (1, 1)]:
+                low = low_paper(box, frame, pair)
+                if pair[0] * told[1] < told[0] * pair[1]:
+                    self.assertIsNone(low)
+                else:
+                    self.assertEqual(low, least_low(costs, pair))
 
     def test_spoiled_papers(self):
         seen = [0, 0, 0, 0]
