@@ -5,7 +5,7 @@ import unittest
 
 from allcalls.boxes import Box, beside, crossed, full, pieces, plain, without
 from allcalls.errors import BadBox, BadLoad, BadPiece
-from allcalls.frames import is_way, way_load
+from allcalls.frames import greatest_loads, is_way, way_load
 from allcalls.loads import bar, box_frame, is_bar, is_way_for, piece_loads, way_for
 from tests.helpers import (any_values, anew, count_load, every_load, every_way, listed, pairs_of, refuse, some_box,
                            too_many, under, untrue)
@@ -173,6 +173,30 @@ class SmallBoxes(unittest.TestCase):
         self.assertEqual(len(bar(plain(5, 1), (5,) + (0,) * 9)[1]), 15)
         for function, rest in ((bar, ()), (way_for, ())):
             anew(self, function, box, (5, 1, 1, 1, 1, 1), *rest)
+
+    def test_pieces_of_many_switches(self):
+        rnd = random.Random(23)
+        for sides, tracks, many in ((2, 4, 16), (2, 5, 16), (2, 6, 15), (2, 6, 18), (3, 3, 15), (3, 3, 20), (3, 4, 16),
+                                    (3, 6, 15), (4, 2, 20), (4, 3, 16), (4, 5, 14), (5, 2, 18), (5, 3, 15), (5, 6, 15)):
+            switches = full(sides, tracks).switches
+            for _ in range(2):
+                box = Box(sides, tracks, tuple(sorted(rnd.sample(switches, min(many, len(switches))))))
+                self.look_at(rnd, box)
+        # Rows of pins between two sides, some of which stay free whatever is taken.
+        for tracks in (4, 5, 6):
+            for far in range(1, tracks + 1):
+                pins = [((0, track), (1, other)) for track in range(tracks) for other in range(far)]
+                self.look_at(rnd, Box(2, tracks, tuple(pins)))
+                self.look_at(rnd, Box(2, tracks, tuple(sorted(((0, one), (1, two)) for (_, two), (_, one) in pins))))
+
+    def test_what_full_boxes_let(self):
+        for sides, tracks in ((2, 6), (3, 2), (3, 3), (4, 2), (5, 2)):
+            box, let = full(sides, tracks), greatest_loads(sides, tracks)
+            self.assertEqual(box_frame(box), let)
+            for load in let[::3]:
+                self.assertIs(is_way_for(box, load, way_for(box, load)), True)
+                more = (load[0] + 1,) + load[1:]
+                self.assertIs(is_bar(box, more, bar(box, more)), True)
 
     def test_rows_of_switches(self):
         # Pieces that are rows of up to 18 switches, each of which meets the next one.
