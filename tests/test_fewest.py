@@ -10,7 +10,7 @@ from allcalls.fewest import fewest_switches, great_lots, is_short_tree, least_lo
 from allcalls.frames import greatest_loads
 from allcalls.keepings import greatest_keeping
 from allcalls.wholes import missing
-from tests.helpers import (any_values, anew, count_load, deep, every_way, game_of, kept_of, listed, refuse, some_frame,
+from tests.helpers import (any_values, anew, ascending_dict, count_load, deep, every_way, game_of, kept_of, listed, refuse, some_frame,
                            too_many, untrue)
 
 A = ((0, 0), (1, 0))
@@ -239,6 +239,7 @@ class Trees(unittest.TestCase):
             if found is None:
                 continue
             self.assertTrue(judged_tree(sides, tracks, Met(), set(), number, found))
+            self.ascend(found)
             self.assertIs(is_short_tree(sides, tracks, frame, wish, number, found), True)
             seen["tree" if isinstance(found, tuple) else "list"] = seen.get(
                 "tree" if isinstance(found, tuple) else "list", 0) + 1
@@ -247,6 +248,13 @@ class Trees(unittest.TestCase):
                 right = judged_tree(sides, tracks, Met(), set(), number, thing)
                 self.assertIs(is_short_tree(sides, tracks, frame, wish, number, thing), right)
                 seen[right] = seen.get(right, 0) + 1
+
+    def ascend(self, thing):
+        """All dicts of a tree have ascending keys."""
+        if isinstance(thing, tuple):
+            ascending_dict(self, thing[1])
+            for tree in thing[1].values():
+                self.ascend(tree)
 
     def test_any_values(self):
         frame, wish = ((2,),), ("live", 0)
